@@ -1,0 +1,1 @@
+"""Everframe: plans for endless frames of jobs on several queues."""

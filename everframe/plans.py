@@ -1,0 +1,136 @@
+"""Plans: a web with the rows of its queues, waits, a depth and a sharing."""
+
+from everframe.errors import InvalidPlan
+from everframe.groups import checked_sharing
+from everframe.orders import checked_depth, checked_rows, checked_waits, is_wait, ties_of
+from everframe.parsing import parse_plan
+from everframe.texts import show_plan
+from everframe.webs import Web
+
+
+class Plan:
+    """In which order the queues run the jobs of a web, and where the buffers live."""
+
+    MOST_BACK = 4
+
+    def __init__(self, web, *, rows=None, waits=(), depth=None, sharing=None):
+        self._web = web
+        self._rows = checked_rows(web, rows)
+        self._waits = checked_waits(web, waits)
+        self._depth = checked_depth(depth)
+        self._sharing = checked_sharing(web, sharing)
+        self._tie_again()
+
+    @property
+    def web(self):
+        """The web of the plan."""
+        return self._web
+
+    @property
+    def rows(self):
+        """A new dict from the queues that have jobs, ascending, to their rows."""
+        return {queue: self._rows[queue] for queue in self._rows}
+
+    @rows.setter
+    def rows(self, value):
+        self._rows = checked_rows(self._web, value)
+        self._tie_again()
+
+    @property
+    def waits(self):
+        """The ascending tuple of the waits."""
+        return self._waits
+
+    @waits.setter
+    def waits(self, value):
+        self._waits = checked_waits(self._web, value)
+        self._tie_again()
+
+    @property
+    def depth(self):
+        """The depth, or None."""
+        return self._depth
+
+    @depth.setter
+    def depth(self, value):
+        self._depth = checked_depth(value)
+        self._tie_again()
+
+    @property
+    def sharing(self):
+        """The ascending tuple of the groups."""
+        return self._sharing
+
+    @sharing.setter
+    def sharing(self, value):
+        self._sharing = checked_sharing(self._web, value)
+
+    @property
+    def ties(self):
+        """The ascending tuple of the ties that count."""
+        return self._ties
+
+    def set_rows(self, value):
+        """Give the plan other rows."""
+        self.rows = value
+
+    def set_waits(self, value):
+        """Give the plan other waits."""
+        self.waits = value
+
+    def set_depth(self, value):
+        """Give the plan another depth."""
+        self.depth = value
+
+    def set_sharing(self, value):
+        """Give the plan another sharing."""
+        self.sharing = value
+
+    def with_wait(self, wait):
+        """A new plan with this wait."""
+        if not is_wait(self._web, wait):
+            raise InvalidPlan("waits", 0)
+        return self._waiting([*self._waits, wait])
+
+    def without_wait(self, wait):
+        """A new plan without this wait, which the plan must have."""
+        if not is_wait(self._web, wait) or wait not in self._waits:
+            raise InvalidPlan("waits", 0)
+        return self._waiting([one for one in self._waits if one != wait])
+
+    def __contains__(self, x):
+        return x in self._web
+
+    def __len__(self):
+        return len(self._waits)
+
+    def __eq__(self, other):
+        return (
+            isinstance(other, Plan)
+            and self._web == other._web
+            and self._rows == other._rows
+            and self._waits == other._waits
+            and self._depth == other._depth
+            and self._sharing == other._sharing
+        )
+
+    def __repr__(self):
+        return f"Plan({len(self._web)} jobs, {len(self._waits)} waits)"
+
+    def __str__(self):
+        return str(show_plan(self))
+
+    @classmethod
+    def read(cls, text):
+        """The plan with this text."""
+        jobs, sizes, rows, waits, depth, sharing = parse_plan(text)
+        web = Web(*jobs, sizes=sizes)
+        return cls(web, rows=rows, waits=waits, depth=depth, sharing=sharing)
+
+    def _waiting(self, waits):
+        """A new plan that has these waits, and all else from this one."""
+        return Plan(self._web, rows=self._rows, waits=waits, depth=self._depth, sharing=self._sharing)
+
+    def _tie_again(self):
+        # kept with the plan, since each lead asks for the ties
+        self._ties = ties_of(self._rows, self._waits, self._depth)
