@@ -28,6 +28,21 @@ def checked_sharing(web, sharing):
     return tuple(sorted(groups, key=lambda one: one[1]))
 
 
+def places(sharing):
+    """A dict from each buffer to the index of its group, the count of the group and its shift."""
+    found = {}
+    for at, (count, members) in enumerate(sharing):
+        for buffer, shift in members:
+            found[buffer] = (at, count, shift)
+    return found
+
+
+def slot_at(place, frame):
+    """The group and the slot in which the buffer with this place lives in a frame."""
+    group, count, shift = place
+    return (group, (frame + shift) % count)
+
+
 def _is_group(web, group):
     """Whether any value is a count with different buffers of one size and their shifts."""
     if not isinstance(group, tuple) or len(group) != 2:

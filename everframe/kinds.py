@@ -4,9 +4,14 @@ MAKING = ("make", "keep", "carry")
 OPTIONAL = ("keep", "carry")
 
 
+def is_int(value):
+    """Whether any value is an integer (a bool is none)."""
+    return isinstance(value, int) and not isinstance(value, bool)
+
+
 def within(value, least, most):
-    """Whether any value is an integer from least to most (a bool is none)."""
-    return isinstance(value, int) and not isinstance(value, bool) and least <= value <= most
+    """Whether any value is an integer from least to most."""
+    return is_int(value) and least <= value <= most
 
 
 def is_name(value):

@@ -32,9 +32,14 @@ def lead_table(plan):
     return tuple(rows)
 
 
+def leads_between(plan):
+    """A dict from each two jobs with a way from the first to the second to its lead."""
+    return {(of, job): total for of, job, total, _, _ in lead_table(plan)}
+
+
 def unmet(plan):
     """The ascending tuple of the needs that do not hold."""
-    leads = {(of, job): total for of, job, total, _, _ in lead_table(plan)}
+    leads = leads_between(plan)
     return tuple([need for need in needs(plan.web) if not _holds(need, leads)])
 
 

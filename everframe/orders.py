@@ -1,7 +1,7 @@
 """The orders of a plan: its rows, its waits, its depth, and the ties that follow from them."""
 
 from everframe.errors import InvalidPlan
-from everframe.kinds import within
+from everframe.kinds import is_int, within
 
 MOST_BACK = 4
 MOST_DEPTH = 4
@@ -60,6 +60,19 @@ def ties_of(rows, waits, depth):
     # of the ties between two jobs the greatest comes last and replaces the others
     greatest = {(before, after): lead for before, after, lead in sorted(ties)}
     return tuple([(before, after, greatest[before, after]) for before, after in greatest])
+
+
+def ties_to(ties, job):
+    """The ties that lead to a job."""
+    return [tie for tie in ties if tie[1] == job]
+
+
+def is_tie(ties, value):
+    """Whether any value is one of these ties."""
+    if not isinstance(value, tuple) or len(value) != 3:
+        return False
+    # False is no lead, though it equals 0
+    return is_int(value[2]) and value in ties
 
 
 def _depth_ties(rows, depth):

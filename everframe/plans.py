@@ -98,6 +98,10 @@ class Plan:
             raise InvalidPlan("waits", 0)
         return self._waiting([one for one in self._waits if one != wait])
 
+    def twin(self):
+        """Another plan that is equal to this one."""
+        return self._waiting(self._waits)
+
     def __contains__(self, x):
         return x in self._web
 

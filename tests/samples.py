@@ -2,6 +2,7 @@
 
 import random
 
+from everframe.errors import InvalidCertificate
 from everframe.plans import Plan
 from everframe.webs import Web
 
@@ -133,3 +134,11 @@ def random_sharing(rng, web):
 def rng_of(seed):
     """Random numbers that are the same in each run of the tests."""
     return random.Random(seed)
+
+
+def told(check, *parts):
+    """What a check says: True, or the reason and the place of the certificate's fault."""
+    try:
+        return check(*parts)
+    except InvalidCertificate as error:
+        return (error.reason, error.where)

@@ -2,35 +2,44 @@
 
 import unittest
 
+from everframe.costs import clashes, cost, cost_table
 from everframe.errors import InvalidText, InvalidWeb
+from everframe.flowcheck import check_flow
 from everframe.flows import flow
-from everframe.leading import closed_lot, lead, way
+from everframe.leadcheck import check_leads
+from everframe.leading import closed_lot, lead, lead_table, way
 from everframe.leads import Lead, along, best
 from everframe.needs import needs
+from everframe.paces import Ahead, Behind, Listed, Pace, beginning
 from everframe.plain import plain_content, plain_run
 from everframe.plans import Plan
+from everframe.runs import Run
+from everframe.sharings import apart, is_sharing, slot_of
+from everframe.slots import fewest_slots
 from everframe.texts import show_plan
+from everframe.verdictcheck import check_verdict
+from everframe.verdicts import faults, verdict
 from everframe.webs import Web
-from tests.samples import C, E1, E2, P1, P2, U
+from tests.samples import C, E1, E2, G2, P1, P2, U, caught, told
 
 
 class TestExamples(unittest.TestCase):
     def test_leads(self):
         a, b = Lead(-1), Lead()
-        told = [
+        values = [
             a * Lead(-2), a * b, a + b, b == Lead(), bool(b), bool(Lead(0)), str(b), along(a, a), best(),
             best(a, Lead(-3)),
         ]
-        self.assertEqual(repr(told), (
+        self.assertEqual(repr(values), (
             "[Lead(-3), Lead(None), Lead(-1), True, False, True, 'none', Lead(-2), Lead(None), Lead(-1)]"
         ))
 
     def test_webs(self):
-        told = [
+        found = [
             E2.jobs, E2.buffers, E2.queues, E2.uses_of("h"), E2.maker("x"), E2.size("x"),
             E2.can_be_left_out("w"), len(E2),
         ]
-        self.assertEqual(repr(told), (
+        self.assertEqual(repr(found), (
             "[('w', 'v', 't', 'y'), ('h', 'x'), (0, 1), (('w', 0, 'make'), ('v', 1, 'read')), 't', 1, False, 4]"
         ))
         for jobs, reason in (
@@ -46,10 +55,10 @@ class TestExamples(unittest.TestCase):
             ("w", 0, ()), ("v", 0, ()), ("t", 0, ()), ("y", 0, (("x", 0, ("t", 0, "x")),)), ("w", 1, ()),
             ("v", 1, (("h", 0, ("w", 0, "h")),)), ("t", 1, ()), ("y", 1, (("x", 1, ("t", 1, "x")),)),
         ])
-        told = [
+        found = [
             plain_content(C, "h", 3, left_out=[("w", 3), ("w", 2)]), plain_content(C, "h", 0, left_out=[("w", 0)]),
         ]
-        self.assertEqual(told, [("w", 1, "h"), None])
+        self.assertEqual(found, [("w", 1, "h"), None])
         self.assertEqual(list(plain_run(C, frames=2, left_out=(("w", 1),))), [
             ("w", 0, ()), ("v", 0, ()), ("w", 1, (("h", 0, ("w", 0, "h")),)), ("v", 1, (("h", 0, ("w", 0, "h")),)),
         ])
@@ -62,8 +71,8 @@ class TestExamples(unittest.TestCase):
         self.assertEqual(needs(U), (("m", "u", 0), ("m", "x", 0), ("u", "z", 2), ("x", "u", 0)))
 
     def test_plans(self):
-        told = [P2.rows, P2.ties, len(P2), "w" in P2, P2.without_wait(("w", "y", 1)).waits]
-        self.assertEqual(told, [
+        found = [P2.rows, P2.ties, len(P2), "w" in P2, P2.without_wait(("w", "y", 1)).waits]
+        self.assertEqual(found, [
             {0: ("w",), 1: ("v", "t", "y")},
             (("t", "y", 0), ("v", "t", 0), ("w", "v", -1), ("w", "w", -1), ("y", "v", -1), ("y", "w", -1)),
             2, True, (("v", "w", 1),),
@@ -74,12 +83,83 @@ class TestExamples(unittest.TestCase):
         ))
 
     def test_leading(self):
-        told = [lead(P2, "v", "w"), lead(P2, "t", "w"), lead(P2, "w", "w"), way(P2, "v", "w")]
-        self.assertEqual(told, [-1, -1, -1, (("v", "t", 0), ("t", "y", 0), ("y", "w", -1))])
+        found = [lead(P2, "v", "w"), lead(P2, "t", "w"), lead(P2, "w", "w"), way(P2, "v", "w")]
+        self.assertEqual(found, [-1, -1, -1, (("v", "t", 0), ("t", "y", 0), ("y", "w", -1))])
         self.assertEqual(closed_lot(P2, "v", 1, 2), (("t", 0), ("v", 0), ("w", 0), ("w", 1), ("y", 0)))
 
     def test_flows(self):
         self.assertEqual([flow(P1)[0], flow(P1.with_wait(("a", "f", 0)))[0]], ["timetable", "ring"])
+
+    def test_leadcheck(self):
+        self.assertIs(check_leads(P2, lead_table(P2)), True)
+
+    def test_flowcheck(self):
+        self.assertIs(check_flow(P1, ("timetable", (0, 1, 2, 1, 2, 3), 4)), True)
+        self.assertEqual(told(check_flow, P1, ("timetable", (0, 1, 2, 1, 2, 3), 3)), ("tie", 7))
+        self.assertEqual(told(check_flow, P1, ("ring", (("a", "b", 0),))), ("ring", 0))
+
+    def test_runs(self):
+        run = Run(P1)
+        found = [run.ready, run.do("a"), run.ready, run.do("d"), run.frame("d"), run.ready, run.content("r", 5)]
+        self.assertEqual(found, [
+            ("a",), (), ("b", "d"), (("r", 0, ("a", 0, "r")),), 1, ("b", "e"), ("a", 0, "r"),
+        ])
+        tight = Plan(E1, waits=P1.waits, sharing=((1, (("r", 0), ("p", 0))), (1, (("s", 0),))))
+        run = Run.after(tight, (("a", 0, False), ("b", 0, False), ("c", 0, False)))
+        self.assertEqual([run.expected("d"), run.do("d"), run.wrong], [
+            (("r", 0, ("a", 0, "r")),), (("r", 0, ("c", 0, "p")),),
+            (("d", 0, ("r", 0, ("c", 0, "p")), ("r", 0, ("a", 0, "r"))),),
+        ])
+        self.assertEqual(caught(run.do, "b"), ("NotReady", "b"))
+
+    def test_paces(self):
+        self.assertEqual([step[:2] for step in beginning(P1, Ahead(0), steps=5)],
+                         [("a", 0), ("b", 0), ("c", 0), ("d", 0), ("e", 0)])
+        self.assertEqual([step[:2] for step in beginning(P1, Behind(0), steps=5)],
+                         [("a", 0), ("d", 0), ("e", 0), ("b", 0), ("c", 0)])
+        self.assertEqual([step[3] for step in beginning(P1, Listed("a", "b", "d"), steps=3)],
+                         [(), (("r", 0, ("a", 0, "r")),), (("r", 0, ("a", 0, "r")),)])
+        error = caught(lambda: list(beginning(P1, Pace(), left_out=(("b", 0),))))
+        self.assertEqual(error, ("CannotLeaveOut", "b"))
+
+    def test_sharings(self):
+        found = [
+            is_sharing(E2, G2), is_sharing(E2, G2 + G2), is_sharing(E2, ((1, (("h", 0), ("x", 1))),)),
+            is_sharing(E2, ()),
+        ]
+        self.assertEqual(found, [True, False, False, False])
+        self.assertEqual([apart(E2, {"h": 2}), apart(E2)], [
+            ((2, (("h", 0),)), (1, (("x", 0),))), ((1, (("h", 0),)), (1, (("x", 0),))),
+        ])
+        self.assertEqual([slot_of(P2, "h", 0), slot_of(P2, "x", 1), slot_of(P2, "x", 10 ** 30)],
+                         [(0, 0), (0, 0), (0, 1)])
+
+    def test_costs(self):
+        self.assertEqual(cost_table(P2), (("h", "h", 2), ("h", "x", 1), ("x", "h", 1), ("x", "x", 1)))
+        self.assertEqual([list(clashes(P2)), list(clashes(Plan(E2, waits=P2.waits)))], [[], [("h", "h", 1)]])
+        loose = Plan(E2, waits=(("v", "w", 1),))
+        self.assertEqual([cost(loose, "h", "h"), cost(loose, "h", "x")], [None, 1])
+
+    def test_verdicts(self):
+        both = ((1, (("r", 0), ("p", 0))), (1, (("s", 0),)))
+        plan = Plan(E1, waits=P1.waits, sharing=both)
+        self.assertEqual(list(faults(plan)), [("clash", "p", "r", 0)])
+        self.assertEqual(verdict(plan), (
+            "wrong", (("a", 0, False), ("b", 0, False), ("c", 0, False), ("d", 0, False)),
+        ))
+        self.assertEqual(verdict(Plan(E1, waits=(("f", "c", 0), ("a", "f", 1)))), ("wrong", (("d", 0, False),)))
+        word, ring = verdict(Plan(E1, waits=(("d", "a", 0), ("a", "d", 0))))
+        self.assertEqual([word, sorted(ring)], ["still", [("a", "d", 0), ("d", "a", 0)]])
+        self.assertEqual(told(check_verdict, plan, ("wrong", (("a", 0, False), ("c", 0, False)))), ("step", 1))
+        self.assertEqual(told(check_verdict, plan, ("wrong", (("a", 0, False), ("b", 0, False)))), ("found", 2))
+
+    def test_slots(self):
+        loose = Plan(E2, waits=(("v", "w", 1),))
+        self.assertEqual([fewest_slots(P2)[:2], fewest_slots(loose)], [("slots", 2), ("endless", "h", "v", ("w",))])
+        web = Web(("w", 0, (("keep", "h"),)), ("v", 1, (("read", "h", 1),)))
+        self.assertEqual([fewest_slots(Plan(web, waits=(("v", "w", 1), ("w", "v", 1)))),
+                          fewest_slots(Plan(web, waits=(("v", "w", 1), ("w", "v", 0))))[:2]],
+                         [("kept", "h", "v"), ("slots", 1)])
 
     def test_texts(self):
         text = (

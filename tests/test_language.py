@@ -46,6 +46,15 @@ INTERFACE = {
     "plans": "Plan",
     "leading": "lead way lead_table unmet closed_lot",
     "flows": "flow",
+    "leadcheck": "check_leads",
+    "flowcheck": "check_flow",
+    "runs": "Run",
+    "paces": "Pace Behind Ahead Listed beginning",
+    "sharings": "is_sharing apart slot_of",
+    "costs": "cost cost_table clashes",
+    "verdicts": "faults verdict",
+    "verdictcheck": "check_verdict",
+    "slots": "fewest_slots",
     "texts": "show_web show_plan",
 }
 CLASSES = {
@@ -58,6 +67,13 @@ CLASSES = {
         "__init__ web rows waits depth sharing ties set_rows set_waits set_depth set_sharing with_wait without_wait "
         "__eq__ __contains__ __len__ __str__ __repr__ read MOST_BACK"
     ),
+    ("runs", "Run"): (
+        "__init__ steps ready wrong frame do leave_out expected content twin after __len__ __eq__ __repr__ MOST_STEPS"
+    ),
+    ("paces", "Pace"): "__call__",
+    ("paces", "Behind"): "__init__ __call__",
+    ("paces", "Ahead"): "__init__ __call__",
+    ("paces", "Listed"): "__init__ __call__",
 }
 
 
@@ -160,6 +176,24 @@ class TestSyntax(unittest.TestCase):
             if isinstance(node.func, ast.Attribute):
                 self.assertIn(node.func.attr, METHODS | own, (name, node.lineno))
                 self.assertNotEqual(node.func.attr, "sort", (name, node.lineno))
+
+    def test_generators_are_iterated_at_once(self):
+        made = {node.name for _, node in walk(ast.FunctionDef) if any(isinstance(one, ast.Yield) for one in ast.walk(node))}
+        self.assertEqual(made, {"plain_run", "beginning", "clashes", "faults"})
+        taken = []
+        for _, tree in trees().items():
+            for node in ast.walk(tree):
+                if isinstance(node, (ast.For, ast.comprehension)):
+                    taken.append(node.iter)
+                if isinstance(node, ast.Call) and isinstance(node.func, ast.Name) and node.func.id in ("list", "tuple"):
+                    taken.extend(node.args)
+        for name, node in walk(ast.Name):
+            self.assertFalse(isinstance(node.ctx, ast.Store) and node.id in made, (name, node.lineno))
+        calls = [node for _, tree in trees().items() for node in ast.walk(tree) if isinstance(node, ast.Call)]
+        known = {(node.lineno, node.col_offset, ast.dump(node)) for node in taken}
+        for node in calls:
+            if isinstance(node.func, ast.Name) and node.func.id in made:
+                self.assertIn((node.lineno, node.col_offset, ast.dump(node)), known)
 
     def test_lists_stand_where_generators_could(self):
         for name, node in walk(ast.Call):
