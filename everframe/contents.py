@@ -29,36 +29,42 @@ def last_done(passed, job, frame):
 
 
 def looks_of(web, job):
-    """At what a job looks: tuples of the buffer, the age and whose content it should find."""
+    """At what a job looks: the buffer, the age, whose content it should find, and who writes last of all."""
     uses = [use for use in web.uses(job) if use[0] in ("read", "update")]
-    return tuple([(use[1], age_of(use), _writer_for(web, job, use)) for use in uses])
+    return tuple([(use[1], age_of(use), _writer_for(web, job, use), web.writers(use[1])[-1]) for use in uses])
 
 
-def finds_done(web, job, frame, passed):
-    """The finds of a step that is done."""
-    looks = [look for look in looks_of(web, job) if look[1] <= frame]
-    return tuple([(look[0], frame - look[1], _right_content(web, look, frame, passed)) for look in looks])
+def carried_of(web, job):
+    """What a step that is left out looks at: each buffer that it carries, and who writes it last of all."""
+    names = [use[1] for use in web.uses(job) if use[0] == "carry"]
+    return tuple([(name, web.writers(name)[-1]) for name in names])
 
 
-def finds_left_out(web, job, frame, passed):
-    """The finds of a step that is left out: a carry looks at its buffer of the frame before."""
-    carried = [use[1] for use in web.uses(job) if use[0] == "carry" and frame > 0]
-    return tuple([(name, frame - 1, last_content(web, name, frame - 1, passed)) for name in carried])
+def finds_done(looks, frame, passed):
+    """The finds of a step that is done and looks so."""
+    seen = [look for look in looks if look[1] <= frame]
+    return tuple([(look[0], frame - look[1], right_content(look, frame - look[1], passed)) for look in seen])
 
 
-def last_content(web, buffer, frame, passed):
-    """What the buffer of this frame holds in the end; None below frame 0."""
-    writer = web.writers(buffer)[-1]
+def finds_left_out(carried, frame, passed):
+    """The finds of a step that is left out and carries these buffers of the frame before."""
+    seen = carried if frame > 0 else ()
+    return tuple([(name, frame - 1, last_content(name, last, frame - 1, passed)) for name, last in seen])
+
+
+def right_content(look, at, passed):
+    """What a look should find in the instance of this frame."""
+    buffer, _, writer, last = look
+    if passed and (writer, at) in passed:
+        return last_content(buffer, last, at - 1, passed)
+    return (writer, at, buffer)
+
+
+def last_content(buffer, last, frame, passed):
+    """What the buffer of this frame, which this job writes last, holds in the end; None below frame 0."""
     # only a maker can be left out; it passes on what the frame before has
-    source = last_done(passed, writer, frame)
-    return (writer, source, buffer) if source >= 0 else None
-
-
-def _right_content(web, look, frame, passed):
-    buffer, age, writer = look
-    if (writer, frame - age) in passed:
-        return last_content(web, buffer, frame - age - 1, passed)
-    return (writer, frame - age, buffer)
+    source = last_done(passed, last, frame)
+    return (last, source, buffer) if source >= 0 else None
 
 
 def _writer_for(web, job, use):

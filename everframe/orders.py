@@ -7,14 +7,17 @@ MOST_BACK = 4
 MOST_DEPTH = 4
 
 
-def listed_row(web, queue):
-    """The jobs of a queue in list order."""
-    return tuple([job for job in web.jobs if web.queue_of(job) == queue])
+def listed_rows(web):
+    """A dict from each queue that has jobs, ascending, to its jobs in list order."""
+    rows = {queue: [] for queue in web.queues}
+    for job in web.jobs:
+        rows[web.queue_of(job)].append(job)
+    return {queue: tuple(rows[queue]) for queue in rows}
 
 
 def checked_rows(web, rows):
     """A dict from each queue that has jobs to its row."""
-    listed = {queue: listed_row(web, queue) for queue in web.queues}
+    listed = listed_rows(web)
     if rows is None:
         return listed
     if not isinstance(rows, dict) or not all([_is_queue(listed, key) for key in rows]):
@@ -60,11 +63,6 @@ def ties_of(rows, waits, depth):
     # of the ties between two jobs the greatest comes last and replaces the others
     greatest = {(before, after): lead for before, after, lead in sorted(ties)}
     return tuple([(before, after, greatest[before, after]) for before, after in greatest])
-
-
-def ties_to(ties, job):
-    """The ties that lead to a job."""
-    return [tie for tie in ties if tie[1] == job]
 
 
 def is_tie(ties, value):

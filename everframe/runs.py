@@ -1,10 +1,9 @@
 """Runs of a plan, step by step."""
 
-from everframe.contents import finds_done, finds_left_out, last_done
+from everframe.acts import Act, awaited_by, slots_of, spot_at, spots_of
+from everframe.contents import finds_done, finds_left_out, last_content, last_done, right_content
 from everframe.errors import CannotLeaveOut, NoBuffer, NoJob, NotReady, TooMany
-from everframe.groups import places, slot_at
-from everframe.kinds import MAKING, is_int
-from everframe.orders import ties_to
+from everframe.kinds import is_int
 
 
 class Run:
@@ -14,10 +13,11 @@ class Run:
 
     def __init__(self, plan):
         self._plan = plan.twin()
-        self._ties = {job: ties_to(plan.ties, job) for job in plan.web.jobs}
-        self._places = places(plan.sharing)
+        self._awaited = awaited_by(plan.web.jobs, plan.ties)
+        self._spots = spots_of(plan.sharing)
+        self._acts = {}
         self._frames = {job: 0 for job in plan.web.jobs}
-        self._slots = {}
+        self._slots = slots_of(plan.sharing)
         self._passed = {}
         self._steps = []
         self._wrong = []
@@ -35,7 +35,7 @@ class Run:
     @property
     def ready(self):
         """The tuple of the jobs whose next step is ready, in list order."""
-        return tuple([job for job in self._plan.web.jobs if self._is_ready(job)])
+        return tuple([job for job in self._frames if self._is_ready(job)])
 
     @property
     def wrong(self):
@@ -51,48 +51,34 @@ class Run:
         """Do the next step of a job; the tuple of its finds."""
         self._ask_job(job)
         self._ask_turn(job)
-        right = self.expected(job)
-        frame = self._frames[job]
-        uses = self._plan.web.uses(job)
-        for buffer in [use[1] for use in uses if use[0] in MAKING]:
-            self._put(buffer, frame, None)
-        finds = self._found(right)
-        for buffer in [use[1] for use in uses if use[0] != "read"]:
-            self._put(buffer, frame, (job, frame, buffer))
-        return self._end_step(job, False, finds, right)
+        return self._do(job)
 
     def leave_out(self, job):
         """Leave out the next step of a job; the tuple of its finds."""
         self._ask_optional(job)
         self._ask_turn(job)
-        right = self.expected(job, left_out=True)
-        frame = self._frames[job]
-        finds = self._found(right)
-        for buffer in [use[1] for use in self._plan.web.uses(job) if use[0] == "carry"]:
-            before = self.content(buffer, frame - 1) if frame > 0 else None
-            self._put(buffer, frame, before)
-        self._passed[job, frame] = last_done(self._passed, job, frame - 1)
-        return self._end_step(job, True, finds, right)
+        return self._leave_out(job)
 
     def expected(self, job, *, left_out=False):
         """The right finds of the next step of a job, if it is done or left out."""
         if left_out:
             self._ask_optional(job)
-            return finds_left_out(self._plan.web, job, self._frames[job], self._passed)
+            return finds_left_out(self._act(job).carried, self._frames[job], self._passed)
         self._ask_job(job)
-        return finds_done(self._plan.web, job, self._frames[job], self._passed)
+        return finds_done(self._act(job).looks, self._frames[job], self._passed)
 
     def content(self, buffer, frame):
         """The content of the slot in which the buffer of this frame lives."""
         if buffer not in self._plan.web.buffers:
             raise NoBuffer(buffer)
-        return self._slots.get(slot_at(self._places[buffer], frame))
+        return self._slots[spot_at(self._spots[buffer], frame)]
 
     def twin(self):
         """Another run in the same state, which goes on by itself."""
         other = Run(self._plan)
-        other._frames = {job: self._frames[job] for job in self._frames}
-        other._slots = {slot: self._slots[slot] for slot in self._slots}
+        other._acts = dict(self._acts)
+        other._frames = dict(self._frames)
+        other._slots = list(self._slots)
         other._passed = {step: self._passed[step] for step in self._passed}
         other._steps = list(self._steps)
         other._wrong = list(self._wrong)
@@ -113,7 +99,8 @@ class Run:
             self._ask_optional(job)
         if not is_int(frame) or frame != self._frames[job]:
             raise NotReady(job)
-        return self.leave_out(job) if left_out else self.do(job)
+        self._ask_turn(job)
+        return self._leave_out(job) if left_out else self._do(job)
 
     def __len__(self):
         return len(self._steps)
@@ -125,12 +112,12 @@ class Run:
         return f"Run({len(self._steps)} steps)"
 
     def _ask_job(self, job):
-        if job not in self._plan:
+        if not isinstance(job, str) or job not in self._frames:
             raise NoJob(job)
 
     def _ask_optional(self, job):
         self._ask_job(job)
-        if not self._plan.web.can_be_left_out(job):
+        if not self._act(job).optional:
             raise CannotLeaveOut(job)
 
     def _ask_turn(self, job):
@@ -140,20 +127,71 @@ class Run:
             raise TooMany(Run.MOST_STEPS)
 
     def _is_ready(self, job):
+        # a loop of its own, as each step asks this and a list would take longer
+        frames = self._frames
+        frame = frames[job]
+        for before, total in self._awaited[job]:
+            if frames[before] <= frame + total:
+                return False
+        return True
+
+    def _act(self, job):
+        # made at the first step of the job and kept, as a run has many steps
+        if job not in self._acts:
+            self._acts[job] = Act(self._plan.web, job, self._spots)
+        return self._acts[job]
+
+    def _do(self, job):
+        act = self._act(job)
         frame = self._frames[job]
-        return all([self._frames[before] > frame + lead for before, _, lead in self._ties[job]])
+        slots = self._slots
+        for base, count, shift in act.cleared:
+            slots[base + (frame + shift) % count] = None
+        finds = self._finds(job, act.seen) if act.seen else ()
+        for buffer, (base, count, shift) in act.written:
+            slots[base + (frame + shift) % count] = (job, frame, buffer)
+        self._end_step(job, False)
+        return finds
 
-    def _put(self, buffer, frame, content):
-        self._slots[slot_at(self._places[buffer], frame)] = content
-
-    def _found(self, right):
-        """What the slots hold where a step looks, which the right finds tell."""
-        return tuple([(buffer, frame, self.content(buffer, frame)) for buffer, frame, _ in right])
-
-    def _end_step(self, job, is_left_out, finds, right):
+    def _finds(self, job, seen):
+        """What the next step of a job finds where it looks; what is wrong is noted."""
         frame = self._frames[job]
-        pairs = list(zip(finds, right))
-        self._wrong.extend([(job, frame, find, due) for find, due in pairs if find != due])
+        finds = []
+        for look, (base, count, shift) in seen:
+            at = frame - look[1]
+            if at >= 0:
+                find = (look[0], at, self._slots[base + (at + shift) % count])
+                due = right_content(look, at, self._passed)
+                if find[2] != due:
+                    self._wrong.append((job, frame, find, (look[0], at, due)))
+                finds.append(find)
+        return tuple(finds)
+
+    def _leave_out(self, job):
+        frame = self._frames[job]
+        act = self._act(job)
+        finds = self._finds_left_out(job, act.carried) if frame > 0 else ()
+        # a job that may be left out makes one buffer only, so there is one find at most
+        for buffer, _ in act.carried:
+            before = finds[0][2] if frame > 0 else None
+            self._slots[spot_at(self._spots[buffer], frame)] = before
+        self._passed[job, frame] = last_done(self._passed, job, frame - 1)
+        self._end_step(job, True)
+        return finds
+
+    def _finds_left_out(self, job, carried):
+        """What the next step of a job finds if it is left out; what is wrong is noted."""
+        frame = self._frames[job]
+        finds = []
+        for buffer, last in carried:
+            find = (buffer, frame - 1, self._slots[spot_at(self._spots[buffer], frame - 1)])
+            due = last_content(buffer, last, frame - 1, self._passed)
+            if find[2] != due:
+                self._wrong.append((job, frame, find, (buffer, frame - 1, due)))
+            finds.append(find)
+        return tuple(finds)
+
+    def _end_step(self, job, is_left_out):
+        frame = self._frames[job]
         self._steps.append((job, frame, is_left_out))
         self._frames[job] = frame + 1
-        return finds

@@ -1,7 +1,7 @@
 """The texts of webs and plans."""
 
 from everframe.groups import apart_groups
-from everframe.orders import listed_row
+from everframe.orders import listed_rows
 
 
 def show_web(web):
@@ -31,7 +31,8 @@ def _use_word(use):
 
 def _row_lines(plan):
     rows = plan.rows
-    moved = [queue for queue in rows if rows[queue] != listed_row(plan.web, queue)]
+    listed = listed_rows(plan.web)
+    moved = [queue for queue in rows if rows[queue] != listed[queue]]
     return [" ".join(["row", str(queue), *rows[queue]]) for queue in moved]
 
 

@@ -1,3 +1,4 @@
+import sys
 import unittest
 
 from everframe.errors import CannotLeaveOut, NoBuffer, NoJob, NotReady, TooMany
@@ -292,6 +293,54 @@ class TestAgainstTheDocument(unittest.TestCase):
         rng = rng_of(52)
         for _ in range(6):
             self.check(rng, random_plan(rng, waits=1), 60)
+
+    def test_twins_go_on_behind_changes_of_the_plan(self):
+        rng = rng_of(53)
+        for _ in range(60):
+            plan = random_plan(rng)
+            kept = plan.twin()
+            run = Run(plan)
+            plan.waits, plan.depth, plan.sharing = (), 1, None
+            left, steps = [], []
+            for _ in range(12):
+                if rng.random() < 0.4:
+                    left.append((run, len(steps)))
+                    run = run.twin()
+                if not run.ready:
+                    break
+                job = rng.choice(run.ready)
+                gone = kept.web.can_be_left_out(job) and rng.random() < 0.5
+                steps.append((job, run.frame(job), gone))
+                self.assertEqual(run.leave_out(job) if gone else run.do(job), oracles.slow_run(kept, steps)[0][-1])
+            for other, many in [*left, (run, len(steps))]:
+                self.assertEqual(other.steps, tuple(steps[:many]))
+                self.assertEqual(other.wrong, tuple(oracles.slow_run(kept, steps[:many])[1]))
+                self.assertEqual(other, Run.after(kept, steps[:many]))
+
+
+class TestWork(unittest.TestCase):
+    """A run of 4,000 steps is to be asked often: each step may take a few calls only."""
+
+    def count(self, call):
+        calls = []
+        sys.setprofile(lambda frame, event, part: calls.append(event) if event == "call" else None)
+        try:
+            call()
+        finally:
+            sys.setprofile(None)
+        return len(calls)
+
+    def test_calls_for_each_step(self):
+        plan = Plan(Web.read("job a 0\njob b 0 keep:x\njob c 0 read:x:0"))
+        run = Run(plan)
+        self.assertLess(self.count(lambda: do_all(run, "abc" * 1333)), 9 * 3999)
+        self.assertLess(self.count(lambda: Run.after(plan, run.steps)), 9 * 3999)
+
+    def test_calls_for_each_step_that_is_left_out(self):
+        run = Run(Plan(C))
+        self.assertLess(self.count(lambda: [run.leave_out("w") for _ in range(3999)]), 20 * 3999)
+        twin = run.twin()
+        self.assertLess(self.count(lambda: twin.do("w")), 20)
 
 
 class TestErrors(unittest.TestCase):
