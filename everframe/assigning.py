@@ -1,54 +1,79 @@
-"""Which buffer follows which one in its slot, at the least cost, and the crowd that shows it.
+"""Which buffer follows which one in its slot, at the least cost, and numbers that show it.
 
-The costs are a dict from pairs of buffers; the cost of a buffer behind itself is
-never None.
+The costs are a dict from pairs of buffers to integers from 0 on or None (the second
+one cannot follow the first one); a buffer may always follow itself.
 """
 
 
-def least_followers(buffers, costs):
-    """A permutation with the least sum of costs, as a dict from each buffer to the next one."""
-    # best[taken] tells the least sum with which the first buffers have these followers;
-    # the bits of taken are their indexes
-    best = {0: (0, ())}
-    for one in buffers:
-        further = {}
-        for taken in best:
-            total, chosen = best[taken]
-            for at, other in enumerate(buffers):
-                worth = costs[one, other]
-                if worth is None or taken & (1 << at):
-                    continue
-                place = taken | (1 << at)
-                if place not in further or total + worth < further[place][0]:
-                    further[place] = (total + worth, (*chosen, other))
-        best = further
-    _, chosen = best[(1 << len(buffers)) - 1]
-    return {one: other for one, other in zip(buffers, chosen)}
+class Order:
+    """A permutation of buffers with the least sum of costs, and numbers that show it.
 
+    `followers` has the next buffer for each one. For all pairs with a cost,
+    ends[other] - first[one] is at most the cost of other behind one, and just this cost
+    if other follows one; so no permutation has a smaller sum.
+    """
 
-def greatest_crowd(buffers, costs, followers):
-    """For these followers with the least sum, a crowd of just this size: (buffer, first, last)."""
-    first = {one: 0 for one in buffers}
-    ends = {one: 0 for one in buffers}
-    bounds = _bounds(buffers, costs, followers)
-    # lower what is too great; it comes to an end, since no followers have a smaller sum
-    changed = True
-    while changed:
-        changed = False
-        for one, other, worth in bounds:
-            if ends[other] > first[one] + worth:
-                ends[other] = first[one] + worth
-                changed = True
+    def __init__(self, buffers, costs):
+        self.costs = costs
+        self.followers = {}
+        self.ahead = {}
+        self.first = {one: 0 for one in buffers}
+        self.ends = {one: 0 for one in buffers}
         for one in buffers:
-            other = followers[one]
-            if first[one] > ends[other] - costs[one, other]:
-                first[one] = ends[other] - costs[one, other]
-                changed = True
-    # no end is below its own first: a cost is at most the sum of two by way of a third buffer
-    least = min([first[one] for one in buffers])
-    return [(one, first[one] - least, ends[one] - 1 - least) for one in buffers]
+            self._find_follower(one)
 
+    def total(self):
+        """The sum of the costs."""
+        return sum([self.costs[one, self.followers[one]] for one in self.followers])
 
-def _bounds(buffers, costs, followers):
-    pairs = [(one, other) for one in buffers for other in buffers]
-    return [(one, other, costs[one, other]) for one, other in pairs if costs[one, other] is not None]
+    def rings(self):
+        """The buffers that follow one another, each ring from its least buffer on."""
+        rings = []
+        placed = []
+        for one in sorted(list(self.followers)):
+            if one not in placed:
+                ring = [one]
+                while self.followers[ring[-1]] != one:
+                    ring.append(self.followers[ring[-1]])
+                rings.append(ring)
+                placed.extend(ring)
+        return rings
+
+    def _find_follower(self, one):
+        """Give one more buffer a follower; others may have to take other ones."""
+        reached = {}
+        settled = []
+        at = one
+        far = 0
+        # at is the buffer that would lose its follower, until one is free
+        while at is not None:
+            self._reach_from(at, far, reached, settled)
+            near = [other for other in reached if other not in settled]
+            nearest = min(near, key=lambda other: reached[other][0])
+            settled.append(nearest)
+            far = reached[nearest][0]
+            at = self.ahead.get(nearest)
+        self.first[one] -= far
+        for other in settled[:-1]:
+            self.ends[other] -= far - reached[other][0]
+            self.first[self.ahead[other]] -= far - reached[other][0]
+        self._exchange(settled[-1], reached)
+
+    def _reach_from(self, at, far, reached, settled):
+        """Note how far the followers of a buffer are, and behind which one."""
+        for other in self.ends:
+            worth = self.costs[at, other]
+            if worth is None or other in settled:
+                continue
+            further = far + worth + self.first[at] - self.ends[other]
+            if other not in reached or further < reached[other][0]:
+                reached[other] = (further, at)
+
+    def _exchange(self, free, reached):
+        """Let followers change from a free one back to the buffer that had none."""
+        while free is not None:
+            behind = reached[free][1]
+            before = self.followers.get(behind)
+            self.followers[behind] = free
+            self.ahead[free] = behind
+            free = before

@@ -16,14 +16,18 @@ def cost(plan, r, s):
 
 def cost_table(plan):
     """The ascending tuple of (r, s, cost) for all pairs of buffers."""
-    leads = leads_between(plan)
-    buffers = plan.web.buffers
-    return tuple([(r, s, _cost(plan.web, leads, r, s)) for r in buffers for s in buffers])
+    costs = costs_between(plan.web, leads_between(plan))
+    return tuple([(r, s, costs[r, s]) for r, s in costs])
+
+
+def costs_between(web, leads):
+    """A dict from each two buffers, ascending, to the cost of the second one behind the first one."""
+    return {(r, s): _cost(web, leads, r, s) for r in web.buffers for s in web.buffers}
 
 
 def clashes(plan):
     """Yield (r, s, d) for the buffers that clash, with the d that is nearest to 0."""
-    costs = {(r, s): worth for r, s, worth in cost_table(plan)}
+    costs = costs_between(plan.web, leads_between(plan))
     lives = places(plan.sharing)
     for r, s in [pair for pair in costs if pair[0] <= pair[1]]:
         if lives[r][0] == lives[s][0]:

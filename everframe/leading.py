@@ -3,6 +3,7 @@
 from everframe.errors import NoJob
 from everframe.needs import needs
 from everframe.rings import refuse_standstill
+from everframe.ways import least_way
 
 
 def lead(plan, of, job):
@@ -18,8 +19,7 @@ def way(plan, of, job):
     found = _best_from(plan.ties, of)
     if job not in found:
         return None
-    total, steps, _ = found[job]
-    return _least_way(plan.ties, of, job, total, steps)
+    return least_way(plan.ties, of, job, found[job][0], found[job][1])
 
 
 def lead_table(plan):
@@ -89,30 +89,3 @@ def _betters(best, tie):
         return True
     gain = best[before][0] + total - best[after][0]
     return gain > 0 or (gain == 0 and best[before][1] + 1 < best[after][1])
-
-
-def _least_way(ties, of, job, total, steps):
-    """The least of the ways with this lead, the greatest one, and this number of ties."""
-    reach = _reach(ties, job, steps)
-    chosen = []
-    at = of
-    rest = total
-    for left in range(steps - 1, -1, -1):
-        fitting = [tie for tie in ties if tie[0] == at and reach[left].get(tie[1]) == rest - tie[2]]
-        chosen.append(fitting[0])
-        at = fitting[0][1]
-        rest = rest - fitting[0][2]
-    return tuple(chosen)
-
-
-def _reach(ties, job, steps):
-    """For each number of ties below steps: from which jobs it leads to the job, with which lead."""
-    reach = [{job: 0}]
-    for _ in range(1, steps):
-        further = {}
-        for before, after, total in ties:
-            if after in reach[-1]:
-                found = total + reach[-1][after]
-                further[before] = max(found, further.get(before, found))
-        reach.append(further)
-    return reach

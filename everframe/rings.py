@@ -22,6 +22,16 @@ def refuse_standstill(plan):
         raise Standstill(ring)
 
 
+def ring_back(job, entry):
+    """The ring to which one comes when one goes back from a job, always along its entry."""
+    trail = []
+    while job not in trail:
+        trail.append(job)
+        job = entry[job][0]
+    backwards = [entry[one] for one in trail[trail.index(job):]]
+    return tuple(backwards[::-1])
+
+
 def _entered(jobs, ties):
     """Those of these jobs to which a tie from one of them leads."""
     ends = [after for before, after, _ in ties if before in jobs]
@@ -30,11 +40,4 @@ def _entered(jobs, ties):
 
 def _ring_among(jobs, ties):
     """A ring among jobs to each of which a tie from one of them leads."""
-    entry = {tie[1]: tie for tie in ties if tie[0] in jobs and tie[1] in jobs}
-    trail = []
-    job = jobs[0]
-    while job not in trail:
-        trail.append(job)
-        job = entry[job][0]
-    backwards = [entry[one] for one in trail[trail.index(job):]]
-    return tuple(backwards[::-1])
+    return ring_back(jobs[0], {tie[1]: tie for tie in ties if tie[0] in jobs and tie[1] in jobs})

@@ -2,6 +2,7 @@
 
 import unittest
 
+from everframe.changecheck import check_changes
 from everframe.costs import clashes, cost, cost_table
 from everframe.errors import InvalidText, InvalidWeb
 from everframe.flowcheck import check_flow
@@ -15,10 +16,14 @@ from everframe.plain import plain_content, plain_run
 from everframe.plans import Plan
 from everframe.runs import Run
 from everframe.sharings import apart, is_sharing, slot_of
+from everframe.slotcheck import check_slots
 from everframe.slots import fewest_slots
+from everframe.speeds import check_period, first_starts, least_period
+from everframe.states import fewest_changes, state_row
 from everframe.texts import show_plan
 from everframe.verdictcheck import check_verdict
 from everframe.verdicts import faults, verdict
+from everframe.waiting import follows, least_waits, needed_waits, planned, savings
 from everframe.webs import Web
 from tests.samples import C, E1, E2, G2, P1, P2, U, caught, told
 
@@ -160,6 +165,45 @@ class TestExamples(unittest.TestCase):
         self.assertEqual([fewest_slots(Plan(web, waits=(("v", "w", 1), ("w", "v", 1)))),
                           fewest_slots(Plan(web, waits=(("v", "w", 1), ("w", "v", 0))))[:2]],
                          [("kept", "h", "v"), ("slots", 1)])
+
+    def test_slotcheck(self):
+        self.assertIs(check_slots(P2, ("slots", 2, G2, (("h", 0, 1), ("x", 1, 0)))), True)
+        self.assertEqual(told(check_slots, P2, ("endless", "h", "v", ("w",))), ("jobs", -1))
+        self.assertEqual(told(check_slots, P2, ("slots", 2, G2, (("h", 0, 1), ("x", 0, -1)))), ("crowd", 1))
+
+    def test_waiting(self):
+        self.assertEqual([follows(P1, ("e", "a", 0)), follows(P1, ("f", "c", 0))],
+                         [(("a", "d", 0), ("d", "e", 0)), None])
+        self.assertEqual(least_waits(P1.with_wait(("e", "a", 0))), P1.waits)
+        self.assertEqual([needed_waits(E1), needed_waits(E2)], [(("d", "a", 0), ("f", "c", 0)), (("v", "w", 1),)])
+        self.assertEqual(planned(E2).sharing, ((3, (("h", 0), ("x", 2))),))
+        self.assertEqual([wait for slots, wait in savings(P1)], [
+            ("b", "d", 0), ("b", "e", 0), ("c", "d", 0), ("c", "e", 0), ("d", "b", 0), ("d", "c", 0), ("e", "b", 0),
+            ("e", "c", 0),
+        ])
+
+    def test_states(self):
+        wishes = {("w", "h"): "target", ("v", "h"): "sample", ("t", "x"): "target", ("y", "x"): "sample"}
+        self.assertEqual(state_row(P2, "h", wishes), ("target", "sample"))
+        found = fewest_changes(P2, wishes)
+        self.assertEqual(found, ("changes", 2, 4, ((2, (("h", 0), ("x", 1))),), (("h", 0, 0, 0, 1), ("x", 0, 0, 0, 1))))
+        self.assertEqual(fewest_changes(P2, {})[2], 0)
+        self.assertEqual(caught(state_row, P1, "r", {("b", "r"): "sample", ("d", "r"): "copy"}),
+                         ("Unsettled", "r", "b", "d"))
+        thing = ("changes", 2, 4, ((2, (("h", 0), ("x", 1))),), (("h", 0, 0, 0, 1), ("x", 0, 0, 0, 2)))
+        self.assertEqual(told(check_changes, P2, wishes, thing), ("price", 1))
+        self.assertIs(check_changes(P2, wishes, found), True)
+
+    def test_speeds(self):
+        self.assertEqual((least_period(P1, {})[:2], least_period(P1, {"e": 5})[:2]), ((4, 1), (8, 1)))
+        ring = (("a", "b", 0), ("b", "c", 0), ("c", "f", 0), ("f", "a", -1))
+        self.assertIs(check_period(P1, {}, (4, 1, ring, (0, 1, 2, 1, 2, 3))), True)
+        self.assertEqual(list(first_starts(P1, {}, frames=2))[:7], [
+            ("a", 0, 0), ("b", 0, 1), ("c", 0, 2), ("d", 0, 1), ("e", 0, 2), ("f", 0, 3), ("a", 1, 4),
+        ])
+        web = Web(("a", 0, ()), ("b", 1, ()), ("c", 2, ()))
+        plan = Plan(web, waits=(("b", "a", 0), ("c", "b", 0), ("a", "c", 2)))
+        self.assertEqual(least_period(plan, {"b": 2, "c": 2})[:2], (5, 2))
 
     def test_texts(self):
         text = (

@@ -54,7 +54,12 @@ INTERFACE = {
     "costs": "cost cost_table clashes",
     "verdicts": "faults verdict",
     "verdictcheck": "check_verdict",
+    "waiting": "follows least_waits needed_waits planned savings",
     "slots": "fewest_slots",
+    "slotcheck": "check_slots",
+    "states": "state_row fewest_changes",
+    "changecheck": "check_changes",
+    "speeds": "least_period check_period first_starts",
     "texts": "show_web show_plan",
 }
 CLASSES = {
@@ -179,7 +184,7 @@ class TestSyntax(unittest.TestCase):
 
     def test_generators_are_iterated_at_once(self):
         made = {node.name for _, node in walk(ast.FunctionDef) if any(isinstance(one, ast.Yield) for one in ast.walk(node))}
-        self.assertEqual(made, {"plain_run", "beginning", "clashes", "faults"})
+        self.assertEqual(made, {"plain_run", "beginning", "clashes", "faults", "savings", "first_starts"})
         taken = []
         for _, tree in trees().items():
             for node in ast.walk(tree):
@@ -208,6 +213,10 @@ class TestImports(unittest.TestCase):
             for node in ast.walk(tree):
                 if isinstance(node, ast.ImportFrom):
                     self.assertIn(node, tree.body, name)
+                    if node.module == "math":
+                        # of the library only this function, which is called by its bare name
+                        self.assertEqual([(part.name, part.asname) for part in node.names], [("gcd", None)])
+                        continue
                     self.assertTrue(node.module.startswith("everframe.") and node.level == 0, name)
                     for part in node.names:
                         self.assertIn(part.name, defined(files[node.module.split(".")[1]]), name)
@@ -216,7 +225,8 @@ class TestImports(unittest.TestCase):
     def test_no_rings(self):
         behind = {}
         for name, tree in trees().items():
-            behind[name] = {node.module.split(".")[1] for node in tree.body if isinstance(node, ast.ImportFrom)}
+            imports = [node.module.split(".") for node in tree.body if isinstance(node, ast.ImportFrom)]
+            behind[name] = {parts[1] for parts in imports if parts[0] == "everframe"}
         self.assertEqual(behind["__init__"], set())
         while behind:
             free = [name for name in behind if not behind[name] & set(behind)]
