@@ -2,11 +2,14 @@
 
 import unittest
 
+from everframe.boards import Board
 from everframe.changecheck import check_changes
 from everframe.costs import clashes, cost, cost_table
+from everframe.desk import Desk
 from everframe.errors import InvalidText, InvalidWeb
 from everframe.flowcheck import check_flow
 from everframe.flows import flow
+from everframe.joining import cut_queue, renamed, side_by_side, twice
 from everframe.leadcheck import check_leads
 from everframe.leading import closed_lot, lead, lead_table, way
 from everframe.leads import Lead, along, best
@@ -14,12 +17,14 @@ from everframe.needs import needs
 from everframe.paces import Ahead, Behind, Listed, Pace, beginning
 from everframe.plain import plain_content, plain_run
 from everframe.plans import Plan
+from everframe.reader import read_plan, read_web
 from everframe.runs import Run
 from everframe.sharings import apart, is_sharing, slot_of
 from everframe.slotcheck import check_slots
 from everframe.slots import fewest_slots
 from everframe.speeds import check_period, first_starts, least_period
 from everframe.states import fewest_changes, state_row
+from everframe.tables import cost_grid, lead_grid
 from everframe.texts import show_plan
 from everframe.verdictcheck import check_verdict
 from everframe.verdicts import faults, verdict
@@ -217,10 +222,43 @@ class TestExamples(unittest.TestCase):
             ("job a 0 make:r\njob b 0 read:r", 1, 3), ("job a 0 make:r \njob b 0 read:r:0", 0, 4), ("-", 0, 0),
             ("job a 0 make:r\njob b 0 read:r:0\n", 2, 0), ("job a 0 make:r\njob b 0 read:r:0\nsize r 2 3", 2, 3),
         ):
-            for read in (Web.read, Plan.read):
+            for read in (Web.read, Plan.read, read_web, read_plan):
                 with self.assertRaises(InvalidText) as error:
                     read(text)
                 self.assertEqual((error.exception.line, error.exception.word), (line, word))
+
+    def test_joining(self):
+        both = side_by_side(P1, P2)
+        self.assertEqual([both.web.queues, cost(both, "r", "h"), cost(both, "h", "x"), fewest_slots(both)[1]],
+                         [(0, 1, 2, 3), None, 1, 5])
+        two = twice(P2)
+        self.assertEqual([two.waits, lead(two, "wa", "vb"), lead(two, "wb", "va"), fewest_slots(two)[1]],
+                         [(("va", "wb", 1), ("vb", "wa", 0), ("wa", "yb", 1), ("wb", "ya", 0)), 0, -1, 2])
+        cut = cut_queue(P1, 0, 2, 2)
+        self.assertEqual([cut.rows, cut.waits == tuple(sorted(P1.waits + (("c", "b", 0), ("a", "c", 1)))), lead(cut, "a", "c")],
+                         [{0: ("a", "b"), 1: ("d", "e", "f"), 2: ("c",)}, True, 0])
+        self.assertEqual(renamed(renamed(P2, {"w": "t", "t": "w"}), {"w": "t", "t": "w"}), P2)
+
+    def test_boards(self):
+        board = Board(P1)
+        found = [board.status, board.drop_wait(("d", "a", 0)), board.undo(), board.add_wait(("a", "b", 0)), board.slots, board.undo()]
+        self.assertEqual(found, ["right", "wrong", "right", "still", None, "right"])
+        told = (board.slots[1], board.on_trial(lambda it: (it.add_wait(("c", "d", 0)), it.slots[1])), board.slots[1],
+                board.edits, board.undone)
+        self.assertEqual(told, (3, ("right", 2), 3, 0, 1))
+
+    def test_tables(self):
+        self.assertEqual(cost_grid(P2), "                h        x\nh               2        1\nx               1        1")
+        self.assertEqual(lead_grid(P2).split("\n")[2], "v              -1       -1        0        0")
+
+    def test_desk(self):
+        desk = Desk()
+        text = "plan job w 0 make:h / job v 1 read:h:1 / job t 1 make:x / job y 1 read:x:0 / wait v w 1 / wait w y 1"
+        self.assertEqual([desk.say(text), desk.say("slots")], ["ok", "2"])
+        self.assertEqual([desk.say("verdict"), desk.say("share 2 h:0 x:1"), desk.say("verdict"), desk.say("place h 7"), desk.say("cost h h")],
+                         ["wrong", "ok", "right", "0 1", "2"])
+        self.assertEqual([desk.say("undo"), desk.say("lead w v"), desk.say("unmet"), desk.say("period v:3")], ["ok", "-1", "none", "5/1"])
+        self.assertEqual([caught(desk.say, "lead w"), caught(desk.say, "lead w v ")], [("InvalidCommand", 2), ("InvalidCommand", 3)])
 
 
 if __name__ == "__main__":

@@ -60,7 +60,12 @@ INTERFACE = {
     "states": "state_row fewest_changes",
     "changecheck": "check_changes",
     "speeds": "least_period check_period first_starts",
+    "joining": "side_by_side twice cut_queue renamed",
+    "boards": "Board",
     "texts": "show_web show_plan",
+    "reader": "read_web read_plan",
+    "tables": "lead_grid cost_grid slot_grid",
+    "desk": "Desk",
 }
 CLASSES = {
     ("leads", "Lead"): "__init__ __mul__ __add__ __eq__ __bool__ __str__ __repr__ MOST",
@@ -75,6 +80,12 @@ CLASSES = {
     ("runs", "Run"): (
         "__init__ steps ready wrong frame do leave_out expected content twin after __len__ __eq__ __repr__ MOST_STEPS"
     ),
+    ("boards", "Board"): (
+        "__init__ snapshot status verdict slots edits undone add_wait drop_wait move set_depth share undo redo watch "
+        "on_trial trial twin __len__ __eq__ __contains__"
+    ),
+    ("boards", "Trial"): "__init__ __enter__ __exit__",
+    ("desk", "Desk"): "__init__ say",
     ("paces", "Pace"): "__call__",
     ("paces", "Behind"): "__init__ __call__",
     ("paces", "Ahead"): "__init__ __call__",
