@@ -1,6 +1,6 @@
 """Boards: plans that are edited, with undo and redo, watches and trials."""
 
-from everframe.errors import Busy, InvalidPlan, NoJob, NothingToRedo, NothingToUndo
+from everframe.errors import Busy, InvalidPlan, NothingToRedo, NothingToUndo
 from everframe.kinds import within
 from everframe.layers import Layer, Position
 from everframe.orders import is_wait
@@ -72,8 +72,6 @@ class Board:
         """Put a job at another place of its row; the new status."""
         self._ask_free()
         plan = self.snapshot()
-        if job not in plan:
-            raise NoJob(job)
         queue = plan.web.queue_of(job)
         rows = plan.rows
         others = [one for one in rows[queue] if one != job]

@@ -2,7 +2,7 @@
 
 from everframe.doubling import doubled_plan
 from everframe.errors import InvalidPlan, TooMany
-from everframe.kinds import within
+from everframe.kinds import is_int, within
 from everframe.plans import Plan
 from everframe.webs import Web
 
@@ -40,7 +40,7 @@ def cut_queue(plan, queue, at, new):
     """The plan with the later jobs of a queue's row on a new queue."""
     web = plan.web
     rows = plan.rows
-    if not within(queue, 0, QUEUES - 1) or queue not in rows:
+    if not is_int(queue) or queue not in rows:
         raise InvalidPlan("queue", queue)
     if not within(at, 1, len(rows[queue]) - 1):
         raise InvalidPlan("at", at)

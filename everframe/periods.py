@@ -45,7 +45,5 @@ def _settled(jobs, ties, took, top, bottom):
                 late = after
         if late is None:
             return (starts, None)
-    # what is late again in each round is behind a ring
-    for _ in jobs:
-        late = entry[late][0]
+    # what is late again in each round is on a ring or behind one
     return (starts, ring_back(late, entry))

@@ -132,7 +132,8 @@ def fault_of_changes(plan, rows, thing):
         if not all(plain_int(part) for part in prices[at][1:]):
             return ("price", at)
         for one in prices[:at + 1]:
-            if not (_price_holds(web, costs, rows, one, prices[at]) and _price_holds(web, costs, rows, prices[at], one)):
+            if not (_price_holds(web, costs, rows, one, prices[at]) and _price_holds(web, costs, rows, prices[at],
+                                                                                     one)):
                 return ("price", at)
     if len(prices) > len(due):
         return ("price", len(due))

@@ -77,9 +77,12 @@ def slow_read(text, whole):
 
 
 WORDS = (
-    "job", "size", "row", "wait", "depth", "group", "a", "q", "abcdefgh", "abcdefghi", "A", "0", "1", "3", "4", "5", "9", "10",
-    "00", "01", "-1", "+1", "199", "200", "201", "1000", "", "make:a", "make:q", "keep:q", "carry:q", "update:q", "read:q:0",
-    "read:q:4", "read:q", "make:q:0", "q:0", "q:199", "q:200", "q:00", "q:", ":0", ":", "q:0:0", "none", "/", "\u0661", "read:q:\u0661",
+    "job", "size", "row", "wait", "depth", "group", "a", "q", "abcdefgh", "abcdefghi", "A", "0", "1", "3", "4", "5",
+    "9", "10",
+    "00", "01", "-1", "+1", "199", "200", "201", "1000", "", "make:a", "make:q", "keep:q", "carry:q", "update:q",
+    "read:q:0",
+    "read:q:4", "read:q", "make:q:0", "q:0", "q:199", "q:200", "q:00", "q:", ":0", ":", "q:0:0", "none", "/",
+    "\u0661", "read:q:\u0661",
 )
 
 
@@ -118,4 +121,5 @@ def spoiled_letters(rng, line):
     text = " ".join(line)
     at = rng.randrange(len(text) + 1)
     sign = rng.choice(" :\n0123459abqZ-/")
-    return rng.choice((text[:at] + text[at + 1:], text[:at] + sign + text[at:], text[:at] + sign + text[at + 1:])).split(" ")
+    return rng.choice((text[:at] + text[at + 1:], text[:at] + sign + text[at:],
+                       text[:at] + sign + text[at + 1:])).split(" ")

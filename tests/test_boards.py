@@ -61,7 +61,8 @@ class TestEdits(unittest.TestCase):
         """That an edit of a board on P1 gives this plan, and can be undone and redone."""
         board = Board(P1)
         self.assertEqual([edit(board), board.status], [status, status])
-        self.assertEqual(told_by(board), (plan, status, verdict(plan), None if status == "still" else fewest_slots(plan), 1, 0, 1))
+        self.assertEqual(told_by(board), (plan, status, verdict(plan),
+                                          None if status == "still" else fewest_slots(plan), 1, 0, 1))
         self.assertEqual([board.undo(), board.snapshot(), board.edits, board.undone], ["right", P1, 0, 1])
         self.assertEqual([board.redo(), board.snapshot(), board.edits, board.undone], [status, plan, 1, 0])
 
@@ -87,7 +88,8 @@ class TestEdits(unittest.TestCase):
     def test_drop_wait(self):
         self.check(lambda board: board.drop_wait(wait=READS), P1.without_wait(READS), "wrong")
         self.check(lambda board: board.drop_wait(("a", "f", 1)), P1.without_wait(("a", "f", 1)), "wrong")
-        for value in (*ODD, ("d", "a", 1), ("d", "a", False), ["d", "a", 0], ("a", "f", True), ("q", "a", 0), (["a"], "b", 0)):
+        for value in (*ODD, ("d", "a", 1), ("d", "a", False), ["d", "a", 0], ("a", "f", True), ("q", "a", 0),
+                      (["a"], "b", 0)):
             self.refuse(lambda board: board.drop_wait(value), ("InvalidPlan", "waits", 0))
 
     def test_move(self):
@@ -148,7 +150,8 @@ class TestUndo(unittest.TestCase):
         board = Board(P1)
         self.assertEqual([caught(board.undo), caught(board.redo)], [("NothingToUndo",), ("NothingToRedo",)])
         plans = [P1]
-        for edit in (lambda: board.drop_wait(READS), lambda: board.set_depth(1), lambda: board.move("c", 0), lambda: board.add_wait(BEFORE_A)):
+        for edit in (lambda: board.drop_wait(READS), lambda: board.set_depth(1), lambda: board.move("c", 0),
+                     lambda: board.add_wait(BEFORE_A)):
             edit()
             plans.append(board.snapshot())
         for _ in range(2):
@@ -186,7 +189,8 @@ class TestUndo(unittest.TestCase):
             for _ in range(25):
                 self.step(rng, board, done, undone)
                 self.assertEqual(told_by(board)[:2], (done[-1], verdict(done[-1])[0]))
-                self.assertEqual([board.verdict, board.edits, board.undone], [verdict(done[-1]), len(done) - 1, len(undone)])
+                self.assertEqual([board.verdict, board.edits, board.undone],
+                                 [verdict(done[-1]), len(done) - 1, len(undone)])
                 still = oracles.stands_still(done[-1])
                 self.assertEqual(board.slots, None if still else fewest_slots(done[-1]))
 
@@ -268,7 +272,8 @@ class TestWatches(unittest.TestCase):
         for call in (one, two, one):
             board.watch(call=call)
         board.drop_wait(READS)
-        self.assertEqual(seen, [("one", "right", "wrong", "wrong"), ("two", "right", "wrong", 1), ("one", "right", "wrong", "wrong")])
+        self.assertEqual(seen, [("one", "right", "wrong", "wrong"), ("two", "right", "wrong", 1),
+                                ("one", "right", "wrong", "wrong")])
 
     def test_what_a_watch_returns_has_no_effect(self):
         board = Board(P1)
@@ -305,7 +310,8 @@ class TestWatches(unittest.TestCase):
 
         def busy(before, after):
             calls = [
-                lambda: board.add_wait(7), lambda: board.drop_wait(7), lambda: board.move("q", 9), lambda: board.set_depth(9),
+                lambda: board.add_wait(7), lambda: board.drop_wait(7), lambda: board.move("q", 9),
+                lambda: board.set_depth(9),
                 lambda: board.share(7), board.undo, board.redo, lambda: board.on_trial(seen.append), board.trial,
                 lambda: board.add_wait(("e", "a", 0)), lambda: board.move("a", 0), lambda: board.share(None),
             ]
@@ -577,7 +583,8 @@ class TestTrials(unittest.TestCase):
         twin.drop_wait(READS)
         # it is outside of the trial, so its watches are called
         self.assertEqual([seen, board.snapshot().depth], [["wrong"], 1])
-        self.assertEqual([twin.undo(), twin.undo(), twin.snapshot().depth, caught(twin.undo)], ["right", "right", 1, ("NothingToUndo",)])
+        self.assertEqual([twin.undo(), twin.undo(), twin.snapshot().depth, caught(twin.undo)],
+                         ["right", "right", 1, ("NothingToUndo",)])
         self.assertEqual(board.edits, 1)
 
     def test_what_a_call_returns(self):
@@ -628,7 +635,8 @@ class TestForm(unittest.TestCase):
         board = Board(P1)
         for wait in P1.waits:
             self.assertIs(wait in board, True)
-        for value in (*ODD, ("d", "a", 1), ("d", "a", False), ["d", "a", 0], ("a", "f", True), ("a", "b", 0), "d", "a", (["a"], "b", 0)):
+        for value in (*ODD, ("d", "a", 1), ("d", "a", False), ["d", "a", 0], ("a", "f", True), ("a", "b", 0), "d",
+                      "a", (["a"], "b", 0)):
             self.assertIs(value in board, False)
         board.drop_wait(READS)
         self.assertEqual([READS in board, board.undo(), READS in board], [False, "right", True])

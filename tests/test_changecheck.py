@@ -1,7 +1,9 @@
 import unittest
 
 from everframe.changecheck import check_changes
+from everframe.costs import cost_table
 from everframe.errors import Standstill, Unsettled
+from everframe.joining import side_by_side
 from everframe.plans import Plan
 from everframe.states import fewest_changes
 from everframe.webs import Web
@@ -16,7 +18,8 @@ RIGHT = ("changes", 2, 4, G2, PRICES)
 STILL = Plan(E1, waits=(("d", "a", 0), ("a", "d", 0)))
 # a kept buffer between two others
 MIXED = Plan(Web(
-    ("a", 0, (("make", "f"),)), ("b", 0, (("read", "f", 0),)), ("c", 0, (("keep", "g"),)), ("d", 0, (("read", "g", 0),)),
+    ("a", 0, (("make", "f"),)), ("b", 0, (("read", "f", 0),)), ("c", 0, (("keep", "g"),)),
+    ("d", 0, (("read", "g", 0),)),
     ("e", 0, (("make", "i"),)), ("j", 0, (("read", "i", 0),)),
 ))
 OUT = {("a", "f"): "out", ("c", "g"): "out", ("e", "i"): "in"}
@@ -36,7 +39,8 @@ def turned(rng, sharing):
 
 class TestRight(unittest.TestCase):
     def test_example(self):
-        self.assertEqual(told(check_changes, P2, WISHES, ("changes", 2, 4, G2, (PRICES[0], ("x", 0, 0, 0, 2)))), ("price", 1))
+        self.assertEqual(told(check_changes, P2, WISHES, ("changes", 2, 4, G2, (PRICES[0], ("x", 0, 0, 0, 2)))),
+                         ("price", 1))
         self.assertIs(check_changes(plan=P2, wishes=WISHES, thing=RIGHT), True)
 
     def test_what_is_returned(self):
@@ -66,8 +70,10 @@ class TestRight(unittest.TestCase):
                        (("h", -10 ** 30, -10 ** 30, 3, 4), ("x", -10 ** 30, -10 ** 30, 3, 4))):
             self.assertIs(check_changes(P2, WISHES, ("changes", 2, 4, G2, prices)), True)
         # with h behind itself, 1 is less than the cost 2, whatever is paid
-        self.assertEqual(told(check_changes, P2, WISHES, ("changes", 2, 4, G2, (("h", 0, 0, 0, 9), PRICES[1]))), ("price", 1))
-        self.assertEqual(told(check_changes, P2, WISHES, ("changes", 2, 4, G2, (("h", 0, 0, -8, 1), PRICES[1]))), ("price", 1))
+        self.assertEqual(told(check_changes, P2, WISHES, ("changes", 2, 4, G2, (("h", 0, 0, 0, 9), PRICES[1]))),
+                         ("price", 1))
+        self.assertEqual(told(check_changes, P2, WISHES, ("changes", 2, 4, G2, (("h", 0, 0, -8, 1), PRICES[1]))),
+                         ("price", 1))
 
     def test_no_buffers(self):
         plan = Plan(Web(*many_jobs(2)))
@@ -109,12 +115,16 @@ class TestReasons(unittest.TestCase):
     def test_price(self):
         for prices, at in (
             ((), 0), (PRICES[:1], 1), ((*PRICES, PRICES[1]), 2), ((*PRICES, None), 2), (PRICES[::-1], 0), ((1, 2), 0),
-            ((PRICES[0], 2), 1), ((PRICES[0], PRICES[0]), 1), ((PRICES[0], list(PRICES[1])), 1), ((("h", 0, 0, 0), PRICES[1]), 0),
+            ((PRICES[0], 2), 1), ((PRICES[0], PRICES[0]), 1), ((PRICES[0], list(PRICES[1])), 1),
+            ((("h", 0, 0, 0), PRICES[1]), 0),
             ((("h", 0, 0, 0, 1, 1), PRICES[1]), 0), ((("h", False, 0, 0, 1), PRICES[1]), 0),
-            ((("h", 0, 0, 0, True), PRICES[1]), 0), ((("h", 0, 0, None, 1), PRICES[1]), 0), ((("h", 0, "0", 0, 1), PRICES[1]), 0),
+            ((("h", 0, 0, 0, True), PRICES[1]), 0), ((("h", 0, 0, None, 1), PRICES[1]), 0),
+            ((("h", 0, "0", 0, 1), PRICES[1]), 0),
             # h behind itself costs 2, x behind itself 1
-            ((("h", 0, 2, 0, 1), PRICES[1]), 0), ((("h", 0, 1, 0, 2), PRICES[1]), 0), ((PRICES[0], ("x", 0, 1, 0, 0)), 1),
-            ((PRICES[0], ("x", 0, 0, 0, 2)), 1), ((PRICES[0], ("x", 1, 1, 0, 1)), 1), ((PRICES[0], ("x", -1, -1, 0, 1)), 1),
+            ((("h", 0, 2, 0, 1), PRICES[1]), 0), ((("h", 0, 1, 0, 2), PRICES[1]), 0),
+            ((PRICES[0], ("x", 0, 1, 0, 0)), 1),
+            ((PRICES[0], ("x", 0, 0, 0, 2)), 1), ((PRICES[0], ("x", 1, 1, 0, 1)), 1),
+            ((PRICES[0], ("x", -1, -1, 0, 1)), 1),
             ((PRICES[0], ("x", 0, 0, 1, 2)), 1), ((PRICES[0], ("x", 0, 0, -1, 0)), 1),
         ):
             self.check(P2, WISHES, ("changes", 2, 9, G2, prices), ("price", at))
@@ -162,6 +172,42 @@ class TestReasons(unittest.TestCase):
         self.check(plan, wishes, ("changes", 2, 0, mixed, best[4]), ("changes", -1))
         self.check(plan, wishes, ("changes", 2, 2, mixed, best[4]), ("sum", -1))
 
+    def test_three_buffers_that_live_in_the_same_frame(self):
+        # in one slot p comes first, then r, then q
+        plan = Plan(Web(
+            ("a", 0, (("make", "p"),)), ("b", 0, (("read", "p", 0),)), ("c", 0, (("make", "r"),)),
+            ("d", 0, (("read", "r", 0),)), ("e", 0, (("make", "q"),)), ("f", 0, (("read", "q", 0),)),
+        ))
+        sharing = ((1, (("p", 0), ("q", 0), ("r", 0))),)
+        for states, changes in (("abbcca", 3), ("aabbcc", 3), ("abacac", 6), ("abcabc", 6), ("acabba", 4)):
+            pairs = (("a", "p"), ("b", "p"), ("c", "r"), ("d", "r"), ("e", "q"), ("f", "q"))
+            wishes = dict(zip(pairs, states))
+            found = fewest_changes(plan, wishes)
+            self.assertEqual(found[1:4], (1, changes, sharing))
+            self.assertIs(check_changes(plan, wishes, found), True)
+            for other in range(8):
+                reason = ("changes", -1) if other != changes else True
+                self.assertEqual(told(check_changes, plan, wishes, ("changes", 1, other, sharing, found[4])), reason)
+        # beside other frames: a group of three slots
+        wide = ((3, (("p", 0), ("q", 1), ("r", 0))),)
+        for changes in range(8):
+            reason = ("sum", -1) if changes == 4 else ("changes", -1)
+            self.check(plan, wishes, ("changes", 3, changes, wide, found[4]), reason)
+
+    def test_buffers_without_a_cost(self):
+        both = side_by_side(P1, P2)
+        wishes = {("e", "s"): "out", ("w", "h"): "target"}
+        found = fewest_changes(both, wishes)
+        self.assertIn(None, [row[2] for row in cost_table(both)])
+        self.assertIs(check_changes(both, wishes, found), True)
+        # prices of buffers without a cost are not compared
+        prices = [
+            (name, first, last, low, high) if name in "prs" else (name, first + 99, last + 99, low - 9, high - 9)
+            for name, first, last, low, high in found[4]
+        ]
+        self.assertIs(check_changes(both, wishes, (*found[:4], tuple(prices))), True)
+        self.assertIsNone(fault_of_changes(both, slow_rows(both, wishes), (*found[:4], tuple(prices))))
+
     def test_random_values(self):
         rng = rng_of(232)
         reasons = set()
@@ -200,7 +246,8 @@ class TestErrors(unittest.TestCase):
         plan.sharing = ((7, (("h", 3), ("x", 5))),)
         self.assertIs(check_changes(plan, WISHES, RIGHT), True)
         plan.depth = 1
-        self.assertEqual(told(check_changes, plan, WISHES, RIGHT) is True, fault_of_changes(plan, slow_rows(plan, WISHES), RIGHT) is None)
+        self.assertEqual(told(check_changes, plan, WISHES, RIGHT) is True,
+                         fault_of_changes(plan, slow_rows(plan, WISHES), RIGHT) is None)
         plan.waits = ()
         self.assertIs(check_changes(plan, WISHES, fewest_changes(plan, WISHES)), True)
         plan.depth = None

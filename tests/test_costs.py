@@ -12,7 +12,8 @@ STILL = Plan(E1, waits=(("d", "a", 0), ("a", "d", 0)))
 # w makes two buffers, which live in one slot
 BOTH = Web(("w", 0, (("make", "s"), ("make", "r"))), ("v", 0, (("read", "r", 0), ("read", "s", 0))))
 CARRY = Web(
-    ("c", 0, (("carry", "g"),)), ("u", 0, (("read", "g", 0),)), ("m", 0, (("make", "x"),)), ("z", 0, (("read", "x", 0),)),
+    ("c", 0, (("carry", "g"),)), ("u", 0, (("read", "g", 0),)), ("m", 0, (("make", "x"),)),
+    ("z", 0, (("read", "x", 0),)),
 )
 
 FAR = Plan(
@@ -80,7 +81,8 @@ class TestCost(unittest.TestCase):
         self.assertEqual(cost_table(Plan(web)), (("g", "g", 1), ("g", "h", 1), ("h", "g", 2), ("h", "h", 1)))
 
     def test_keep(self):
-        web = Web(("k", 0, (("keep", "g"),)), ("m", 0, (("make", "x"),)), ("z", 0, (("read", "g", 0), ("read", "x", 0))))
+        web = Web(("k", 0, (("keep", "g"),)), ("m", 0, (("make", "x"),)),
+                  ("z", 0, (("read", "g", 0), ("read", "x", 0))))
         self.assertEqual(cost_table(Plan(web)), (("g", "g", 1), ("g", "x", 1), ("x", "g", 1), ("x", "x", 1)))
 
     def test_greatest_cost(self):

@@ -39,8 +39,10 @@ NAME = "[a-z]{1,8}"
 NUMBER = "(?:0|[1-9][0-9]{0,2})"
 MEMBER = f"{NAME}:{NUMBER}"
 FORMS = {
-    "wait": [NAME, NAME, NUMBER], "unwait": [NAME, NAME, NUMBER], "depth": [f"(?:none|{NUMBER})"], "move": [NAME, NUMBER],
-    "undo": [], "redo": [], "text": [], "verdict": [], "unmet": [], "clashes": [], "lead": [NAME, NAME], "cost": [NAME, NAME],
+    "wait": [NAME, NAME, NUMBER], "unwait": [NAME, NAME, NUMBER], "depth": [f"(?:none|{NUMBER})"],
+    "move": [NAME, NUMBER],
+    "undo": [], "redo": [], "text": [], "verdict": [], "unmet": [], "clashes": [], "lead": [NAME, NAME],
+    "cost": [NAME, NAME],
     "least": [], "slots": [], "place": [NAME, "(?:0|[1-9][0-9]{0,29})"],
 }
 
@@ -85,9 +87,11 @@ class TestExamples(unittest.TestCase):
     def test_examples(self):
         desk = Desk()
         self.assertEqual([desk.say("plan " + TEXT), desk.say("slots")], ["ok", "2"])
-        self.assertEqual([desk.say("verdict"), desk.say("share 2 h:0 x:1"), desk.say("verdict"), desk.say("place h 7"), desk.say("cost h h")],
+        self.assertEqual([desk.say("verdict"), desk.say("share 2 h:0 x:1"), desk.say("verdict"),
+                          desk.say("place h 7"), desk.say("cost h h")],
                          ["wrong", "ok", "right", "0 1", "2"])
-        self.assertEqual([desk.say("undo"), desk.say("lead w v"), desk.say("unmet"), desk.say("period v:3")], ["ok", "-1", "none", "5/1"])
+        self.assertEqual([desk.say("undo"), desk.say("lead w v"), desk.say("unmet"), desk.say("period v:3")],
+                         ["ok", "-1", "none", "5/1"])
         self.assertEqual(caught(desk.say, "lead w"), ("InvalidCommand", 2))
         self.assertEqual(caught(desk.say, "lead w v "), ("InvalidCommand", 3))
         self.assertEqual(desk.say(line="lead w v"), "-1")
@@ -112,11 +116,14 @@ class TestPlan(unittest.TestCase):
         for desk in (Desk(), desk_with(P2)):
             before = caught(desk.say, "text") or desk.say("text")
             for text, error in (
-                ("-", ("InvalidText", 0, 0)), ("job a 0 / job b", ("InvalidText", 1, 2)), ("job a 0 /", ("InvalidText", 0, 3)),
-                ("/ job a 0", ("InvalidText", 0, 0)), (" job a 0", ("InvalidText", 0, 0)), ("job a 0 / ", ("InvalidText", 1, 0)),
+                ("-", ("InvalidText", 0, 0)), ("job a 0 / job b", ("InvalidText", 1, 2)),
+                ("job a 0 /", ("InvalidText", 0, 3)),
+                ("/ job a 0", ("InvalidText", 0, 0)), (" job a 0", ("InvalidText", 0, 0)),
+                ("job a 0 / ", ("InvalidText", 1, 0)),
                 ("job a 0 / / job b 0", ("InvalidText", 1, 0)), ("job a 0  / job b 0", ("InvalidText", 0, 3)),
                 ("job a 0 / job a 0", ("InvalidWeb", "name", 1)), ("job a 0 / wait a b 0", ("InvalidPlan", "waits", 0)),
-                ("job a 0 make:r / job b 0 read:r:0 / group 1 r:1", ("InvalidSharing", 0)), ("job a 0\njob b", ("InvalidText", 1, 2)),
+                ("job a 0 make:r / job b 0 read:r:0 / group 1 r:1", ("InvalidSharing", 0)),
+                ("job a 0\njob b", ("InvalidText", 1, 2)),
             ):
                 self.assertEqual(caught(desk.say, "plan " + text), error)
             self.assertEqual(caught(desk.say, "text") or desk.say("text"), before)
@@ -144,17 +151,20 @@ class TestForm(unittest.TestCase):
             self.assertEqual(caught(desk.say, "text") or desk.say("text"), before)
 
     def test_values_that_are_no_commands(self):
-        for value in (*ODD, P1, ["text"], "", " ", "text\n", "Text", " text", "tex", "none", "share\n", "-", "say", "status", "period\n"):
+        for value in (*ODD, P1, ["text"], "", " ", "text\n", "Text", " text", "tex", "none", "share\n", "-", "say",
+                      "status", "period\n"):
             self.check(value, 0)
 
     def test_without_a_plan(self):
-        for line in ("wait v w 1", "unwait a b 0", "depth none", "move a 3", "share apart", "share 1 h:0", "undo", "redo", "text", "verdict",
+        for line in ("wait v w 1", "unwait a b 0", "depth none", "move a 3", "share apart", "share 1 h:0", "undo",
+                     "redo", "text", "verdict",
                      "unmet", "clashes", "lead q q", "least", "cost q q", "slots", "place q 9", "period", "period q:1"):
             self.assertEqual(caught(Desk().say, line), ("InvalidCommand", 0))
 
     def test_words_missing_or_too_many(self):
         desks = (Desk(), desk_with(P2))
-        whole = {"wait": "v w 1", "unwait": "v w 1", "depth": "2", "move": "v 0", "undo": "", "redo": "", "text": "", "verdict": "", "unmet": "",
+        whole = {"wait": "v w 1", "unwait": "v w 1", "depth": "2", "move": "v 0", "undo": "", "redo": "", "text": "",
+                 "verdict": "", "unmet": "",
                  "clashes": "", "lead": "v w", "cost": "h x", "least": "", "slots": "", "place": "h 3"}
         for sort, rest in whole.items():
             words = [sort, *rest.split(" ")] if rest else [sort]
@@ -169,10 +179,14 @@ class TestForm(unittest.TestCase):
         desks = (Desk(), desk_with(P2))
         names = ("", "A", "1", "abcdefghi", "a1", "a:0", "none1", "a\n", "-", "a-b")
         numbers = ("", "-1", "01", "00", "+1", "x", "1.0", "1000", "0000", "\u0661", "1\n", "1_0", "none")
-        for line, at, kind in (("wait {} w 1", 1, "name"), ("wait v {} 1", 2, "name"), ("wait v w {}", 3, "number"), ("unwait {} w 1", 1, "name"),
-                               ("unwait v {} 1", 2, "name"), ("unwait v w {}", 3, "number"), ("move {} 1", 1, "name"), ("move v {}", 2, "number"),
-                               ("lead {} w", 1, "name"), ("lead w {}", 2, "name"), ("cost {} h", 1, "name"), ("cost h {}", 2, "name"),
-                               ("place {} 1", 1, "name"), ("place h {}", 2, "long"), ("depth {}", 1, "number"), ("share {} h:0", 1, "number")):
+        for line, at, kind in (("wait {} w 1", 1, "name"), ("wait v {} 1", 2, "name"), ("wait v w {}", 3, "number"),
+                               ("unwait {} w 1", 1, "name"),
+                               ("unwait v {} 1", 2, "name"), ("unwait v w {}", 3, "number"), ("move {} 1", 1, "name"),
+                               ("move v {}", 2, "number"),
+                               ("lead {} w", 1, "name"), ("lead w {}", 2, "name"), ("cost {} h", 1, "name"),
+                               ("cost h {}", 2, "name"),
+                               ("place {} 1", 1, "name"), ("place h {}", 2, "long"), ("depth {}", 1, "number"),
+                               ("share {} h:0", 1, "number")):
             words = names if kind == "name" else numbers
             for word in words:
                 if (kind == "long" and word in ("1000",)) or (word == "none" and line.startswith("depth")):
@@ -195,10 +209,14 @@ class TestForm(unittest.TestCase):
     def test_share(self):
         desks = (Desk(), desk_with(P2))
         for line, word in (
-            ("share", 1), ("share ", 1), ("share 2", 2), ("share 2 ", 2), ("share 2 h", 2), ("share 2 h:", 2), ("share 2 h:0 x", 3), ("share h:0", 1),
-            ("share 2 h:0 /", 4), ("share 2 h:0 / 3", 5), ("share 2 h:0 / x:1", 4), ("share 2 / 3 h:0", 2), ("share / 2 h:0", 1),
-            ("share 2 h:0 / / 2 x:1", 4), ("share 2 h:0 / 2 x:1 /", 7), ("share 2 h:0 3 x:1", 3), ("share apart x", 2), ("share apart ", 2),
-            ("share Apart", 1), ("share 2 apart", 2), ("share 2 h:0 apart", 3), ("share 2 h:0  / 2 x:1", 3), ("share 2 h:0 /  2 x:1", 4),
+            ("share", 1), ("share ", 1), ("share 2", 2), ("share 2 ", 2), ("share 2 h", 2), ("share 2 h:", 2),
+            ("share 2 h:0 x", 3), ("share h:0", 1),
+            ("share 2 h:0 /", 4), ("share 2 h:0 / 3", 5), ("share 2 h:0 / x:1", 4), ("share 2 / 3 h:0", 2),
+            ("share / 2 h:0", 1),
+            ("share 2 h:0 / / 2 x:1", 4), ("share 2 h:0 / 2 x:1 /", 7), ("share 2 h:0 3 x:1", 3),
+            ("share apart x", 2), ("share apart ", 2),
+            ("share Apart", 1), ("share 2 apart", 2), ("share 2 h:0 apart", 3), ("share 2 h:0  / 2 x:1", 3),
+            ("share 2 h:0 /  2 x:1", 4),
             ("share 2 h:00", 2), ("share 2 h:1:1", 2), ("share 2 H:1", 2), ("share 2 :1", 2), ("share 2 h:-1", 2),
         ):
             self.check(line, word, desks)
@@ -206,15 +224,19 @@ class TestForm(unittest.TestCase):
 
     def test_period(self):
         desks = (Desk(), desk_with(P2))
-        for line, word in (("period ", 1), ("period v", 1), ("period v:", 1), ("period v:x", 1), ("period v:01", 1), ("period V:1", 1), ("period v:1 ", 2),
-                           ("period v:1 v:1", 2), ("period v:1 w:2 v:3", 3), ("period q:1 q:1", 2), ("period v:1  w:1", 2), ("period v:1:1", 1)):
+        for line, word in (("period ", 1), ("period v", 1), ("period v:", 1), ("period v:x", 1), ("period v:01", 1),
+                           ("period V:1", 1), ("period v:1 ", 2),
+                           ("period v:1 v:1", 2), ("period v:1 w:2 v:3", 3), ("period q:1 q:1", 2),
+                           ("period v:1  w:1", 2), ("period v:1:1", 1)):
             self.check(line, word, desks)
 
     def test_random_lines(self):
         rng = rng_of(341)
-        words = ("a", "v", "w", "h", "x", "q", "none", "0", "1", "2", "4", "999", "1000", "01", "", "/", "h:0", "x:1", "h:1000", "v:3", "w:9999", "q:1",
+        words = ("a", "v", "w", "h", "x", "q", "none", "0", "1", "2", "4", "999", "1000", "01", "", "/", "h:0", "x:1",
+                 "h:1000", "v:3", "w:9999", "q:1",
                  "v:0", "apart", "V", "-", "abcdefghi", "1" * 30, "1" * 31, "h:", ":1", "text")
-        whole = ("share 2 h:0 x:1", "share 200 h:3 / 2 x:1", "period v:1 w:3 y:999 t:4", "wait v w 1", "unwait v w 1", "move t 0", "place h 7")
+        whole = ("share 2 h:0 x:1", "share 200 h:3 / 2 x:1", "period v:1 w:3 y:999 t:4", "wait v w 1", "unwait v w 1",
+                 "move t 0", "place h 7")
         desk = desk_with(P2)
         faults = []
         for _ in range(6000):
@@ -238,13 +260,16 @@ class TestCommands(unittest.TestCase):
         desk = desk_with(P2)
         for line, plan in (
             ("wait y w 3", P2.with_wait(("y", "w", 3))), ("unwait v w 1", P2.without_wait(("v", "w", 1))),
-            ("depth 4", Plan(E2, waits=P2.waits, sharing=G2, depth=4)), ("move t 0", Plan(E2, waits=P2.waits, sharing=G2, rows={1: ("t", "v", "y")})),
-            ("move v 2", Plan(E2, waits=P2.waits, sharing=G2, rows={1: ("t", "y", "v")})), ("share apart", Plan(E2, waits=P2.waits)),
+            ("depth 4", Plan(E2, waits=P2.waits, sharing=G2, depth=4)),
+            ("move t 0", Plan(E2, waits=P2.waits, sharing=G2, rows={1: ("t", "v", "y")})),
+            ("move v 2", Plan(E2, waits=P2.waits, sharing=G2, rows={1: ("t", "y", "v")})),
+            ("share apart", Plan(E2, waits=P2.waits)),
             ("share 3 x:1 h:2", Plan(E2, waits=P2.waits, sharing=((3, (("h", 2), ("x", 1))),))),
             ("share 7 x:6 / 200 h:199", Plan(E2, waits=P2.waits, sharing=((200, (("h", 199),)), (7, (("x", 6),))))),
         ):
             self.assertEqual([desk.say(line), desk.say("text")], ["ok", text_of(plan)])
-            self.assertEqual([desk.say("undo"), desk.say("text"), desk.say("redo"), desk.say("text")], ["ok", text_of(P2), "ok", text_of(plan)])
+            self.assertEqual([desk.say("undo"), desk.say("text"), desk.say("redo"), desk.say("text")],
+                             ["ok", text_of(P2), "ok", text_of(plan)])
             desk.say("undo")
         desk.say("depth 2")
         self.assertEqual([desk.say("depth none"), desk.say("text"), desk.say("undo"), desk.say("text")],
@@ -257,25 +282,35 @@ class TestCommands(unittest.TestCase):
         desk.say("undo")
         before = desk.say("text")
         for line, error in (
-            ("wait q w 1", ("InvalidPlan", "waits", 0)), ("wait w h 1", ("InvalidPlan", "waits", 0)), ("wait v w 5", ("InvalidPlan", "waits", 0)),
-            ("unwait v w 2", ("InvalidPlan", "waits", 0)), ("unwait q w 1", ("InvalidPlan", "waits", 0)), ("depth 0", ("InvalidPlan", "depth", -1)),
-            ("depth 5", ("InvalidPlan", "depth", -1)), ("depth 999", ("InvalidPlan", "depth", -1)), ("move q 9", ("NoJob", "q")), ("move h 0", ("NoJob", "h")),
-            ("move v 3", ("InvalidPlan", "rows", 1)), ("move w 1", ("InvalidPlan", "rows", 0)), ("share 0 h:0 x:0", ("InvalidSharing", 0)),
-            ("share 201 h:0 x:0", ("InvalidSharing", 0)), ("share 2 h:0 x:2", ("InvalidSharing", 0)), ("share 2 h:0", ("InvalidSharing", 1)),
-            ("share 2 h:0 / 3 h:0", ("InvalidSharing", 1)), ("share 2 h:0 h:1", ("InvalidSharing", 0)), ("share 2 q:0", ("InvalidSharing", 0)),
+            ("wait q w 1", ("InvalidPlan", "waits", 0)), ("wait w h 1", ("InvalidPlan", "waits", 0)),
+            ("wait v w 5", ("InvalidPlan", "waits", 0)),
+            ("unwait v w 2", ("InvalidPlan", "waits", 0)), ("unwait q w 1", ("InvalidPlan", "waits", 0)),
+            ("depth 0", ("InvalidPlan", "depth", -1)),
+            ("depth 5", ("InvalidPlan", "depth", -1)), ("depth 999", ("InvalidPlan", "depth", -1)),
+            ("move q 9", ("NoJob", "q")), ("move h 0", ("NoJob", "h")),
+            ("move v 3", ("InvalidPlan", "rows", 1)), ("move w 1", ("InvalidPlan", "rows", 0)),
+            ("share 0 h:0 x:0", ("InvalidSharing", 0)),
+            ("share 201 h:0 x:0", ("InvalidSharing", 0)), ("share 2 h:0 x:2", ("InvalidSharing", 0)),
+            ("share 2 h:0", ("InvalidSharing", 1)),
+            ("share 2 h:0 / 3 h:0", ("InvalidSharing", 1)), ("share 2 h:0 h:1", ("InvalidSharing", 0)),
+            ("share 2 q:0", ("InvalidSharing", 0)),
             ("share 2 h:0 / 1 w:0", ("InvalidSharing", 1)),
         ):
             self.assertEqual(caught(desk.say, line), error, line)
             self.assertEqual(desk.say("text"), before)
-        self.assertEqual([desk.say("redo"), desk.say("undo"), desk.say("undo"), caught(desk.say, "undo"), desk.say("text")],
+        self.assertEqual([desk.say("redo"), desk.say("undo"), desk.say("undo"), caught(desk.say, "undo"),
+                          desk.say("text")],
                          ["ok", "ok", "ok", ("NothingToUndo",), text_of(P2)])
-        self.assertEqual([desk.say("redo"), desk.say("redo"), caught(desk.say, "redo")], ["ok", "ok", ("NothingToRedo",)])
+        self.assertEqual([desk.say("redo"), desk.say("redo"), caught(desk.say, "redo")],
+                         ["ok", "ok", ("NothingToRedo",)])
 
     def test_names_that_are_not_in_the_plan(self):
         for desk in (desk_with(P2), desk_with(read_plan(STILL.replace(" / ", "\n")))):
             for line, error in (
-                ("lead q w", ("NoJob", "q")), ("lead w q", ("NoJob", "q")), ("lead h q", ("NoJob", "h")), ("cost q h", ("NoBuffer", "q")),
-                ("cost h w", ("NoBuffer", "w")), ("place q 1", ("NoBuffer", "q")), ("place w 1", ("NoBuffer", "w")), ("period q:3 b:1", ("NoJob", "b")),
+                ("lead q w", ("NoJob", "q")), ("lead w q", ("NoJob", "q")), ("lead h q", ("NoJob", "h")),
+                ("cost q h", ("NoBuffer", "q")),
+                ("cost h w", ("NoBuffer", "w")), ("place q 1", ("NoBuffer", "q")), ("place w 1", ("NoBuffer", "w")),
+                ("period q:3 b:1", ("NoJob", "b")),
                 ("period h:3 w:1", ("NoJob", "h")),
             ):
                 self.assertEqual(caught(desk.say, line), error)
@@ -288,7 +323,8 @@ class TestCommands(unittest.TestCase):
                 desk.say(line)
             self.assertTrue(oracles.is_ring(read_plan(STILL.replace(" / ", "\n")), error.exception.ring))
         self.assertIn(desk.say("verdict"), ("still w > v", "still v > w"))
-        self.assertEqual([desk.say("place h 3"), desk.say("text")[:9], desk.say("unwait w v 0"), desk.say("verdict")], ["0 0", "job w 0 m", "ok", "wrong"])
+        self.assertEqual([desk.say("place h 3"), desk.say("text")[:9], desk.say("unwait w v 0"), desk.say("verdict")],
+                         ["0 0", "job w 0 m", "ok", "wrong"])
         alone = Desk()
         alone.say("plan job a 0 / wait a a 0")
         self.assertEqual(alone.say("verdict"), "still a")
@@ -298,10 +334,12 @@ class TestCommands(unittest.TestCase):
         desk.say("plan job w 0 keep:h / job v 1 read:h:1 / wait v w 1")
         self.assertEqual([desk.say("slots"), desk.say("wait w v 0"), desk.say("slots")], ["kept h", "ok", "1"])
         desk.say("plan job w 0 make:h / job v 1 read:h:1 / wait v w 1")
-        self.assertEqual([desk.say("slots"), desk.say("cost h h"), desk.say("lead v w"), desk.say("unmet"), desk.say("least")],
+        self.assertEqual([desk.say("slots"), desk.say("cost h h"), desk.say("lead v w"), desk.say("unmet"),
+                          desk.say("least")],
                          ["endless h", "none", "none", "none", "v w 1"])
         desk.say("plan job w 0")
-        self.assertEqual([desk.say("slots"), desk.say("clashes"), desk.say("least"), desk.say("unmet"), desk.say("period")], ["0", "0", "none", "none", "1/1"])
+        self.assertEqual([desk.say("slots"), desk.say("clashes"), desk.say("least"), desk.say("unmet"),
+                          desk.say("period")], ["0", "0", "none", "none", "1/1"])
 
     def test_lists(self):
         desk = Desk()
@@ -336,9 +374,11 @@ class TestCommands(unittest.TestCase):
             " ".join([str(count), *[f"{name}:{shift}" for name, shift in members]]) for count, members in sharing)
         depth = rng.choice((None, 1, 2, 5))
         calls = {
-            "wait": (lambda: board.add_wait(wait), "wait {} {} {}".format(*wait)), "unwait": (lambda: board.drop_wait(wait), "unwait {} {} {}".format(*wait)),
+            "wait": (lambda: board.add_wait(wait), "wait {} {} {}".format(*wait)),
+            "unwait": (lambda: board.drop_wait(wait), "unwait {} {} {}".format(*wait)),
             "depth": (lambda: board.set_depth(depth), "depth " + ("none" if depth is None else str(depth))),
-            "move": (lambda: board.move(wait[0], wait[2]), f"move {wait[0]} {wait[2]}"), "share": (lambda: board.share(sharing), "share " + groups),
+            "move": (lambda: board.move(wait[0], wait[2]), f"move {wait[0]} {wait[2]}"),
+            "share": (lambda: board.share(sharing), "share " + groups),
             "undo": (board.undo, "undo"), "redo": (board.redo, "redo"),
         }
         call, line = calls[kind]

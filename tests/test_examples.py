@@ -235,13 +235,15 @@ class TestExamples(unittest.TestCase):
         self.assertEqual([two.waits, lead(two, "wa", "vb"), lead(two, "wb", "va"), fewest_slots(two)[1]],
                          [(("va", "wb", 1), ("vb", "wa", 0), ("wa", "yb", 1), ("wb", "ya", 0)), 0, -1, 2])
         cut = cut_queue(P1, 0, 2, 2)
-        self.assertEqual([cut.rows, cut.waits == tuple(sorted(P1.waits + (("c", "b", 0), ("a", "c", 1)))), lead(cut, "a", "c")],
+        self.assertEqual([cut.rows, cut.waits == tuple(sorted(P1.waits + (("c", "b", 0), ("a", "c", 1)))),
+                          lead(cut, "a", "c")],
                          [{0: ("a", "b"), 1: ("d", "e", "f"), 2: ("c",)}, True, 0])
         self.assertEqual(renamed(renamed(P2, {"w": "t", "t": "w"}), {"w": "t", "t": "w"}), P2)
 
     def test_boards(self):
         board = Board(P1)
-        found = [board.status, board.drop_wait(("d", "a", 0)), board.undo(), board.add_wait(("a", "b", 0)), board.slots, board.undo()]
+        found = [board.status, board.drop_wait(("d", "a", 0)), board.undo(), board.add_wait(("a", "b", 0)),
+                 board.slots, board.undo()]
         self.assertEqual(found, ["right", "wrong", "right", "still", None, "right"])
         told = (board.slots[1], board.on_trial(lambda it: (it.add_wait(("c", "d", 0)), it.slots[1])), board.slots[1],
                 board.edits, board.undone)
@@ -255,10 +257,13 @@ class TestExamples(unittest.TestCase):
         desk = Desk()
         text = "plan job w 0 make:h / job v 1 read:h:1 / job t 1 make:x / job y 1 read:x:0 / wait v w 1 / wait w y 1"
         self.assertEqual([desk.say(text), desk.say("slots")], ["ok", "2"])
-        self.assertEqual([desk.say("verdict"), desk.say("share 2 h:0 x:1"), desk.say("verdict"), desk.say("place h 7"), desk.say("cost h h")],
+        self.assertEqual([desk.say("verdict"), desk.say("share 2 h:0 x:1"), desk.say("verdict"),
+                          desk.say("place h 7"), desk.say("cost h h")],
                          ["wrong", "ok", "right", "0 1", "2"])
-        self.assertEqual([desk.say("undo"), desk.say("lead w v"), desk.say("unmet"), desk.say("period v:3")], ["ok", "-1", "none", "5/1"])
-        self.assertEqual([caught(desk.say, "lead w"), caught(desk.say, "lead w v ")], [("InvalidCommand", 2), ("InvalidCommand", 3)])
+        self.assertEqual([desk.say("undo"), desk.say("lead w v"), desk.say("unmet"), desk.say("period v:3")],
+                         ["ok", "-1", "none", "5/1"])
+        self.assertEqual([caught(desk.say, "lead w"), caught(desk.say, "lead w v ")],
+                         [("InvalidCommand", 2), ("InvalidCommand", 3)])
 
 
 if __name__ == "__main__":

@@ -83,7 +83,8 @@ class TestSideBySide(unittest.TestCase):
                       sharing=((2, (("g", 1),)),))
         plan = side_by_side(first, second)
         self.assertEqual([plan.web.sizes, plan.sharing], [{"g": 1, "r": 7}, ((2, (("g", 1),)), (4, (("r", 3),)))])
-        self.assertEqual([plan.web.uses("m"), plan.web.uses("n")], [(("carry", "g"),), (("read", "g", 1), ("update", "g"))])
+        self.assertEqual([plan.web.uses("m"), plan.web.uses("n")],
+                         [(("carry", "g"),), (("read", "g", 1), ("update", "g"))])
         self.assertTrue(plan.web.can_be_left_out("m"))
 
     def test_what_stays(self):
@@ -91,7 +92,8 @@ class TestSideBySide(unittest.TestCase):
         words = []
         for _ in range(80):
             plans = [lively(rng, jobs=rng.randint(1, 4), buffers=rng.randint(0, 3)) for _ in range(2)]
-            plans = [Plan(on_queues(one.web, rng.choice(((0,), (1,), (0, 1)))), waits=one.waits, sharing=one.sharing) for one in plans]
+            plans = [Plan(on_queues(one.web, rng.choice(((0,), (1,), (0, 1)))), waits=one.waits,
+                          sharing=one.sharing) for one in plans]
             plans = [with_letters(one, "ab"[at]) for at, one in enumerate(plans)]
             if any(oracles.stands_still(one) for one in plans):
                 continue
@@ -124,7 +126,8 @@ class TestSideBySide(unittest.TestCase):
         first = Plan(one_web("a", "r"))
         for other in (one_web("a", "s"), one_web("r", "s"), one_web("b", "r"), one_web("b", "a"), one_web("b", "az")):
             self.assertEqual(caught(side_by_side, first, Plan(other)), ("InvalidPlan", "name", 1))
-            self.assertEqual(caught(side_by_side, Plan(one_web("q", "qq")), first, Plan(other)), ("InvalidPlan", "name", 2))
+            self.assertEqual(caught(side_by_side, Plan(one_web("q", "qq")), first, Plan(other)),
+                             ("InvalidPlan", "name", 2))
             self.assertEqual(caught(side_by_side, first, Plan(other), first), ("InvalidPlan", "name", 1))
         self.assertEqual(caught(side_by_side, first, first), ("InvalidPlan", "name", 1))
         # ahead of the queues
@@ -133,6 +136,9 @@ class TestSideBySide(unittest.TestCase):
     def test_queues(self):
         plans = [Plan(Web(bare(name, 0))) for name in "abcde"]
         self.assertEqual(side_by_side(*plans[:4]).web.queues, (0, 1, 2, 3))
+        wide = Plan(Web(bare("y", 0), bare("z", 3)))
+        self.assertEqual(caught(side_by_side, plans[0], wide), ("TooMany", 4))
+        self.assertEqual(caught(side_by_side, wide, plans[0]), ("TooMany", 4))
         self.assertEqual(caught(side_by_side, *plans), ("TooMany", 4))
         many = Plan(Web(*[bare("k" + chr(97 + at), 3) for at in range(16)]))
         # ahead of the jobs
@@ -196,8 +202,10 @@ class TestTwice(unittest.TestCase):
     def test_ages_and_waits_of_each_size(self):
         web = Web(("m", 0, (("make", "b"),)), ("z", 1, tuple(("read", "b", age) for age in range(4))))
         two = twice(Plan(web, waits=[("z", "m", back) for back in range(5)]))
-        self.assertEqual(two.web.uses("za"), (("read", "ba", 0), ("read", "bb", 1), ("read", "ba", 1), ("read", "bb", 2)))
-        self.assertEqual(two.web.uses("zb"), (("read", "bb", 0), ("read", "ba", 0), ("read", "bb", 1), ("read", "ba", 1)))
+        self.assertEqual(two.web.uses("za"), (("read", "ba", 0), ("read", "bb", 1), ("read", "ba", 1),
+                                              ("read", "bb", 2)))
+        self.assertEqual(two.web.uses("zb"), (("read", "bb", 0), ("read", "ba", 0), ("read", "bb", 1),
+                                              ("read", "ba", 1)))
         self.assertEqual(two.waits, (
             ("za", "ma", 0), ("za", "ma", 1), ("za", "ma", 2), ("za", "mb", 1), ("za", "mb", 2),
             ("zb", "ma", 0), ("zb", "ma", 1), ("zb", "mb", 0), ("zb", "mb", 1), ("zb", "mb", 2),
@@ -250,7 +258,8 @@ class TestTwice(unittest.TestCase):
         long = "abcdefgh"
         for web, at in (
             (C, 0), (Web(bare("a", 0), ("k", 0, (("keep", "h"),)), ("v", 0, (("read", "h", 0),))), 1),
-            (Web(bare("a", 0), bare(long, 1), bare("b", 0)), 1), (Web(("m", 0, (("make", long),)), ("v", 0, (("read", long, 0),))), 0),
+            (Web(bare("a", 0), bare(long, 1), bare("b", 0)), 1),
+            (Web(("m", 0, (("make", long),)), ("v", 0, (("read", long, 0),))), 0),
             (Web(("m", 0, (("make", "x"), ("make", long))), ("v", 0, (("read", long, 0), ("read", "x", 0)))), 0),
             (Web(bare("a", 0), ("k", 0, (("carry", "h"),)), (long, 0, (("read", "h", 0),))), 1),
             (Web(*many_jobs(15), bare(long, 0)), 15),
@@ -336,11 +345,14 @@ class TestRenamed(unittest.TestCase):
         self.assertEqual(renamed(plan=other, names={"w": "t", "t": "w"}), P2)
         # a job and a buffer
         both = renamed(P2, {"w": "h", "h": "w"})
-        self.assertEqual([both.web.jobs, both.web.buffers, both.sharing], [("h", "v", "t", "y"), ("w", "x"), ((2, (("w", 0), ("x", 1))),)])
+        self.assertEqual([both.web.jobs, both.web.buffers, both.sharing],
+                         [("h", "v", "t", "y"), ("w", "x"), ((2, (("w", 0), ("x", 1))),)])
 
     def test_wherever_a_name_stands(self):
-        plan = Plan(Web(("a", 0, (("make", "r"), ("read", "q", 2))), ("b", 0, (("update", "r"),)), ("c", 1, (("carry", "q"),)), sizes={"r": 4}),
-                    rows={0: ("b", "a")}, waits=(("a", "c", 3), ("b", "b", 1)), depth=2, sharing=((5, (("r", 4),)), (2, (("q", 1),))))
+        plan = Plan(Web(("a", 0, (("make", "r"), ("read", "q", 2))), ("b", 0, (("update", "r"),)),
+                        ("c", 1, (("carry", "q"),)), sizes={"r": 4}),
+                    rows={0: ("b", "a")}, waits=(("a", "c", 3), ("b", "b", 1)), depth=2,
+                    sharing=((5, (("r", 4),)), (2, (("q", 1),))))
         other = renamed(plan, {"a": "zz", "b": "a", "r": "b", "q": "yy", "c": "c", "none": "such", 7: 8, (): []})
         self.assertEqual(str(other), "job zz 0 make:b read:yy:2\njob a 0 update:b\njob c 1 carry:yy\nsize b 4\n"
                                      "row 0 a zz\nwait a a 1\nwait zz c 3\ndepth 2\ngroup 5 b:4\ngroup 2 yy:1")
@@ -363,7 +375,8 @@ class TestRenamed(unittest.TestCase):
                 found = [parts[0]]
                 for part in parts[1:]:
                     pieces = part.split(":")
-                    if pieces[0] in ("make", "keep", "carry", "update", "read") and len(pieces) > 1 and parts[0] == "job":
+                    if pieces[0] in ("make", "keep", "carry", "update",
+                                     "read") and len(pieces) > 1 and parts[0] == "job":
                         pieces[1] = changed.get(pieces[1], pieces[1])
                     else:
                         pieces[0] = changed.get(pieces[0], pieces[0])
@@ -391,13 +404,16 @@ class TestRenamed(unittest.TestCase):
     def test_errors_of_the_web(self):
         for names, reason in (
             ({"v": "w"}, ("name", 1)), ({"w": "v"}, ("name", 1)), ({"w": "h"}, ("name", 0)), ({"h": "y"}, ("name", 3)),
-            ({"h": "x"}, ("maker", 2)), ({"h": "x", "w": "x"}, ("name", 0)), ({"t": "w", "w": "tt", "y": "v"}, ("name", 3)),
+            ({"h": "x"}, ("maker", 2)), ({"h": "x", "w": "x"}, ("name", 0)),
+            ({"t": "w", "w": "tt", "y": "v"}, ("name", 3)),
         ):
             self.assertEqual(caught(renamed, P2, names), ("InvalidWeb", *reason))
-            jobs = [(names.get(job, job), E2.queue_of(job), tuple((use[0], names.get(use[1], use[1]), *use[2:]) for use in E2.uses(job)))
+            jobs = [(names.get(job, job), E2.queue_of(job), tuple((use[0], names.get(use[1], use[1]),
+                                                                   *use[2:]) for use in E2.uses(job)))
                     for job in E2.jobs]
             self.assertEqual(caught(Web, *jobs), ("InvalidWeb", *reason))
-        two = Plan(Web(("a", 0, (("make", "p"), ("make", "q"))), ("b", 0, (("read", "p", 0), ("read", "q", 0))), sizes={"p": 2}))
+        two = Plan(Web(("a", 0, (("make", "p"), ("make", "q"))), ("b", 0, (("read", "p", 0), ("read", "q", 0))),
+                       sizes={"p": 2}))
         self.assertEqual(caught(renamed, two, {"p": "q"}), ("InvalidWeb", "uses", 0))
         with self.assertRaises(InvalidWeb):
             renamed(two, {"p": []})

@@ -194,7 +194,8 @@ class TestSyntax(unittest.TestCase):
                 self.assertNotEqual(node.func.attr, "sort", (name, node.lineno))
 
     def test_generators_are_iterated_at_once(self):
-        made = {node.name for _, node in walk(ast.FunctionDef) if any(isinstance(one, ast.Yield) for one in ast.walk(node))}
+        made = {node.name for _, node in walk(ast.FunctionDef) if any(isinstance(one,
+                                                                                 ast.Yield) for one in ast.walk(node))}
         self.assertEqual(made, {"plain_run", "beginning", "clashes", "faults", "savings", "first_starts"})
         taken = []
         for _, tree in trees().items():

@@ -39,7 +39,8 @@ FUNCTIONS = {
     "plain": ["plain_run(web, *, frames, left_out=())", "plain_finds(web, job, frame, *, left_out=())",
               "plain_content(web, buffer, frame, *, left_out=())"],
     "needs": ["needs(web)"],
-    "leading": ["lead(plan, of, job)", "way(plan, of, job)", "lead_table(plan)", "unmet(plan)", "closed_lot(plan, of, frame, upto)"],
+    "leading": ["lead(plan, of, job)", "way(plan, of, job)", "lead_table(plan)", "unmet(plan)",
+                "closed_lot(plan, of, frame, upto)"],
     "leadcheck": ["check_leads(plan, thing)"],
     "flows": ["flow(plan)"],
     "flowcheck": ["check_flow(plan, thing)"],
@@ -54,24 +55,30 @@ FUNCTIONS = {
     "slotcheck": ["check_slots(plan, thing)"],
     "states": ["state_row(plan, buffer, wishes)", "fewest_changes(plan, wishes)"],
     "changecheck": ["check_changes(plan, wishes, thing)"],
-    "speeds": ["least_period(plan, lengths)", "check_period(plan, lengths, thing)", "first_starts(plan, lengths, *, frames)"],
-    "joining": ["side_by_side(plan, *others)", "twice(plan)", "cut_queue(plan, queue, at, new)", "renamed(plan, names)"],
+    "speeds": ["least_period(plan, lengths)", "check_period(plan, lengths, thing)",
+               "first_starts(plan, lengths, *, frames)"],
+    "joining": ["side_by_side(plan, *others)", "twice(plan)", "cut_queue(plan, queue, at, new)",
+                "renamed(plan, names)"],
     "texts": ["show_web(web)", "show_plan(plan)"],
     "reader": ["read_web(text)", "read_plan(text)"],
     "tables": ["lead_grid(plan)", "cost_grid(plan)", "slot_grid(plan, *, frames=6)"],
 }
 METHODS = {
     ("leads", "Lead"): ["__init__(value=None)"],
-    ("webs", "Web"): ["__init__(*jobs, sizes=None)", "queue_of(job)", "uses(job)", "maker(buffer)", "size(buffer)", "uses_of(buffer)",
+    ("webs", "Web"): ["__init__(*jobs, sizes=None)", "queue_of(job)", "uses(job)", "maker(buffer)", "size(buffer)",
+                      "uses_of(buffer)",
                       "writers(buffer)", "can_be_left_out(job)", "read(text)"],
-    ("plans", "Plan"): ["__init__(web, *, rows=None, waits=(), depth=None, sharing=None)", "set_rows(value)", "set_waits(value)", "set_depth(value)",
+    ("plans", "Plan"): ["__init__(web, *, rows=None, waits=(), depth=None, sharing=None)", "set_rows(value)",
+                        "set_waits(value)", "set_depth(value)",
                         "set_sharing(value)", "with_wait(wait)", "without_wait(wait)", "read(text)"],
-    ("runs", "Run"): ["__init__(plan)", "frame(job)", "do(job)", "leave_out(job)", "expected(job, *, left_out=False)", "content(buffer, frame)",
+    ("runs", "Run"): ["__init__(plan)", "frame(job)", "do(job)", "leave_out(job)", "expected(job, *, left_out=False)",
+                      "content(buffer, frame)",
                       "twin()", "after(plan, steps)"],
     ("paces", "Behind"): ["__init__(queue)"],
     ("paces", "Ahead"): ["__init__(queue)"],
     ("paces", "Listed"): ["__init__(*names)"],
-    ("boards", "Board"): ["__init__(plan)", "snapshot()", "add_wait(wait)", "drop_wait(wait)", "move(job, place)", "set_depth(depth)", "share(sharing)",
+    ("boards", "Board"): ["__init__(plan)", "snapshot()", "add_wait(wait)", "drop_wait(wait)", "move(job, place)",
+                          "set_depth(depth)", "share(sharing)",
                           "undo()", "redo()", "watch(call)", "on_trial(call)", "trial()", "twin()"],
     ("desk", "Desk"): ["__init__()", "say(line)"],
 }
@@ -82,11 +89,16 @@ PROPERTIES = {
     ("boards", "Board"): "status verdict slots edits undone",
 }
 ERRORS = {
-    "FrameError": ("ValueError", ""), "InvalidLead": ("FrameError", "value"), "InvalidWeb": ("FrameError", "reason job"),
-    "InvalidPlan": ("FrameError", "part index"), "InvalidSharing": ("FrameError", "index"), "InvalidText": ("FrameError", "line word"),
-    "InvalidCommand": ("FrameError", "word"), "InvalidCertificate": ("FrameError", "reason where"), "Unsettled": ("FrameError", "buffer one other"),
-    "NotShareable": ("FrameError", "buffer user"), "NoJob": ("KeyError", "name"), "NoBuffer": ("KeyError", "name"), "Standstill": ("RuntimeError", "ring"),
-    "NotReady": ("RuntimeError", "job"), "CannotLeaveOut": ("RuntimeError", "job"), "Busy": ("RuntimeError", ""), "TooMany": ("OverflowError", "limit"),
+    "FrameError": ("ValueError", ""), "InvalidLead": ("FrameError", "value"),
+    "InvalidWeb": ("FrameError", "reason job"),
+    "InvalidPlan": ("FrameError", "part index"), "InvalidSharing": ("FrameError", "index"),
+    "InvalidText": ("FrameError", "line word"),
+    "InvalidCommand": ("FrameError", "word"), "InvalidCertificate": ("FrameError", "reason where"),
+    "Unsettled": ("FrameError", "buffer one other"),
+    "NotShareable": ("FrameError", "buffer user"), "NoJob": ("KeyError", "name"), "NoBuffer": ("KeyError", "name"),
+    "Standstill": ("RuntimeError", "ring"),
+    "NotReady": ("RuntimeError", "job"), "CannotLeaveOut": ("RuntimeError", "job"), "Busy": ("RuntimeError", ""),
+    "TooMany": ("OverflowError", "limit"),
     "NothingToUndo": ("LookupError", ""), "NothingToRedo": ("LookupError", ""),
 }
 
@@ -152,9 +164,12 @@ class TestAgreement(unittest.TestCase):
 
     def refuse_standstill(self, plan):
         calls = (
-            lead_table, unmet, cost_table, lambda one: list(clashes(one)), lambda one: list(faults(one)), fewest_slots, lambda one: check_slots(one, None),
-            least_waits, lambda one: follows(one, None), lambda one: list(savings(one)), lambda one: fewest_changes(one, {}),
-            lambda one: check_changes(one, {}, None), lambda one: least_period(one, {}), lambda one: list(first_starts(one, {}, frames=1)),
+            lead_table, unmet, cost_table, lambda one: list(clashes(one)), lambda one: list(faults(one)),
+            fewest_slots, lambda one: check_slots(one, None),
+            least_waits, lambda one: follows(one, None), lambda one: list(savings(one)),
+            lambda one: fewest_changes(one, {}),
+            lambda one: check_changes(one, {}, None), lambda one: least_period(one, {}),
+            lambda one: list(first_starts(one, {}, frames=1)),
             lead_grid, cost_grid, slot_grid,
         )
         for call in calls:
@@ -232,7 +247,8 @@ class TestAgreement(unittest.TestCase):
             made += [cut_queue(plan, queue, 1, free[0]) for queue in web.queues if len(plan.rows[queue]) > 1]
             for one in made:
                 self.assertEqual(self.check(rng, one), "right")
-                self.assertEqual([fewest_slots(one)[1], least_period(one, {})[:2]], [fewest_slots(plan)[1], least_period(plan, {})[:2]])
+                self.assertEqual([fewest_slots(one)[1], least_period(one, {})[:2]],
+                                 [fewest_slots(plan)[1], least_period(plan, {})[:2]])
             double = twice(plan)
             top, bottom = least_period(double, {})[:2]
             self.assertEqual([fewest_slots(double)[1], unmet(double)], [fewest_slots(plan)[1], ()])
@@ -272,7 +288,8 @@ class TestNothingIsChanged(unittest.TestCase):
         fewest_changes(P2, wishes)
         planned(E2, rows=rows)
         renamed(P2, names)
-        self.assertEqual([lengths, wishes, rows, names], [{"w": 3}, {("w", "h"): "one"}, {1: ["v", "t", "y"]}, {"w": "q"}])
+        self.assertEqual([lengths, wishes, rows, names], [{"w": 3}, {("w", "h"): "one"}, {1: ["v", "t", "y"]},
+                                                          {"w": "q"}])
 
 
 if __name__ == "__main__":

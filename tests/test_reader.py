@@ -52,13 +52,15 @@ class TestExamples(unittest.TestCase):
 
 class TestLines(unittest.TestCase):
     def test_sorts_in_the_allowed_order(self):
-        lines = {"job": TWO, "size": "size r 2", "row": "row 0 b a", "wait": "wait a b 1", "depth": "depth 2", "group": "group 3 r:2"}
+        lines = {"job": TWO, "size": "size r 2", "row": "row 0 b a", "wait": "wait a b 1", "depth": "depth 2",
+                 "group": "group 3 r:2"}
         for mask in range(32):
             chosen = ["job"] + [sort for at, sort in enumerate(ORDER[1:]) if mask & 1 << at]
             text = "\n".join(lines[sort] for sort in chosen)
             plan = read_plan(text)
             self.assertEqual(plan, slow_read(text, True))
-            self.assertEqual([plan.depth, "depth" in chosen], [2 if "depth" in chosen else None, plan.depth is not None])
+            self.assertEqual([plan.depth, "depth" in chosen],
+                             [2 if "depth" in chosen else None, plan.depth is not None])
             web_lines = set(chosen) <= {"job", "size"}
             self.assertEqual(caught(read_web, text) is None, web_lines)
             # each sort that comes too early, and each line once more
@@ -99,12 +101,16 @@ class TestLines(unittest.TestCase):
             self.assertTrue(errors.count(word) > 20, (word, errors.count(word)))
 
     def test_numbers(self):
-        for text, sort in (("job a {}", "queue"), (TWO + "\nsize r {}", "size"), (TWO + " read:r:{}", "age"), (TWO + "\nwait a b {}", "back"),
-                           (TWO + "\nrow {} a b", "queue"), (TWO + "\ndepth {}", "depth"), (TWO + "\ngroup {} r:0", "count"),
+        for text, sort in (("job a {}", "queue"), (TWO + "\nsize r {}", "size"), (TWO + " read:r:{}", "age"),
+                           (TWO + "\nwait a b {}", "back"),
+                           (TWO + "\nrow {} a b", "queue"), (TWO + "\ndepth {}", "depth"),
+                           (TWO + "\ngroup {} r:0", "count"),
                            (TWO + "\ngroup 200 r:{}", "shift")):
-            low, high = {"queue": (0, 3), "size": (1, 9), "age": (0, 3), "back": (0, 4), "depth": (1, 4), "count": (1, 200),
+            low, high = {"queue": (0, 3), "size": (1, 9), "age": (0, 3), "back": (0, 4), "depth": (1, 4),
+                         "count": (1, 200),
                          "shift": (0, 199)}[sort]
-            for number in ("-1", "0", "1", "2", "3", "4", "5", "9", "10", "199", "200", "201", "999", "1000", "10" * 20, "01", "00", "+1", "1 ", " 1",
+            for number in ("-1", "0", "1", "2", "3", "4", "5", "9", "10", "199", "200", "201", "999", "1000",
+                           "10" * 20, "01", "00", "+1", "1 ", " 1",
                            "", "x", "1x", "1.0", "1_0", "\u0661", "0" * 5000, "1\t"):
                 error = caught(read_plan, text.format(number)) or ("",)
                 fits = number.isascii() and number.isdigit() and str(int(number[:9])) == number and low <= int(number) <= high
@@ -114,9 +120,12 @@ class TestLines(unittest.TestCase):
 class TestErrors(unittest.TestCase):
     def test_errors_of_the_web_then_of_the_plan(self):
         for text, error in (
-            (TWO + "\nrow 0 a\nwait a b 1 1", ("InvalidText", 3, 4)), ("job a 0\njob a 0\nrow 1 a", ("InvalidWeb", "name", 1)),
-            (TWO + "\nsize q 2\nrow 1 a", ("InvalidWeb", "sizes", None)), (TWO + "\nrow 1 a\nwait q q 0", ("InvalidPlan", "rows", -1)),
-            (TWO + "\nrow 0 a\nwait q q 0", ("InvalidPlan", "rows", 0)), (TWO + "\nwait a b 0\nwait q q 0\ngroup 1 q:0", ("InvalidPlan", "waits", 1)),
+            (TWO + "\nrow 0 a\nwait a b 1 1", ("InvalidText", 3, 4)),
+            ("job a 0\njob a 0\nrow 1 a", ("InvalidWeb", "name", 1)),
+            (TWO + "\nsize q 2\nrow 1 a", ("InvalidWeb", "sizes", None)),
+            (TWO + "\nrow 1 a\nwait q q 0", ("InvalidPlan", "rows", -1)),
+            (TWO + "\nrow 0 a\nwait q q 0", ("InvalidPlan", "rows", 0)),
+            (TWO + "\nwait a b 0\nwait q q 0\ngroup 1 q:0", ("InvalidPlan", "waits", 1)),
             (TWO + "\ngroup 1 r:1", ("InvalidSharing", 0)), (TWO + "\ngroup 2 r:1 r:1", ("InvalidSharing", 0)),
             ("job a 0 make:r", ("InvalidWeb", "unread", 0)), ("job a 0 read:r:0", ("InvalidWeb", "maker", 0)),
         ):

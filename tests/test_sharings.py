@@ -68,7 +68,8 @@ class TestIsSharing(unittest.TestCase):
 
     def test_sizes(self):
         for thing, right in (
-            (((1, (("p", 0),)), (2, (("q", 0), ("r", 1)))), True), (((2, (("p", 0), ("q", 1))), (1, (("r", 0),))), False),
+            (((1, (("p", 0),)), (2, (("q", 0), ("r", 1)))), True),
+            (((2, (("p", 0), ("q", 1))), (1, (("r", 0),))), False),
             (((3, (("p", 0), ("q", 1), ("r", 2))),), False), (((2, (("r", 0), ("q", 1))), (1, (("p", 0),))), True),
         ):
             self.assertIs(is_sharing(SIZED, thing), right)

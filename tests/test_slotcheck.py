@@ -17,7 +17,8 @@ CROWD = (("h", 0, 1), ("x", 1, 0))
 STILL = Plan(E1, waits=(("d", "a", 0), ("a", "d", 0)))
 # a kept buffer between two others
 MIXED = Web(
-    ("a", 0, (("make", "f"),)), ("b", 0, (("read", "f", 0),)), ("c", 0, (("keep", "g"),)), ("d", 0, (("read", "g", 0),)),
+    ("a", 0, (("make", "f"),)), ("b", 0, (("read", "f", 0),)), ("c", 0, (("keep", "g"),)),
+    ("d", 0, (("read", "g", 0),)),
     ("e", 0, (("make", "i"),)), ("j", 0, (("read", "i", 0),)),
 )
 
@@ -55,8 +56,10 @@ class TestRight(unittest.TestCase):
 
     def test_other_crowds(self):
         for crowd in ((("h", 5, 6), ("x", 6, 5)), (("h", 0, 1), ("x", 2, 1))):
-            self.assertEqual(told(check_slots, P2, ("slots", 2, G2, crowd)), fault_of_slots(P2, ("slots", 2, G2, crowd)) or True)
-        self.assertIs(check_slots(P2, ("slots", 2, G2, (("h", 10 ** 30, 10 ** 30 + 1), ("x", 10 ** 30 + 1, 10 ** 30)))), True)
+            self.assertEqual(told(check_slots, P2, ("slots", 2, G2, crowd)),
+                             fault_of_slots(P2, ("slots", 2, G2, crowd)) or True)
+        self.assertIs(check_slots(P2, ("slots", 2, G2, (("h", 10 ** 30, 10 ** 30 + 1),
+                                                        ("x", 10 ** 30 + 1, 10 ** 30)))), True)
 
     def test_other_right_answers_of_endless(self):
         web = Web(
@@ -71,7 +74,8 @@ class TestRight(unittest.TestCase):
         self.assertEqual(fewest_slots(plan), ("endless", "b", "u", ("m",)))
 
     def test_other_right_users_of_kept(self):
-        web = Web(("k", 0, (("keep", "h"), ("read", "h", 1))), ("b", 1, (("read", "h", 0),)), ("c", 2, (("read", "h", 0),)))
+        web = Web(("k", 0, (("keep", "h"), ("read", "h", 1))), ("b", 1, (("read", "h", 0),)),
+                  ("c", 2, (("read", "h", 0),)))
         plan = Plan(web)
         for user in "kbc":
             self.assertIs(check_slots(plan, ("kept", "h", user)), True)
@@ -106,7 +110,8 @@ class TestReasons(unittest.TestCase):
 
     def test_clash(self):
         for sharing, at in (
-            (((2, (("h", 0), ("x", 0))),), 0), (((1, (("h", 0), ("x", 0))),), 0), (((1, (("h", 0),)), (1, (("x", 0),))), 0),
+            (((2, (("h", 0), ("x", 0))),), 0), (((1, (("h", 0), ("x", 0))),), 0),
+            (((1, (("h", 0),)), (1, (("x", 0),))), 0),
         ):
             self.check(P2, ("slots", 9, sharing, ()), ("clash", at))
         # only the last one of E1's buffers has too few slots if s is read of frames before
@@ -219,7 +224,8 @@ class TestErrors(unittest.TestCase):
         plan.waits = P2.waits
         self.assertIs(check_slots(plan, ("slots", 2, G2, CROWD)), True)
         plan.rows = {1: ("y", "t", "v")}
-        self.assertEqual(told(check_slots, plan, ("slots", 2, G2, CROWD)), fault_of_slots(plan, ("slots", 2, G2, CROWD)))
+        self.assertEqual(told(check_slots, plan, ("slots", 2, G2, CROWD)),
+                         fault_of_slots(plan, ("slots", 2, G2, CROWD)))
         self.assertEqual(kept(plan.web), [])
 
     def test_nothing_is_changed(self):

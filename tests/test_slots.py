@@ -82,7 +82,8 @@ class TestSlots(unittest.TestCase):
 
     def test_example(self):
         loose = Plan(E2, waits=(("v", "w", 1),))
-        self.assertEqual([fewest_slots(P2)[:2], fewest_slots(plan=loose)], [("slots", 2), ("endless", "h", "v", ("w",))])
+        self.assertEqual([fewest_slots(P2)[:2], fewest_slots(plan=loose)],
+                         [("slots", 2), ("endless", "h", "v", ("w",))])
         self.assertEqual([fewest_slots(Plan(K, waits=(("v", "w", 1), ("w", "v", 1)))),
                           fewest_slots(Plan(K, waits=(("v", "w", 1), ("w", "v", 0))))[:2]],
                          [("kept", "h", "v"), ("slots", 1)])
@@ -172,7 +173,8 @@ class TestSlots(unittest.TestCase):
         tried = 0
         while tried < 50:
             web = random_web(rng)
-            plan = Plan(web, waits=[(after, before, back) for before, after, back in needs(web)], depth=rng.randint(1, 4))
+            plan = Plan(web, waits=[(after, before, back) for before, after, back in needs(web)],
+                        depth=rng.randint(1, 4))
             found = self.check(plan)
             if found[0] == "slots":
                 plan.sharing = found[2]

@@ -108,7 +108,8 @@ class TestLeastPeriod(unittest.TestCase):
 
     def test_lowest_terms(self):
         for lengths, value in (({}, (3, 2)), ({"a": 2}, (2, 1)), ({"a": 4, "b": 1, "c": 1}, (4, 1)),
-                               ({"a": 5, "b": 5, "c": 5}, (15, 2)), ({"a": 10 ** 12, "b": 10 ** 12, "c": 1}, (10 ** 12 * 2 + 1, 2)),
+                               ({"a": 5, "b": 5, "c": 5}, (15, 2)),
+                               ({"a": 10 ** 12, "b": 10 ** 12, "c": 1}, (10 ** 12 * 2 + 1, 2)),
                                ({"a": 10 ** 12, "b": 10 ** 12, "c": 10 ** 12 - 1}, (3 * 10 ** 12 - 1, 2))):
             found = least_period(ABC, lengths)
             self.assertEqual(found[:2], value)
@@ -142,7 +143,8 @@ class TestLeastPeriod(unittest.TestCase):
             jobs = web.jobs
             share = rng.choice((0.1, 0.5, 0.9))
             waits = [
-                (one, other, rng.randint(0 if one > other else 1, 4)) for one in jobs for other in jobs if rng.random() < share
+                (one, other, rng.randint(0 if one > other else 1,
+                                         4)) for one in jobs for other in jobs if rng.random() < share
             ]
             plan = Plan(web, waits=waits, depth=rng.choice((None, 1, 4)))
             lengths = random_lengths(rng, jobs, rng.choice((2, 10 ** 12)))
@@ -177,14 +179,17 @@ class TestCheckPeriod(unittest.TestCase):
 
     def test_values_of_any_kind(self):
         for thing in (
-            *ODD, RIGHT[:3], (*RIGHT, 0), list(RIGHT), (True, 1, RING, STARTS), (4, True, RING, STARTS), ("4", 1, RING, STARTS),
-            (8, 2, RING, STARTS), (-4, -1, RING, STARTS), (4, 0, RING, STARTS), (0, 1, RING, STARTS), (5, 1, RING, STARTS),
+            *ODD, RIGHT[:3], (*RIGHT, 0), list(RIGHT), (True, 1, RING, STARTS), (4, True, RING, STARTS),
+            ("4", 1, RING, STARTS),
+            (8, 2, RING, STARTS), (-4, -1, RING, STARTS), (4, 0, RING, STARTS), (0, 1, RING, STARTS),
+            (5, 1, RING, STARTS),
             (3, 1, RING, STARTS), (4, 1, list(RING), STARTS), (4, 1, RING, list(STARTS)), (4, 1, (), STARTS),
             (4, 1, RING[:3], STARTS), (4, 1, RING[::-1], STARTS), (4, 1, RING + RING, STARTS), (4, 1, (1, 2), STARTS),
             (4, 1, (("a", "b", False), *RING[1:]), STARTS), (4, 1, (list(RING[0]), *RING[1:]), STARTS),
             (4, 1, (("a", "b", 0), ("b", "c", 0), ("c", "a", -1)), STARTS), (4, 1, (("a", "a", -1),), STARTS),
             (4, 1, RING, STARTS[:5]), (4, 1, RING, (*STARTS, 0)), (4, 1, RING, (1, 2, 3, 2, 3, 4)), (4, 1, RING, ()),
-            (4, 1, RING, (0, 1, 2, 1, 2, True)), (4, 1, RING, (False, 1, 2, 1, 2, 3)), (4, 1, RING, (0, 1, 2, 1, 2, "3")),
+            (4, 1, RING, (0, 1, 2, 1, 2, True)), (4, 1, RING, (False, 1, 2, 1, 2, 3)),
+            (4, 1, RING, (0, 1, 2, 1, 2, "3")),
             (4, 1, RING, (0, 1, 2, 0, 2, 3)), (4, 1, RING, (0, 1, 2, 1, 2, 4)), (4, 1, RING, (-1, 0, 1, 0, 1, 2)),
             (None, 1, RING, STARTS), (4, None, RING, STARTS), ((), (), (), ()),
         ):
@@ -201,7 +206,8 @@ class TestCheckPeriod(unittest.TestCase):
         lengths = {"b": 2, "c": 2}
         ring = (("a", "b", 0), ("b", "c", 0), ("c", "a", -2))
         self.assertIs(check_period(ABC, lengths, (5, 2, ring, (0, 2, 6))), True)
-        for thing in ((5, 2, ring, (0, 2, 5)), (5, 2, ring, (0, 1, 6)), (10, 4, ring, (0, 4, 12)), (5, 2, ring, (0, 2, 7)),
+        for thing in ((5, 2, ring, (0, 2, 5)), (5, 2, ring, (0, 1, 6)), (10, 4, ring, (0, 4, 12)),
+                      (5, 2, ring, (0, 2, 7)),
                       (5, 1, ring, (0, 1, 3)), (3, 1, ring, (0, 1, 3))):
             self.assertIs(check_period(ABC, lengths, thing), False)
 
@@ -220,7 +226,8 @@ class TestCheckPeriod(unittest.TestCase):
 
     def test_standstill(self):
         ring = (("a", "d", 0), ("d", "a", 0))
-        for thing in (None, RIGHT, (1, 1, ring, STARTS), (2, 0, ring, STARTS), (0, 1, ring, (0, 0, 0, 0, 0, 0))):
+        for thing in (None, RIGHT, (1, 0, ring, (0,) * 6), (1, 1, ring, STARTS), (2, 0, ring, STARTS),
+                      (0, 1, ring, (0, 0, 0, 0, 0, 0))):
             self.assertIs(check_period(STILL, {}, thing), False)
 
 
@@ -235,7 +242,8 @@ class TestFirstStarts(unittest.TestCase):
     def test_rows_that_are_not_in_list_order(self):
         plan = Plan(E2, rows={1: ("y", "t", "v")}, waits=(("w", "v", 0),))
         self.assertEqual(list(first_starts(plan, {"y": 5, "t": 7}, frames=2)), [
-            ("w", 0, 13), ("v", 0, 12), ("t", 0, 5), ("y", 0, 0), ("w", 1, 26), ("v", 1, 25), ("t", 1, 18), ("y", 1, 13),
+            ("w", 0, 13), ("v", 0, 12), ("t", 0, 5), ("y", 0, 0), ("w", 1, 26), ("v", 1, 25), ("t", 1, 18),
+            ("y", 1, 13),
         ])
 
     def test_random_plans(self):
@@ -285,7 +293,8 @@ class TestErrors(unittest.TestCase):
     def test_the_least_key_that_is_no_job(self):
         for call in self.CALLS:
             for plan in (P1, STILL):
-                for lengths, name in (({"q": 1}, "q"), ({"z": 1, "a": 1, "q": 2, "x": 5}, "q"), ({"r": 1}, "r"), ({"": 1}, ""),
+                for lengths, name in (({"q": 1}, "q"), ({"z": 1, "a": 1, "q": 2, "x": 5}, "q"), ({"r": 1}, "r"),
+                                      ({"": 1}, ""),
                                       ({"z": 1, "A": 1}, "A"), ({"a a": 1, "zz": 3}, "a a")):
                     self.assertEqual(caught(call, plan, lengths), ("NoJob", name))
 

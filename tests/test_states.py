@@ -18,7 +18,8 @@ WISHES = {("w", "h"): "target", ("v", "h"): "sample", ("t", "x"): "target", ("y"
 STILL = Plan(E1, waits=(("d", "a", 0), ("a", "d", 0)))
 # three buffers in one row, each of which can follow each other one
 ROW = Plan(Web(
-    ("a", 0, (("make", "p"),)), ("b", 0, (("read", "p", 0),)), ("c", 0, (("make", "q"),)), ("d", 0, (("read", "q", 0),)),
+    ("a", 0, (("make", "p"),)), ("b", 0, (("read", "p", 0),)), ("c", 0, (("make", "q"),)),
+    ("d", 0, (("read", "q", 0),)),
     ("e", 0, (("make", "r"),)), ("f", 0, (("read", "r", 0),)),
 ))
 
@@ -41,12 +42,14 @@ class TestStateRow(unittest.TestCase):
         self.assertEqual(state_row(plan, "b", {("u", "b"): "copy"}), ("common", "copy", "common"))
         plan = Plan(U, waits=(("u", "x", 0), ("z", "u", 0)))
         self.assertEqual(state_row(plan, "b", {}), ("common",))
-        self.assertEqual(state_row(plan, "b", {("m", "b"): "one", ("x", "b"): "two", ("u", "b"): "one", ("z", "b"): "one"}),
+        self.assertEqual(state_row(plan, "b", {("m", "b"): "one", ("x", "b"): "two", ("u", "b"): "one",
+                                               ("z", "b"): "one"}),
                          ("one", "two", "one"))
         self.assertEqual(state_row(plan, "b", {("m", "b"): "one", ("z", "b"): "two"}), ("one", "common", "two"))
 
     def test_reads_of_several_ages(self):
-        web = Web(("m", 0, (("make", "b"),)), ("x", 1, (("read", "b", 0), ("read", "b", 3))), ("y", 2, (("read", "b", 1),)))
+        web = Web(("m", 0, (("make", "b"),)), ("x", 1, (("read", "b", 0), ("read", "b", 3))),
+                  ("y", 2, (("read", "b", 1),)))
         plan = Plan(web, waits=(("x", "m", 0), ("y", "x", 0)))
         # x reads b at once and three frames later, y reads it in between
         self.assertEqual(state_row(Plan(web, waits=(("x", "m", 0), ("y", "x", 0), ("x", "y", 1))), "b",
@@ -273,7 +276,8 @@ class TestFewestChanges(unittest.TestCase):
 
     def test_the_sharing_of_the_plan_is_not_looked_at(self):
         for sharing in (None, G2, ((7, (("h", 3), ("x", 5))),), ((1, (("h", 0), ("x", 0))),)):
-            self.assertEqual(fewest_changes(Plan(E2, waits=P2.waits, sharing=sharing), WISHES), fewest_changes(P2, WISHES))
+            self.assertEqual(fewest_changes(Plan(E2, waits=P2.waits, sharing=sharing), WISHES),
+                             fewest_changes(P2, WISHES))
 
     def test_planned_webs(self):
         rng = rng_of(226)

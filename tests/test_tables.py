@@ -113,14 +113,16 @@ class TestSlotGrid(unittest.TestCase):
             "0.1             .        .d+longname        .\n"
             "0.2     d+longname        .        .d+longname"
         ))
-        web = Web(("a", 0, (("make", "abcdefgh"), ("make", "abcdefgi"))), ("b", 0, (("read", "abcdefgh", 0), ("read", "abcdefgi", 0))))
+        web = Web(("a", 0, (("make", "abcdefgh"), ("make", "abcdefgi"))),
+                  ("b", 0, (("read", "abcdefgh", 0), ("read", "abcdefgi", 0))))
         self.assertEqual(slot_grid(Plan(web, sharing=((1, (("abcdefgi", 0), ("abcdefgh", 0))),)), frames=2),
                          "0.0     abcdefgh+abcdefgiabcdefgh+abcdefgi")
 
     def test_many_slots(self):
         plan = Plan(E2, sharing=((200, (("h", 199),)), (12, (("x", 3),))))
         lines = slot_grid(plan, frames=100).split("\n")
-        self.assertEqual([len(lines), lines[0][:8], lines[199][:17], lines[-1][:8]], [212, "0.0     ", "0.199           h", "1.11    "])
+        self.assertEqual([len(lines), lines[0][:8], lines[199][:17], lines[-1][:8]],
+                         [212, "0.0     ", "0.199           h", "1.11    "])
         self.assertEqual(slot_grid(plan, frames=100), slow_slots(plan, 100))
 
     def test_random_plans(self):
@@ -148,7 +150,8 @@ class TestErrors(unittest.TestCase):
         self.assertIn("-\n", lead_grid(plan))
         plan.waits = P2.waits
         plan.sharing = G2
-        self.assertEqual([lead_grid(plan), cost_grid(plan), slot_grid(plan)], [lead_grid(P2), cost_grid(P2), slot_grid(P2)])
+        self.assertEqual([lead_grid(plan), cost_grid(plan), slot_grid(plan)],
+                         [lead_grid(P2), cost_grid(P2), slot_grid(P2)])
 
 
 if __name__ == "__main__":

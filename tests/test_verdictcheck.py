@@ -50,7 +50,8 @@ class TestAccepted(unittest.TestCase):
              ("a", 1, False)),
             (("a", 0, False), ("b", 0, False), ("c", 0, False), ("d", 0, False)),
         ):
-            self.assertEqual(told(check_verdict, TIGHT, ("wrong", steps)), True if steps[-1][0] == "d" else ("found", 7))
+            self.assertEqual(told(check_verdict, TIGHT, ("wrong", steps)),
+                             True if steps[-1][0] == "d" else ("found", 7))
         self.assertIs(check_verdict(OPEN, ("wrong", (("z", 0, False),))), True)
         self.assertIs(check_verdict(OPEN, ("wrong", (("k", 0, True), ("z", 0, False)))), True)
         # both left out: it should find nothing, and so it does
@@ -185,7 +186,8 @@ class TestWrong(unittest.TestCase):
             if rng.random() < 0.3:
                 at = rng.randrange(len(steps))
                 job, frame, gone = steps[at]
-                steps[at] = rng.choice(((job, frame + 1, gone), (job, frame, not gone), (rng.choice(plan.web.jobs), 0, gone)))
+                steps[at] = rng.choice(((job, frame + 1, gone), (job, frame, not gone),
+                                        (rng.choice(plan.web.jobs), 0, gone)))
             expected = self.first_reason(plan, steps)
             self.assertEqual(told(check_verdict, plan, ("wrong", tuple(steps))), expected)
             reasons[expected if expected is True else expected[0]] = True

@@ -107,6 +107,15 @@ class TestFollows(unittest.TestCase):
         self.assertEqual(follows(longer, ("d", "a", 4)), (("a", "d", -3),))
         self.assertEqual(follows(longer, ("d", "a", 2)), (("a", "b", -1), ("b", "d", -1)))
 
+    def test_the_least_way_is_great_enough(self):
+        # the way by c is less than the one by e, but its lead is too small
+        web = Web(bare("a", 0), bare("b", 1), bare("c", 2), bare("e", 3), bare("d", 3))
+        plan = Plan(web, waits=(("b", "a", 1), ("c", "b", 3), ("d", "c", 0), ("e", "b", 0)))
+        due = (("a", "b", -1), ("b", "e", 0), ("e", "d", 0))
+        self.assertEqual([follows(plan, ("d", "a", 1)), follows(plan, ("d", "a", 3))], [due, due])
+        self.assertEqual(follows(plan, ("d", "a", 4)), (("a", "b", -1), ("b", "c", -3), ("c", "d", 0)))
+        self.assertIsNone(follows(plan, ("d", "a", 0)))
+
     def test_random_plans(self):
         rng = rng_of(201)
         told = []
@@ -207,7 +216,8 @@ class TestNeededWaits(unittest.TestCase):
         self.assertEqual(needed_waits(E1, rows={0: ("c", "a", "b")}), (("d", "a", 0),))
         # d is behind f, f waits for c, and c is behind a
         self.assertEqual(needed_waits(E1, rows={1: ("e", "f", "d")}), (("f", "c", 0),))
-        self.assertEqual(needed_waits(E1, rows={0: ("a", "c", "b"), 1: ("e", "d", "f")}), (("d", "a", 0), ("f", "c", 0)))
+        self.assertEqual(needed_waits(E1, rows={0: ("a", "c", "b"), 1: ("e", "d", "f")}),
+                         (("d", "a", 0), ("f", "c", 0)))
 
     def test_depths(self):
         # v reads h of the frame before: a depth of 1 is such a wait already
@@ -257,7 +267,8 @@ class TestNeededWaits(unittest.TestCase):
                 call(E2, rows={1: ("y", "t", "v")})
 
     def test_a_ring_of_needs_and_rows(self):
-        web = Web(("a", 0, (("make", "p"),)), ("b", 1, (("read", "p", 0), ("make", "q"))), ("c", 0, (("read", "q", 0),)))
+        web = Web(("a", 0, (("make", "p"),)), ("b", 1, (("read", "p", 0), ("make", "q"))),
+                  ("c", 0, (("read", "q", 0),)))
         self.assertEqual(needed_waits(web), (("b", "a", 0), ("c", "b", 0)))
         with self.assertRaises(Standstill) as error:
             needed_waits(web, rows={0: ("c", "a")}, depth=3)
