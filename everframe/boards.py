@@ -13,9 +13,10 @@ class Trial:
         self._board = board
 
     def __enter__(self):
-        self._board._ask_free()
-        self._board._layer = Layer(self._board._layer.position, self._board._layer)
-        return self._board
+        board = self._board
+        board._ask_free()
+        board._layer = Layer(board._layer.position, board._layer)
+        return board
 
     def __exit__(self, kind, value, trace):
         self._board._layer = self._board._layer.around
@@ -161,8 +162,9 @@ class Board:
 
     def _turn_to(self, position):
         before = self.status
-        self._layer.position = position
-        if before != self.status and not self._layer.is_trial:
+        layer = self._layer
+        layer.position = position
+        if before != self.status and not layer.is_trial:
             self._tell(before, self.status)
         return self.status
 
