@@ -1,7 +1,7 @@
 """Which buffer follows which one in its slot, at the least cost, and numbers that show it.
 
-The costs are a dict from pairs of buffers to integers from 0 on or None (the second
-one cannot follow the first one); a buffer may always follow itself.
+The costs are a dict from each buffer to a dict from each buffer to an integer from 0 on,
+or None (this one cannot follow that one); a buffer may always follow itself.
 """
 
 
@@ -24,7 +24,7 @@ class Order:
 
     def total(self):
         """The sum of the costs."""
-        return sum([self.costs[one, self.followers[one]] for one in self.followers])
+        return sum([self.costs[one][self.followers[one]] for one in self.followers])
 
     def rings(self):
         """The buffers that follow one another, each ring from its least buffer on."""
@@ -41,39 +41,43 @@ class Order:
 
     def _find_follower(self, one):
         """Give one more buffer a follower; others may have to take other ones."""
-        reached = {}
-        settled = []
+        near = {}
+        behind = {}
+        settled = {}
         at = one
         far = 0
         # at is the buffer that would lose its follower, until one is free
         while at is not None:
-            self._reach_from(at, far, reached, settled)
-            near = [other for other in reached if other not in settled]
-            nearest = min(near, key=lambda other: reached[other][0])
-            settled.append(nearest)
-            far = reached[nearest][0]
+            self._reach_from(at, far, near, behind, settled)
+            far = min(near.values())
+            nearest = [other for other in near if near[other] == far][0]
+            settled[nearest] = near.pop(nearest)
             at = self.ahead.get(nearest)
         self.first[one] -= far
-        for other in settled[:-1]:
-            self.ends[other] -= far - reached[other][0]
-            self.first[self.ahead[other]] -= far - reached[other][0]
-        self._exchange(settled[-1], reached)
+        for other in settled:
+            if settled[other] < far:
+                self.ends[other] -= far - settled[other]
+                self.first[self.ahead[other]] -= far - settled[other]
+        self._exchange(nearest, behind)
 
-    def _reach_from(self, at, far, reached, settled):
+    def _reach_from(self, at, far, near, behind, settled):
         """Note how far the followers of a buffer are, and behind which one."""
-        for other in self.ends:
-            worth = self.costs[at, other]
+        costs = self.costs[at]
+        base = far + self.first[at]
+        for other, end in self.ends.items():
+            worth = costs[other]
             if worth is None or other in settled:
                 continue
-            further = far + worth + self.first[at] - self.ends[other]
-            if other not in reached or further < reached[other][0]:
-                reached[other] = (further, at)
+            further = base + worth - end
+            if other not in near or further < near[other]:
+                near[other] = further
+                behind[other] = at
 
-    def _exchange(self, free, reached):
+    def _exchange(self, free, behind):
         """Let followers change from a free one back to the buffer that had none."""
         while free is not None:
-            behind = reached[free][1]
-            before = self.followers.get(behind)
-            self.followers[behind] = free
-            self.ahead[free] = behind
+            one = behind[free]
+            before = self.followers.get(one)
+            self.followers[one] = free
+            self.ahead[free] = one
             free = before

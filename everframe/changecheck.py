@@ -2,7 +2,6 @@
 
 from everframe.costs import costs_between
 from everframe.errors import InvalidCertificate
-from everframe.fewest import free_buffers
 from everframe.kinds import is_int
 from everframe.leading import leads_between
 from everframe.sharings import is_sharing
@@ -22,13 +21,13 @@ def check_changes(plan, wishes, thing):
         raise InvalidCertificate("sharing", -1)
     if slots != sum([count for count, _ in sharing]):
         raise InvalidCertificate("slots", -1)
-    costs = costs_between(web, leads)
+    costs = costs_between(web, plan.marks())
     _check_prices(web, costs, rows, prices)
     followers = followers_in(sharing, costs)
     turned = {one: turns(rows, one, followers[one]) for one in followers}
     if changes != inner_changes(rows) + sum([turned[one] for one in turned]):
         raise InvalidCertificate("changes", -1)
-    free = free_buffers(web)
+    free = web.facts.free
     crowded = sum([last - first + 1 for _, first, last, _, _ in prices])
     paid = sum([high - low for _, _, _, low, high in prices])
     if crowded != slots - (len(web.buffers) - len(free)) or paid != sum([turned[one] for one in free]):
@@ -50,7 +49,7 @@ def _fits(plan, sharing):
 
 
 def _check_prices(web, costs, rows, prices):
-    free = free_buffers(web)
+    free = web.facts.free
     for at, buffer in enumerate(free):
         if at >= len(prices) or not _is_price(buffer, prices[at]):
             raise InvalidCertificate("price", at)
@@ -75,7 +74,7 @@ def _hold(costs, rows, one, other):
 
 def _holds(costs, rows, one, other):
     """Whether the second buffer behind the first one is not paid more than its cost."""
-    worth = costs[one[0], other[0]]
+    worth = costs[one[0]][other[0]]
     if worth is None:
         return True
     gap = other[2] + 1 - one[1]

@@ -5,7 +5,7 @@ before it in which its job is not left out, -1 if there is none.
 """
 
 from everframe.errors import CannotLeaveOut, NoJob
-from everframe.kinds import age_of, is_int
+from everframe.kinds import is_int
 
 
 def left_out_steps(web, pairs):
@@ -26,18 +26,6 @@ def left_out_steps(web, pairs):
 def last_done(passed, job, frame):
     """The last frame up to this one in which the job is not left out, -1 if there is none."""
     return passed.get((job, frame), frame)
-
-
-def looks_of(web, job):
-    """At what a job looks: the buffer, the age, whose content it should find, and who writes last of all."""
-    uses = [use for use in web.uses(job) if use[0] in ("read", "update")]
-    return tuple([(use[1], age_of(use), _writer_for(web, job, use), web.writers(use[1])[-1]) for use in uses])
-
-
-def carried_of(web, job):
-    """What a step that is left out looks at: each buffer that it carries, and who writes it last of all."""
-    names = [use[1] for use in web.uses(job) if use[0] == "carry"]
-    return tuple([(name, web.writers(name)[-1]) for name in names])
 
 
 def finds_done(looks, frame, passed):
@@ -65,12 +53,3 @@ def last_content(buffer, last, frame, passed):
     # only a maker can be left out; it passes on what the frame before has
     source = last_done(passed, last, frame)
     return (last, source, buffer) if source >= 0 else None
-
-
-def _writer_for(web, job, use):
-    """The last writer that comes before this look: in its frame, or in all of an earlier one."""
-    writers = web.writers(use[1])
-    if age_of(use) > 0:
-        return writers[-1]
-    place = web.jobs.index(job)
-    return [one for one in writers if web.jobs.index(one) < place][-1]

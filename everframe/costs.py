@@ -2,8 +2,8 @@
 
 from everframe.errors import NoBuffer
 from everframe.groups import places
-from everframe.leading import leads_between
-from everframe.lives import life_uses
+from everframe.marks import NEVER, SPAN
+from everframe.rings import refuse_standstill
 
 
 def cost(plan, r, s):
@@ -11,40 +11,75 @@ def cost(plan, r, s):
     for name in (r, s):
         if name not in plan.web.buffers:
             raise NoBuffer(name)
-    return _cost(plan.web, leads_between(plan), r, s)
+    refuse_standstill(plan)
+    return _cost(plan.web.facts, plan.marks(), r, s)
 
 
 def cost_table(plan):
     """The ascending tuple of (r, s, cost) for all pairs of buffers."""
-    costs = costs_between(plan.web, leads_between(plan))
-    return tuple([(r, s, costs[r, s]) for r, s in costs])
+    refuse_standstill(plan)
+    costs = costs_between(plan.web, plan.marks())
+    return tuple([(r, s, costs[r][s]) for r in costs for s in costs[r]])
 
 
-def costs_between(web, leads):
-    """A dict from each two buffers, ascending, to the cost of the second one behind the first one."""
-    return {(r, s): _cost(web, leads, r, s) for r in web.buffers for s in web.buffers}
+def costs_between(web, marks):
+    """For each buffer, ascending, a dict from each buffer, ascending, to the cost of that one behind it."""
+    facts = web.facts
+    spots = [(s, *marks.spot[facts.makers[s]]) for s in web.buffers]
+    rows = {queue: marks.behind[queue] for _, queue, _ in spots}
+    costs = {}
+    for r in web.buffers:
+        ends = {queue: _end(rows[queue], facts.copied[r]) for queue in rows}
+        costs[r] = {s: _frames_until(ends[queue], at) for s, queue, at in spots}
+        if facts.words[r] == "carry":
+            costs[r][r] = _cost(facts, marks, r, r)
+    return costs
 
 
 def clashes(plan):
     """Yield (r, s, d) for the buffers that clash, with the d that is nearest to 0."""
-    costs = costs_between(plan.web, leads_between(plan))
-    lives = places(plan.sharing)
-    for r, s in [pair for pair in costs if pair[0] <= pair[1]]:
-        if lives[r][0] == lives[s][0]:
-            count = lives[r][1]
-            shift = (lives[r][2] - lives[s][2]) % count
-            near = [d for d in _nearest(count, shift) if d != 0 or r != s]
-            found = [d for d in near if _is_less(d, costs[r, s]) and _is_less(-d, costs[s, r])]
-            if found:
-                yield (r, s, found[0])
+    refuse_standstill(plan)
+    found = clashes_of(plan.web, plan.marks(), plan.sharing)
+    for one, other, later in found:
+        yield (one, other, later)
 
 
-def _cost(web, leads, r, s):
-    maker = web.maker(s)
-    uses = life_uses(web, r, s)
-    if not all([(job, maker) in leads for job, _ in uses]):
-        return None
-    return max([age - leads[job, maker] for job, age in uses])
+def clashes_of(web, marks, sharing):
+    """The list of what `clashes` yields for a sharing."""
+    lives = places(sharing)
+    found = []
+    for r in web.buffers:
+        group, count, shift = lives[r]
+        for s, other in sharing[group][1]:
+            later = None if s < r else _meeting(web.facts, marks, r, s, count, shift - other)
+            if later is not None:
+                found.append((r, s, later))
+    return found
+
+
+def _meeting(facts, marks, r, s, count, shift):
+    """The d nearest to 0 at which two buffers of a group clash, None if they do not."""
+    ahead = _cost(facts, marks, r, s)
+    if r == s:
+        return count if _is_less(count, ahead) else None
+    behind = _cost(facts, marks, s, r)
+    found = [d for d in _nearest(count, shift % count) if _is_less(d, ahead) and _is_less(-d, behind)]
+    return found[0] if found else None
+
+
+def _cost(facts, marks, r, s):
+    queue, at = marks.spot[facts.makers[s]]
+    return _frames_until(_end(marks.behind[queue], facts.lives[r] if r == s else facts.copied[r]), at)
+
+
+def _end(row, uses):
+    """The first step of a row, by its marks, behind all these uses of an instance of frame 0."""
+    return max([row[job] + SPAN * age for job, age in uses])
+
+
+def _frames_until(end, at):
+    """The first frame in which the step at this place of its row is not ahead of an end, None if there is none."""
+    return None if end >= NEVER else (end - at + SPAN - 1) // SPAN
 
 
 def _nearest(count, shift):

@@ -17,12 +17,13 @@ def checked_sharing(web, sharing):
         return apart_groups(web.buffers)
     if not isinstance(sharing, tuple):
         raise InvalidSharing(-1)
-    taken = []
+    sizes = web.sizes
+    taken = {}
     for at, group in enumerate(sharing):
-        if not _is_group(web, group) or any([name in taken for name, _ in group[1]]):
+        if not _is_group(sizes, group) or any([name in taken for name, _ in group[1]]):
             raise InvalidSharing(at)
-        taken = taken + [name for name, _ in group[1]]
-    if len(taken) < len(web.buffers):
+        taken.update({name: True for name, _ in group[1]})
+    if len(taken) < len(sizes):
         raise InvalidSharing(len(sharing))
     groups = [(count, tuple(sorted(members))) for count, members in sharing]
     return tuple(sorted(groups, key=lambda one: one[1]))
@@ -43,22 +44,20 @@ def slot_at(place, frame):
     return (group, (frame + shift) % count)
 
 
-def _is_group(web, group):
+def _is_group(sizes, group):
     """Whether any value is a count with different buffers of one size and their shifts."""
     if not isinstance(group, tuple) or len(group) != 2:
         return False
     count, members = group
     if not within(count, 1, MOST_COUNT) or not isinstance(members, tuple) or not members:
         return False
-    if not all([_is_member(web, member, count) for member in members]):
+    if not all([_is_member(sizes, member, count) for member in members]):
         return False
     names = [name for name, _ in members]
-    if len(set(names)) < len(names):
-        return False
-    return len(set([web.size(name) for name in names])) == 1
+    return len(set(names)) == len(names) and len(set([sizes[name] for name in names])) == 1
 
 
-def _is_member(web, member, count):
+def _is_member(sizes, member, count):
     if not isinstance(member, tuple) or len(member) != 2:
         return False
-    return member[0] in web.buffers and within(member[1], 0, count - 1)
+    return isinstance(member[0], str) and member[0] in sizes and within(member[1], 0, count - 1)

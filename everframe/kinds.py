@@ -11,14 +11,15 @@ def is_int(value):
 
 def within(value, least, most):
     """Whether any value is an integer from least to most."""
-    return is_int(value) and least <= value <= most
+    return isinstance(value, int) and not isinstance(value, bool) and least <= value <= most
 
 
 def is_name(value):
     """Whether any value is a name: one to eight letters a to z."""
-    if not isinstance(value, str) or len(value) < 1 or len(value) > 8:
+    if not isinstance(value, str) or len(value) > 8:
         return False
-    return all(["a" <= sign <= "z" for sign in value])
+    # an empty string has no letters
+    return value.isalpha() and value.islower() and value.isascii()
 
 
 def is_use(value):

@@ -5,52 +5,68 @@ from everframe.needs import needs
 from everframe.rings import refuse_standstill
 from everframe.ways import least_way
 
+# A way with the lead total and some ties has the worth WEIGHT * total - ties: of two ways the
+# better one is worth more, as no best way has as many as WEIGHT ties.
+WEIGHT = 64
+NOWHERE = -1000000
+
 
 def lead(plan, of, job):
     """The lead of one job on another, None if there is no way."""
     _ask(plan, [of, job])
-    found = _best_from(plan.ties, of)
-    return found[job][0] if job in found else None
+    return plan.marks().lead(of, job)
 
 
 def way(plan, of, job):
     """A way with this lead and the fewest ties, of several the least; None if there is none."""
     _ask(plan, [of, job])
-    found = _best_from(plan.ties, of)
-    if job not in found:
-        return None
-    return least_way(plan.ties, of, job, found[job][0], found[job][1])
+    total = plan.marks().lead(of, job)
+    # no best way comes to a job twice
+    return None if total is None else least_way(plan.ties, of, job, total, len(plan.web))
 
 
 def lead_table(plan):
     """The ascending tuple of (of, job, lead, steps, last)."""
     _ask(plan, [])
+    jobs = sorted(plan.web.jobs)
+    place = {job: at for at, job in enumerate(jobs)}
+    links = [(place[tie[0]], place[tie[1]], WEIGHT * tie[2] - 1, tie) for tie in plan.ties]
     rows = []
-    for of in sorted(plan.web.jobs):
-        found = _best_from(plan.ties, of)
-        rows.extend([(of, job, *found[job]) for job in sorted(list(found))])
+    for at, of in enumerate(jobs):
+        worths, lasts = _best_from(links, at, len(jobs))
+        found = [(job, -worth, last) for job, worth, last in zip(jobs, worths, lasts) if last is not None]
+        rows.extend([(of, job, -(less // WEIGHT), less % WEIGHT, last) for job, less, last in found])
     return tuple(rows)
 
 
 def leads_between(plan):
     """A dict from each two jobs with a way from the first to the second to its lead."""
-    return {(of, job): total for of, job, total, _, _ in lead_table(plan)}
+    _ask(plan, [])
+    jobs = sorted(plan.web.jobs)
+    marks = plan.marks()
+    leads = {(of, job): marks.lead(of, job) for of in jobs for job in jobs}
+    return {pair: leads[pair] for pair in leads if leads[pair] is not None}
 
 
 def unmet(plan):
     """The ascending tuple of the needs that do not hold."""
-    leads = leads_between(plan)
-    return tuple([need for need in needs(plan.web) if not _holds(need, leads)])
+    _ask(plan, [])
+    return tuple(unmet_needs(plan.web, plan.marks()))
+
+
+def unmet_needs(web, marks):
+    """The list of the needs of the web that do not hold with these marks, ascending."""
+    return [need for need in needs(web) if not marks.follows(need[0], need[1], need[2])]
 
 
 def closed_lot(plan, of, frame, upto):
     """The ascending tuple of the steps up to this frame that can be done before (of, frame)."""
     _ask(plan, [of])
-    leads = {job: found[0] for job, found in _best_from(plan.ties, of).items()}
+    leads = {job: plan.marks().lead(of, job) for job in sorted(plan.web.jobs)}
     leads[of] = 0
     lot = []
-    for job in sorted(plan.web.jobs):
-        last = min(upto, frame - leads[job] - 1) if job in leads else upto
+    for job in leads:
+        last = upto if leads[job] is None else min(upto, frame - leads[job] - 1)
         lot.extend([(job, at) for at in range(last + 1)])
     return tuple(lot)
 
@@ -62,30 +78,21 @@ def _ask(plan, names):
     refuse_standstill(plan)
 
 
-def _holds(need, leads):
-    before, after, back = need
-    return (before, after) in leads and leads[before, after] >= -back
-
-
-def _best_from(ties, of):
-    """For each job that a way leads to: its lead, the fewest ties and the last tie of a best way."""
-    best = {tie[1]: (tie[2], 1, tie) for tie in ties if tie[0] == of}
+def _best_from(links, of, many):
+    """For each job the worth of the best ways from one job, and the last tie of such a way; None if there is none."""
+    worths = [NOWHERE] * many
+    lasts = [None] * many
+    for before, after, step, tie in links:
+        if before == of:
+            worths[after] = step
+            lasts[after] = tie
     changed = True
     # without a standstill each ring costs a lead, so this comes to an end
     while changed:
         changed = False
-        for tie in ties:
-            if tie[0] in best and _betters(best, tie):
-                so_far = best[tie[0]]
-                best[tie[1]] = (so_far[0] + tie[2], so_far[1] + 1, tie)
+        for before, after, step, tie in links:
+            if worths[before] + step > worths[after]:
+                worths[after] = worths[before] + step
+                lasts[after] = tie
                 changed = True
-    return best
-
-
-def _betters(best, tie):
-    """Whether the best way to where the tie begins, and then the tie, is better at its end."""
-    before, after, total = tie
-    if after not in best:
-        return True
-    gain = best[before][0] + total - best[after][0]
-    return gain > 0 or (gain == 0 and best[before][1] + 1 < best[after][1])
+    return (worths, lasts)

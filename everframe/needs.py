@@ -3,35 +3,39 @@
 
 def needs(web):
     """The ascending tuple of the needs (before, after, back)."""
-    found = []
-    for buffer in web.buffers:
-        found.extend(_needs_in_frame(web.uses_of(buffer)))
-        found.extend(_needs_of_later_frames(web, buffer))
-    return tuple(sorted(set(found)))
+    return web.facts.needed
 
 
-def _needs_in_frame(uses):
-    """The needs between uses of one instance that stand in the same frame."""
-    found = []
+def needs_between(used):
+    """The needs, if each buffer has these uses (job, age, word) in list order."""
+    found = {}
+    for buffer in used:
+        found.update(_needs_of(used[buffer]))
+    return tuple(sorted(list(found)))
+
+
+def _needs_of(uses):
+    """A dict from the needs between the uses of one buffer to True."""
+    found = {}
     writer = None
     readers = []
+    later = []
     for job, age, word in uses:
         if age > 0:
-            continue
-        if word in ("read", "update"):
-            found.append((writer, job, 0))
-        if word == "read":
+            later.append((job, age))
+        elif word == "read":
+            found[writer, job, 0] = True
             readers.append(job)
         else:
-            found.extend([(reader, job, 0) for reader in readers])
+            if word == "update":
+                found[writer, job, 0] = True
+            if word == "carry":
+                later.append((job, 1))
+            for reader in readers:
+                found[reader, job, 0] = True
             writer = job
             readers = []
+    # what is written last is what later frames look at
+    for job, age in later:
+        found[writer, job, age] = True
     return found
-
-
-def _needs_of_later_frames(web, buffer):
-    last = web.writers(buffer)[-1]
-    uses = web.uses_of(buffer)
-    reads = [(last, job, age) for job, age, _ in uses if age > 0]
-    carries = [(last, job, 1) for job, _, word in uses if word == "carry"]
-    return [*reads, *carries]

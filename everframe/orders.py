@@ -2,17 +2,40 @@
 
 from everframe.errors import InvalidPlan
 from everframe.kinds import is_int, within
+from everframe.marks import marks_of, starts_of
 
 MOST_BACK = 4
 MOST_DEPTH = 4
 
 
+class Orders:
+    """Rows, waits and a depth that have been checked, with their ties; they never change."""
+
+    def __init__(self, row_of, listed_waits, limit):
+        self.row_of = row_of
+        self.listed_waits = listed_waits
+        self.limit = limit
+        self.tied = ties_of(row_of, listed_waits, limit)
+        # many orders are never asked for these, and many are asked again and again
+        self._starts = None
+        self._marks = None
+
+    def starts(self):
+        """For each job the most ties of a way in one frame to it, an empty dict with a standstill."""
+        if self._starts is None:
+            self._starts = starts_of(self.row_of, self.tied)
+        return self._starts
+
+    def marks(self):
+        """The marks of the jobs; there must be no standstill."""
+        if self._marks is None:
+            self._marks = marks_of(self.row_of, self.tied, self.starts())
+        return self._marks
+
+
 def listed_rows(web):
     """A dict from each queue that has jobs, ascending, to its jobs in list order."""
-    rows = {queue: [] for queue in web.queues}
-    for job in web.jobs:
-        rows[web.queue_of(job)].append(job)
-    return {queue: tuple(rows[queue]) for queue in rows}
+    return {queue: web.listed(queue) for queue in web.queues}
 
 
 def checked_rows(web, rows):
@@ -59,10 +82,10 @@ def ties_of(rows, waits, depth):
         ties.extend([(x, y, 0) for x, y in zip(row, row[1:])])
         ties.append((row[-1], row[0], -1))
     if depth is not None:
-        ties.extend(_depth_ties(rows, depth))
+        ties.extend([(rows[one][-1], rows[other][0], -depth) for one in rows for other in rows if one != other])
     # of the ties between two jobs the greatest comes last and replaces the others
-    greatest = {(before, after): lead for before, after, lead in sorted(ties)}
-    return tuple([(before, after, greatest[before, after]) for before, after in greatest])
+    greatest = {tie[:2]: tie for tie in sorted(ties)}
+    return tuple(greatest.values())
 
 
 def is_tie(ties, value):
@@ -71,11 +94,6 @@ def is_tie(ties, value):
         return False
     # False is no lead, though it equals 0
     return is_int(value[2]) and value in ties
-
-
-def _depth_ties(rows, depth):
-    pairs = [(one, other) for one in rows for other in rows if one != other]
-    return [(rows[one][-1], rows[other][0], -depth) for one, other in pairs]
 
 
 def _is_queue(listed, key):

@@ -108,15 +108,15 @@ def _may_follow(sort, before, sorts):
 
 def _is_written(word, kind):
     """Whether a word is written as one of its kind."""
+    if kind == "name":
+        return is_name(word)
     if kind in BOUNDS:
         low, high = BOUNDS[kind]
         return _is_number(word, low, high)
     parts = word.split(":")
-    if kind == "member":
-        return len(parts) == 2 and is_name(parts[0]) and _is_written(parts[1], "shift")
     if kind == "use":
         return _is_use_written(parts)
-    return kind == "name" and is_name(word)
+    return kind == "member" and len(parts) == 2 and is_name(parts[0]) and _is_written(parts[1], "shift")
 
 
 def _is_use_written(parts):
@@ -128,6 +128,7 @@ def _is_use_written(parts):
 
 
 def _is_number(word, low, high):
-    if len(word) < 1 or len(word) > 3 or not all(["0" <= sign <= "9" for sign in word]):
+    # an empty word has no digits
+    if len(word) > 3 or not word.isdigit() or not word.isascii():
         return False
-    return str(int(word)) == word and low <= int(word) <= high
+    return low <= int(word) <= high and (word[0] != "0" or word == "0")

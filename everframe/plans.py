@@ -2,7 +2,7 @@
 
 from everframe.errors import InvalidPlan
 from everframe.groups import checked_sharing
-from everframe.orders import checked_depth, checked_rows, checked_waits, is_wait, ties_of
+from everframe.orders import Orders, checked_depth, checked_rows, checked_waits, is_wait
 from everframe.parsing import parse_plan
 from everframe.texts import show_plan
 from everframe.webs import Web
@@ -15,11 +15,8 @@ class Plan:
 
     def __init__(self, web, *, rows=None, waits=(), depth=None, sharing=None):
         self._web = web
-        self._rows = checked_rows(web, rows)
-        self._waits = checked_waits(web, waits)
-        self._depth = checked_depth(depth)
+        self._orders = Orders(checked_rows(web, rows), checked_waits(web, waits), checked_depth(depth))
         self._sharing = checked_sharing(web, sharing)
-        self._tie_again()
 
     @property
     def web(self):
@@ -29,32 +26,29 @@ class Plan:
     @property
     def rows(self):
         """A new dict from the queues that have jobs, ascending, to their rows."""
-        return {queue: self._rows[queue] for queue in self._rows}
+        return {queue: self._orders.row_of[queue] for queue in self._orders.row_of}
 
     @rows.setter
     def rows(self, value):
-        self._rows = checked_rows(self._web, value)
-        self._tie_again()
+        self._orders = Orders(checked_rows(self._web, value), self._orders.listed_waits, self._orders.limit)
 
     @property
     def waits(self):
         """The ascending tuple of the waits."""
-        return self._waits
+        return self._orders.listed_waits
 
     @waits.setter
     def waits(self, value):
-        self._waits = checked_waits(self._web, value)
-        self._tie_again()
+        self._orders = Orders(self._orders.row_of, checked_waits(self._web, value), self._orders.limit)
 
     @property
     def depth(self):
         """The depth, or None."""
-        return self._depth
+        return self._orders.limit
 
     @depth.setter
     def depth(self, value):
-        self._depth = checked_depth(value)
-        self._tie_again()
+        self._orders = Orders(self._orders.row_of, self._orders.listed_waits, checked_depth(value))
 
     @property
     def sharing(self):
@@ -68,7 +62,7 @@ class Plan:
     @property
     def ties(self):
         """The ascending tuple of the ties that count."""
-        return self._ties
+        return self._orders.tied
 
     def set_rows(self, value):
         """Give the plan other rows."""
@@ -90,36 +84,44 @@ class Plan:
         """A new plan with this wait."""
         if not is_wait(self._web, wait):
             raise InvalidPlan("waits", 0)
-        return self._waiting([*self._waits, wait])
+        return self._waiting([*self._orders.listed_waits, wait])
 
     def without_wait(self, wait):
         """A new plan without this wait, which the plan must have."""
-        if not is_wait(self._web, wait) or wait not in self._waits:
+        if not is_wait(self._web, wait) or wait not in self._orders.listed_waits:
             raise InvalidPlan("waits", 0)
-        return self._waiting([one for one in self._waits if one != wait])
+        return self._waiting([one for one in self._orders.listed_waits if one != wait])
 
     def twin(self):
         """Another plan that is equal to this one."""
-        return self._waiting(self._waits)
+        return self._with(self._orders)
+
+    def starts(self):
+        """For each job the most ties of a way in one frame to it, an empty dict with a standstill."""
+        return self._orders.starts()
+
+    def marks(self):
+        """The marks of the jobs, from which all leads follow; there must be no standstill."""
+        return self._orders.marks()
 
     def __contains__(self, x):
         return x in self._web
 
     def __len__(self):
-        return len(self._waits)
+        return len(self._orders.listed_waits)
 
     def __eq__(self, other):
         return (
             isinstance(other, Plan)
             and self._web == other._web
-            and self._rows == other._rows
-            and self._waits == other._waits
-            and self._depth == other._depth
+            and self._orders.row_of == other._orders.row_of
+            and self._orders.listed_waits == other._orders.listed_waits
+            and self._orders.limit == other._orders.limit
             and self._sharing == other._sharing
         )
 
     def __repr__(self):
-        return f"Plan({len(self._web)} jobs, {len(self._waits)} waits)"
+        return f"Plan({len(self._web)} jobs, {len(self._orders.listed_waits)} waits)"
 
     def __str__(self):
         return str(show_plan(self))
@@ -133,8 +135,12 @@ class Plan:
 
     def _waiting(self, waits):
         """A new plan that has these waits, and all else from this one."""
-        return Plan(self._web, rows=self._rows, waits=waits, depth=self._depth, sharing=self._sharing)
+        return self._with(Orders(self._orders.row_of, tuple(sorted(set(waits))), self._orders.limit))
 
-    def _tie_again(self):
-        # kept with the plan, since each lead asks for the ties
-        self._ties = ties_of(self._rows, self._waits, self._depth)
+    def _with(self, orders):
+        """A new plan that has these orders, and all else from this one."""
+        other = Plan(self._web)
+        # both have been checked, and they never change
+        other._orders = orders
+        other._sharing = self._sharing
+        return other

@@ -5,6 +5,8 @@ from everframe.errors import Standstill
 
 def find_ring(plan):
     """A standstill of the plan, None if there is none."""
+    if plan.starts():
+        return None
     # no lead is above 0, so each tie of such a ring has the lead 0
     ties = [tie for tie in plan.ties if tie[2] == 0]
     stuck = list(plan.web.jobs)
@@ -12,7 +14,7 @@ def find_ring(plan):
     while len(entered) < len(stuck):
         stuck = entered
         entered = _entered(stuck, ties)
-    return _ring_among(stuck, ties) if stuck else None
+    return _ring_among(stuck, ties)
 
 
 def refuse_standstill(plan):

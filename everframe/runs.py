@@ -1,9 +1,9 @@
 """Runs of a plan, step by step."""
 
-from everframe.acts import Act, awaited_by, slots_of, spot_at, spots_of
-from everframe.contents import finds_done, finds_left_out, last_content, last_done, right_content
+from everframe.contents import finds_done, finds_left_out
 from everframe.errors import CannotLeaveOut, NoBuffer, NoJob, NotReady, TooMany
 from everframe.kinds import is_int
+from everframe.memory import Memory
 
 
 class Run:
@@ -13,14 +13,11 @@ class Run:
 
     def __init__(self, plan):
         self._plan = plan.twin()
-        self._awaited = awaited_by(plan.web.jobs, plan.ties)
-        self._spots = spots_of(plan.sharing)
-        self._acts = {}
+        self._acts = plan.web.facts.acts
+        self._awaited = _awaited_by(plan.web.jobs, plan.ties)
         self._frames = {job: 0 for job in plan.web.jobs}
-        self._slots = slots_of(plan.sharing)
-        self._passed = {}
+        self._memory = Memory(self._acts, plan.sharing)
         self._steps = []
-        self._wrong = []
 
     @property
     def web(self):
@@ -40,7 +37,7 @@ class Run:
     @property
     def wrong(self):
         """The tuple of the wrong finds (job, frame, find, expected) in their order."""
-        return tuple(self._wrong)
+        return tuple(self._memory.mistakes)
 
     def frame(self, job):
         """The frame of the next step of a job."""
@@ -63,25 +60,22 @@ class Run:
         """The right finds of the next step of a job, if it is done or left out."""
         if left_out:
             self._ask_optional(job)
-            return finds_left_out(self._act(job).carried, self._frames[job], self._passed)
+            return finds_left_out(self._acts[job].carried, self._frames[job], self._memory.passed)
         self._ask_job(job)
-        return finds_done(self._act(job).looks, self._frames[job], self._passed)
+        return finds_done(self._acts[job].looks, self._frames[job], self._memory.passed)
 
     def content(self, buffer, frame):
         """The content of the slot in which the buffer of this frame lives."""
         if buffer not in self._plan.web.buffers:
             raise NoBuffer(buffer)
-        return self._slots[spot_at(self._spots[buffer], frame)]
+        return self._memory.content(buffer, frame)
 
     def twin(self):
         """Another run in the same state, which goes on by itself."""
         other = Run(self._plan)
-        other._acts = dict(self._acts)
         other._frames = dict(self._frames)
-        other._slots = list(self._slots)
-        other._passed = {step: self._passed[step] for step in self._passed}
+        other._memory = self._memory.twin()
         other._steps = list(self._steps)
-        other._wrong = list(self._wrong)
         return other
 
     @classmethod
@@ -117,7 +111,7 @@ class Run:
 
     def _ask_optional(self, job):
         self._ask_job(job)
-        if not self._act(job).optional:
+        if not self._acts[job].optional:
             raise CannotLeaveOut(job)
 
     def _ask_turn(self, job):
@@ -135,63 +129,24 @@ class Run:
                 return False
         return True
 
-    def _act(self, job):
-        # made at the first step of the job and kept, as a run has many steps
-        if job not in self._acts:
-            self._acts[job] = Act(self._plan.web, job, self._spots)
-        return self._acts[job]
-
     def _do(self, job):
-        act = self._act(job)
         frame = self._frames[job]
-        slots = self._slots
-        for base, count, shift in act.cleared:
-            slots[base + (frame + shift) % count] = None
-        finds = self._finds(job, act.seen) if act.seen else ()
-        for buffer, (base, count, shift) in act.written:
-            slots[base + (frame + shift) % count] = (job, frame, buffer)
-        self._end_step(job, False)
+        finds = self._memory.do_step(job, frame)
+        self._steps.append((job, frame, False))
+        self._frames[job] = frame + 1
         return finds
-
-    def _finds(self, job, seen):
-        """What the next step of a job finds where it looks; what is wrong is noted."""
-        frame = self._frames[job]
-        finds = []
-        for look, (base, count, shift) in seen:
-            at = frame - look[1]
-            if at >= 0:
-                find = (look[0], at, self._slots[base + (at + shift) % count])
-                due = right_content(look, at, self._passed)
-                if find[2] != due:
-                    self._wrong.append((job, frame, find, (look[0], at, due)))
-                finds.append(find)
-        return tuple(finds)
 
     def _leave_out(self, job):
         frame = self._frames[job]
-        act = self._act(job)
-        finds = self._finds_left_out(job, act.carried) if frame > 0 else ()
-        # a job that may be left out makes one buffer only, so there is one find at most
-        for buffer, _ in act.carried:
-            before = finds[0][2] if frame > 0 else None
-            self._slots[spot_at(self._spots[buffer], frame)] = before
-        self._passed[job, frame] = last_done(self._passed, job, frame - 1)
-        self._end_step(job, True)
+        finds = self._memory.leave_step(job, frame)
+        self._steps.append((job, frame, True))
+        self._frames[job] = frame + 1
         return finds
 
-    def _finds_left_out(self, job, carried):
-        """What the next step of a job finds if it is left out; what is wrong is noted."""
-        frame = self._frames[job]
-        finds = []
-        for buffer, last in carried:
-            find = (buffer, frame - 1, self._slots[spot_at(self._spots[buffer], frame - 1)])
-            due = last_content(buffer, last, frame - 1, self._passed)
-            if find[2] != due:
-                self._wrong.append((job, frame, find, (buffer, frame - 1, due)))
-            finds.append(find)
-        return tuple(finds)
 
-    def _end_step(self, job, is_left_out):
-        frame = self._frames[job]
-        self._steps.append((job, frame, is_left_out))
-        self._frames[job] = frame + 1
+def _awaited_by(jobs, ties):
+    """A dict from each job to the pairs of a job and a lead that it has to wait for."""
+    awaited = {job: [] for job in jobs}
+    for before, after, total in ties:
+        awaited[after].append((before, total))
+    return awaited

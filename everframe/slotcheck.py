@@ -3,23 +3,22 @@
 from everframe.costs import costs_between
 from everframe.errors import InvalidCertificate
 from everframe.kinds import is_int
-from everframe.leading import leads_between
-from everframe.lives import kept_buffers
+from everframe.rings import refuse_standstill
 from everframe.sharings import is_sharing
 from everframe.verdicts import faults
 
 
 def check_slots(plan, thing):
     """True for what `fewest_slots` may return; otherwise InvalidCertificate tells what is wrong."""
-    leads = leads_between(plan)
+    refuse_standstill(plan)
     if not _is_told(thing):
         raise InvalidCertificate("shape", -1)
     if thing[0] == "slots":
-        _check_count(plan, leads, thing[1], thing[2], thing[3])
+        _check_count(plan, thing[1], thing[2], thing[3])
     elif thing[0] == "endless":
         _check_endless(plan, thing[1], thing[2], thing[3])
     else:
-        _check_kept(plan.web, leads, thing[1], thing[2])
+        _check_kept(plan.web, plan.marks(), thing[1], thing[2])
     return True
 
 
@@ -36,7 +35,7 @@ def _is_told(thing):
     return thing[0] == "kept" and len(thing) == 3
 
 
-def _check_count(plan, leads, many, sharing, crowd):
+def _check_count(plan, many, sharing, crowd):
     web = plan.web
     if not is_sharing(web, sharing):
         raise InvalidCertificate("sharing", -1)
@@ -45,7 +44,7 @@ def _check_count(plan, leads, many, sharing, crowd):
     clashing = [web.buffers.index(fault[1]) for fault in list(faults(shared)) if fault[0] != "need"]
     if clashing:
         raise InvalidCertificate("clash", min(clashing))
-    _check_crowd(web, costs_between(web, leads), crowd)
+    _check_crowd(web, costs_between(web, plan.marks()), crowd)
     counts = [count for count, _ in sharing]
     sizes = [last - first + 1 for _, first, last in crowd]
     if many != sum(counts) or many != sum(sizes):
@@ -53,7 +52,7 @@ def _check_count(plan, leads, many, sharing, crowd):
 
 
 def _check_crowd(web, costs, crowd):
-    kept = kept_buffers(web)
+    kept = web.facts.kept
     for at, (buffer, entry) in enumerate(zip(web.buffers, crowd)):
         if not _is_entry(buffer, buffer in kept, entry):
             raise InvalidCertificate("crowd", at)
@@ -82,13 +81,13 @@ def _go_together(costs, one, other):
 
 def _is_unordered(costs, one, other):
     """Whether no instance of one buffer is over before an instance of the other one begins."""
-    worth = costs[one[0], other[0]]
+    worth = costs[one[0]][other[0]]
     return worth is None or other[2] - one[1] < worth
 
 
 def _check_endless(plan, buffer, user, jobs):
     web = plan.web
-    if buffer not in web.buffers or buffer in kept_buffers(web):
+    if buffer not in web.buffers or buffer in web.facts.kept:
         raise InvalidCertificate("buffer", -1)
     if user not in [job for job, _, _ in web.uses_of(buffer)]:
         raise InvalidCertificate("user", -1)
@@ -103,10 +102,10 @@ def _are_jobs(web, jobs):
     return all([job in web for job in jobs]) and list(jobs) == sorted(set(jobs))
 
 
-def _check_kept(web, leads, buffer, user):
-    if buffer not in kept_buffers(web):
+def _check_kept(web, marks, buffer, user):
+    if buffer not in web.facts.kept:
         raise InvalidCertificate("buffer", -1)
     maker = web.maker(buffer)
     uses = [(job, age) for job, age, _ in web.uses_of(buffer) if job == user]
-    if all([(job, maker) in leads and age - leads[job, maker] <= 1 for job, age in uses]):
+    if all([marks.follows(job, maker, 1 - age) for job, age in uses]):
         raise InvalidCertificate("user", -1)

@@ -2,23 +2,22 @@
 
 from everframe.assigning import Order
 from everframe.costs import costs_between
-from everframe.fewest import alike, hindrance, sharing_of
-from everframe.leading import leads_between
-from everframe.lives import kept_buffers
+from everframe.fewest import hindrance, sharing_of
+from everframe.rings import refuse_standstill
 
 
 def fewest_slots(plan):
     """("kept", buffer, user), ("endless", buffer, user, jobs) or ("slots", many, sharing, crowd)."""
-    web = plan.web
-    leads = leads_between(plan)
-    costs = costs_between(web, leads)
+    refuse_standstill(plan)
+    web, marks = plan.web, plan.marks()
+    costs = costs_between(web, marks)
     hindered = hindrance(web, costs)
     if hindered is not None and hindered[0] == "kept":
-        return (*hindered, _late_user(web, leads, hindered[1]))
+        return (*hindered, _late_user(web, marks, hindered[1]))
     if hindered is not None:
-        return (*hindered, *_loose_user(web, leads, hindered[1]))
-    orders = [Order(buffers, costs) for buffers in alike(web)]
-    crowd = [(one, 0, 0) for one in kept_buffers(web)]
+        return (*hindered, *_loose_user(web, marks, hindered[1]))
+    orders = [Order(buffers, costs) for buffers in web.facts.alike]
+    crowd = [(one, 0, 0) for one in web.facts.kept]
     for order in orders:
         crowd.extend(_crowd_of(order))
     sharing = sharing_of(web, orders, costs)
@@ -28,22 +27,21 @@ def fewest_slots(plan):
 def _crowd_of(order):
     """A crowd of just as many instances as the order has slots."""
     # no end is below its own first: a cost is at most the sum of two by way of a third buffer
-    least = min([order.first[one] for one in order.first])
-    return [(one, order.first[one] - least, order.ends[one] - 1 - least) for one in order.first]
+    least = min(order.first.values())
+    return [(one, first - least, order.ends[one] - 1 - least) for one, first in order.first.items()]
 
 
-def _late_user(web, leads, buffer):
+def _late_user(web, marks, buffer):
     """The first user of a kept buffer that may come too late for its next instance."""
     maker = web.maker(buffer)
-    uses = web.uses_of(buffer)
-    late = [job for job, age, _ in uses if (job, maker) not in leads or age - leads[job, maker] > 1]
+    late = [job for job, age, _ in web.uses_of(buffer) if not marks.follows(job, maker, 1 - age)]
     return late[0]
 
 
-def _loose_user(web, leads, buffer):
+def _loose_user(web, marks, buffer):
     """The first user that the maker need not await, and the jobs that can go on without it."""
     maker = web.maker(buffer)
-    loose = [job for job, _, _ in web.uses_of(buffer) if (job, maker) not in leads]
+    loose = [job for job, _, _ in web.uses_of(buffer) if marks.lead(job, maker) is None]
     # the maker is among them, as its row leads back to it
-    jobs = sorted([job for job in web.jobs if (job, maker) in leads])
+    jobs = sorted([job for job in web.jobs if marks.lead(job, maker) is not None])
     return (loose[0], tuple(jobs))

@@ -46,7 +46,7 @@ def followers_in(sharing, costs):
 
 def _count_before(one, names, frame, costs):
     """How many buffers are over before this one in the slot in which they live in the same frame."""
-    return len([other for other in names if frame[other] == frame[one] and costs[other, one] == 0])
+    return len([other for other in names if frame[other] == frame[one] and costs[other][one] == 0])
 
 
 def _count_ahead(leads, use, uses):

@@ -3,9 +3,8 @@
 from everframe.assigning import Order
 from everframe.costs import costs_between
 from everframe.errors import NoBuffer
-from everframe.fewest import alike, sharing_of
+from everframe.fewest import sharing_of
 from everframe.leading import leads_between
-from everframe.lives import kept_buffers
 from everframe.slots import fewest_slots
 from everframe.staterows import inner_changes, row_of_states, rows_of_states, turns
 
@@ -28,10 +27,10 @@ def fewest_changes(plan, wishes):
     found = fewest_slots(plan)
     if found[0] != "slots":
         return found
-    costs = costs_between(web, leads)
-    weights = {(r, s): _weight(costs[r, s], turns(rows, r, s)) for r, s in costs}
-    orders = [Order(buffers, weights) for buffers in alike(web)]
-    changes = inner_changes(rows) + sum([turns(rows, one, one) for one in kept_buffers(web)])
+    costs = costs_between(web, plan.marks())
+    weights = {r: {s: _weight(costs[r][s], turns(rows, r, s)) for s in costs[r]} for r in costs}
+    orders = [Order(buffers, weights) for buffers in web.facts.alike]
+    changes = inner_changes(rows) + sum([turns(rows, one, one) for one in web.facts.kept])
     prices = []
     for order in orders:
         changes += sum([turns(rows, one, order.followers[one]) for one in order.followers])

@@ -2,7 +2,6 @@
 
 from everframe.costs import costs_between
 from everframe.groups import places, slot_at
-from everframe.leading import leads_between
 from everframe.rings import refuse_standstill
 
 HEAD = 8
@@ -11,12 +10,15 @@ COLUMN = 9
 
 def lead_grid(plan):
     """A table with the lead of each line's job on each column's job."""
-    return _grid(plan.web.jobs, leads_between(plan))
+    refuse_standstill(plan)
+    jobs, marks = plan.web.jobs, plan.marks()
+    return _grid(jobs, {of: {job: marks.lead(of, job) for job in jobs} for of in jobs})
 
 
 def cost_grid(plan):
     """A table with the cost of each column's buffer behind each line's buffer."""
-    return _grid(plan.web.buffers, costs_between(plan.web, leads_between(plan)))
+    refuse_standstill(plan)
+    return _grid(plan.web.buffers, costs_between(plan.web, plan.marks()))
 
 
 def slot_grid(plan, *, frames=6):
@@ -33,10 +35,10 @@ def slot_grid(plan, *, frames=6):
 
 
 def _grid(names, numbers):
-    """A table with a line and a column for each name; a pair without a number has None."""
+    """A table with a line and a column for each name, by a dict of dicts of numbers."""
     lines = [_line("", names)]
     for one in names:
-        lines.append(_line(one, [_cell(numbers.get((one, other))) for other in names]))
+        lines.append(_line(one, [_cell(numbers[one][other]) for other in names]))
     return "\n".join(lines)
 
 

@@ -12,66 +12,69 @@ def check_web(jobs, sizes):
     if len(jobs) < 1 or len(jobs) > MOST_JOBS:
         raise InvalidWeb("count", None)
     # each check relies on those before it
-    _refuse_first("job", jobs, _is_no_job)
-    _refuse_first("name", jobs, _has_taken_name)
-    _refuse_first("uses", jobs, _has_clashing_uses)
-    _refuse_first("maker", jobs, _has_wrong_maker)
-    _refuse_first("ahead", jobs, _is_ahead_of_maker)
-    buffers = [name for job in jobs for name in made_by(job)]
-    if len(buffers) > MOST_BUFFERS:
+    for at, job in enumerate(jobs):
+        if not is_job(job):
+            raise InvalidWeb("job", at)
+    _check_names(jobs)
+    for at, job in enumerate(jobs):
+        if not _go_together(job[2]):
+            raise InvalidWeb("uses", at)
+    makers = _checked_makers(jobs)
+    _check_order(jobs, makers)
+    if len(makers) > MOST_BUFFERS:
         raise InvalidWeb("buffers", None)
-    _refuse_first("unread", jobs, _makes_unread)
-    if not _are_sizes(sizes, buffers):
+    _check_looks(jobs)
+    if not _are_sizes(sizes, makers):
         raise InvalidWeb("sizes", None)
 
 
-def made_by(job):
-    """The buffers that a job makes, keeps or carries."""
-    return [use[1] for use in job[2] if use[0] in MAKING]
+def _check_names(jobs):
+    """Refuse the first job with a name that an earlier job or a buffer has."""
+    taken = {use[1]: True for job in jobs for use in job[2]}
+    for at, job in enumerate(jobs):
+        if job[0] in taken:
+            raise InvalidWeb("name", at)
+        taken[job[0]] = True
 
 
-def _refuse_first(reason, jobs, is_wrong):
-    for at in range(len(jobs)):
-        if is_wrong(jobs, at):
-            raise InvalidWeb(reason, at)
-
-
-def _is_no_job(jobs, at):
-    return not is_job(jobs[at])
-
-
-def _has_taken_name(jobs, at):
-    name = jobs[at][0]
-    if name in [job[0] for job in jobs[:at]]:
+def _go_together(uses):
+    """Whether one job may have all these uses."""
+    if len(uses) < 2:
         return True
-    return name in [use[1] for job in jobs for use in job[2]]
-
-
-def _has_clashing_uses(jobs, at):
-    uses = jobs[at][2]
     if len(set([(use[1], age_of(use)) for use in uses])) < len(uses):
-        return True
-    writing = [use for use in uses if use[0] != "read"]
-    return len(writing) > 1 and any([use[0] in OPTIONAL for use in writing])
+        return False
+    writing = [use[0] for use in uses if use[0] != "read"]
+    return len(writing) < 2 or not any([word in OPTIONAL for word in writing])
 
 
-def _has_wrong_maker(jobs, at):
-    before = [name for job in jobs[:at] for name in made_by(job)]
-    if any([name in before for name in made_by(jobs[at])]):
-        return True
-    made = [name for job in jobs for name in made_by(job)]
-    return any([use[1] not in made for use in jobs[at][2]])
+def _checked_makers(jobs):
+    """The index of the maker of each buffer; refuse a second maker, and a use of what nobody makes."""
+    made = {use[1]: True for job in jobs for use in job[2] if use[0] in MAKING}
+    makers = {}
+    for at, job in enumerate(jobs):
+        for use in job[2]:
+            if use[1] not in made:
+                raise InvalidWeb("maker", at)
+            # the job itself has no second use that makes this buffer
+            if use[0] in MAKING and makers.setdefault(use[1], at) != at:
+                raise InvalidWeb("maker", at)
+    return makers
 
 
-def _is_ahead_of_maker(jobs, at):
-    before = [name for job in jobs[:at] for name in made_by(job)]
-    now = [use for use in jobs[at][2] if use[0] not in MAKING and age_of(use) == 0]
-    return any([use[1] not in before for use in now])
+def _check_order(jobs, makers):
+    """Refuse the first job that looks at a buffer of its frame ahead of its maker."""
+    for at, job in enumerate(jobs):
+        for use in job[2]:
+            if makers[use[1]] >= at and use[0] not in MAKING and age_of(use) == 0:
+                raise InvalidWeb("ahead", at)
 
 
-def _makes_unread(jobs, at):
-    looked = [use[1] for job in jobs for use in job[2] if use[0] not in MAKING]
-    return any([name not in looked for name in made_by(jobs[at])])
+def _check_looks(jobs):
+    """Refuse the first maker of a buffer at which nobody looks."""
+    seen = {use[1]: True for job in jobs for use in job[2] if use[0] not in MAKING}
+    for at, job in enumerate(jobs):
+        if not all([use[1] in seen for use in job[2]]):
+            raise InvalidWeb("unread", at)
 
 
 def _are_sizes(sizes, buffers):

@@ -1,10 +1,11 @@
 """Webs: the jobs of one frame and the buffers that they use."""
 
 from everframe.errors import NoBuffer, NoJob
-from everframe.kinds import OPTIONAL, age_of
+from everframe.facts import Facts
+from everframe.kinds import MAKING, age_of
 from everframe.parsing import parse_web
 from everframe.texts import show_web
-from everframe.webrules import check_web, made_by
+from everframe.webrules import check_web
 
 
 class Web:
@@ -19,11 +20,14 @@ class Web:
         self._names = tuple([job[0] for job in jobs])
         self._queue = {job[0]: job[1] for job in jobs}
         self._uses = {job[0]: job[2] for job in jobs}
-        self._maker = {name: job[0] for job in jobs for name in made_by(job)}
-        self._buffers = tuple(sorted(list(self._maker)))
+        self._buffers = tuple(sorted([use[1] for job in jobs for use in job[2] if use[0] in MAKING]))
         given = {} if sizes is None else sizes
         self._size = {name: given.get(name, 1) for name in self._buffers}
-        self._used = {name: _uses_of(jobs, name) for name in self._buffers}
+        self._used = _uses_by_buffer(jobs, self._buffers)
+        self._listed = _jobs_by_queue(jobs)
+        self._queues = tuple(list(self._listed))
+        # all that asks about plans of this web asks for these
+        self.facts = Facts(jobs, self._used, self._size)
 
     @property
     def jobs(self):
@@ -38,12 +42,16 @@ class Web:
     @property
     def queues(self):
         """The ascending tuple of the queues that have jobs."""
-        return tuple(sorted(set([job[1] for job in self._jobs])))
+        return self._queues
 
     @property
     def sizes(self):
         """A new dict from each buffer, ascending, to its size."""
         return {name: self._size[name] for name in self._buffers}
+
+    def listed(self, queue):
+        """The jobs of a queue that has jobs, in list order."""
+        return self._listed[queue]
 
     def queue_of(self, job):
         """The queue of a job."""
@@ -58,7 +66,7 @@ class Web:
     def maker(self, buffer):
         """The job that makes, keeps or carries a buffer."""
         self._ask_buffer(buffer)
-        return self._maker[buffer]
+        return self.facts.makers[buffer]
 
     def size(self, buffer):
         """The size of a buffer."""
@@ -78,7 +86,7 @@ class Web:
     def can_be_left_out(self, job):
         """Whether a job has a keep or a carry."""
         self._ask_job(job)
-        return any([use[0] in OPTIONAL for use in self._uses[job]])
+        return self.facts.acts[job].optional
 
     def __contains__(self, x):
         return isinstance(x, str) and x in self._queue
@@ -110,6 +118,16 @@ class Web:
             raise NoBuffer(buffer)
 
 
-def _uses_of(jobs, buffer):
-    found = [(job[0], age_of(use), use[0]) for job in jobs for use in job[2] if use[1] == buffer]
-    return tuple(found)
+def _uses_by_buffer(jobs, buffers):
+    """A dict from each buffer to the tuple of (job, age, word) for its uses, in list order."""
+    used = {name: [] for name in buffers}
+    for name, _, uses in jobs:
+        for use in uses:
+            used[use[1]].append((name, age_of(use), use[0]))
+    return {name: tuple(used[name]) for name in buffers}
+
+
+def _jobs_by_queue(jobs):
+    """A dict from each queue that has jobs, ascending, to the tuple of its jobs in list order."""
+    queues = sorted(set([queue for _, queue, _ in jobs]))
+    return {queue: tuple([name for name, at, _ in jobs if at == queue]) for queue in queues}

@@ -17,7 +17,7 @@ BUILTINS = {
 METHODS = set(
     "append clear copy count endswith extend find get index insert isalnum isalpha isdigit islower isspace isupper "
     "items join keys ljust lower lstrip partition pop remove replace reverse rfind rjust rpartition rsplit rstrip "
-    "setdefault split splitlines startswith strip update upper values zfill bit_length add discard".split()
+    "setdefault split splitlines startswith strip update upper values zfill bit_length add discard isascii".split()
 )
 DOUBLE = set(
     "__init__ __eq__ __repr__ __str__ __len__ __enter__ __exit__ __call__ __iter__ __contains__ __add__ __mul__ "
