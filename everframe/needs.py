@@ -10,7 +10,8 @@ def needs_between(used):
     """The needs, if each buffer has these uses (job, age, word) in list order."""
     found = {}
     for buffer in used:
-        found.update(_needs_of(used[buffer]))
+        for need in _needs_of(used[buffer]):
+            found[need] = True
     return tuple(sorted(list(found)))
 
 
